@@ -1,0 +1,1 @@
+"""Stepsunread: what traces surely tell of steps that nobody can read."""

@@ -1,0 +1,99 @@
+"""How a world goes through a book: what stands behind each event, what is not as noted."""
+
+from stepsunread.books import pairs_of
+from stepsunread.events import body_of, link_of
+from stepsunread.machines import Machine
+from stepsunread.noted import is_end_as, is_read_as, is_row_as, is_way_as
+
+
+def come(machine, event, contents):
+    """The event comes; contents is what hands are still to write. Whether it is as noted."""
+    word, name = event[0], event[1]
+    if word == "set":
+        content = contents.pop(0)
+        machine.write((name,), (content,))
+        return event[2] in (None, content)
+    if word == "saw":
+        return event[2] in (None, machine.content(name))
+    if word == "run":
+        way, end = machine.run_whole(name)
+        return is_way_as(event[2], way) and is_end_as(event[3], end)
+    if word == "begin":
+        machine.start(name)
+        return True
+    if word == "reads":
+        return read_parts(machine, name, event[2])
+    if word == "end":
+        reads, end = machine.finish_run(name)
+        return reads == () and is_end_as(event[2], end)
+    return break_off(machine, name, event[2])
+
+
+def read_parts(machine, step, parts):
+    """The run reads on as often as there are parts. Whether it is as noted."""
+    is_noted = True
+    for part in parts:
+        read = machine.read_next(step)
+        is_noted = is_noted and read is not None and is_read_as(part, read)
+    return is_noted
+
+
+def break_off(machine, step, wrote):
+    """The run is broken off behind so many files. Whether it is as noted."""
+    if wrote == ():
+        machine.leave(step)
+        return True
+    reads, end = machine.close(step, len(wrote))
+    return reads == () and end != "fail" and is_row_as(wrote, end)
+
+
+class Passage:
+    """A world that has gone through a book.
+
+    rows: for each log its stands; misfits: the marks of events that are not as noted.
+    """
+
+    def __init__(self, work, book, world):
+        self.work = work
+        self.book = book
+        self.crew, self.firsts, self.hands, self.weaves = world
+        self.rows = [[] for log in book]
+        self.misfits = []
+        # The stand at the end of each log: one for both of a pair.
+        self.lasts = {}
+        partners = dict(pairs_of(book))
+        for number, log in enumerate(book):
+            link = link_of(log)
+            if link is None or link[0] == "after":
+                self.go_from(number, partners.get(number))
+
+    def go_from(self, number, partner):
+        """Go through the log of this number, and the one beside it, if any."""
+        link = link_of(self.book[number])
+        stand = self.firsts[number] if link is None else self.lasts[link[1]]
+        machine = Machine(self.work, self.crew, stand)
+        numbers = [number] if partner is None else [number, partner]
+        left = {}
+        for log in numbers:
+            many = len(self.book[log]) - len(body_of(self.book[log]))
+            self.rows[log] = [stand] * (many + 1)
+            left[log] = list(self.hands[log])
+        for log in self.sequence(number, partner):
+            self.go_on(machine, log, left[log])
+        for log in numbers:
+            self.lasts[log] = machine.stand
+
+    def sequence(self, number, partner):
+        """The numbers of the logs whose next events come, in the sequence in which they come."""
+        if partner is None:
+            return [number] * len(body_of(self.book[number]))
+        return [partner if item == 1 else number for item in self.weaves[partner]]
+
+    def go_on(self, machine, log, contents):
+        """The next event of the log comes."""
+        row = self.rows[log]
+        # A log has one stand more than events: so behind its first ones this is the next.
+        event = len(row) - 1
+        if not come(machine, self.book[log][event], contents):
+            self.misfits.append((log, event))
+        row.append(machine.stand)

@@ -1,0 +1,21 @@
+"""The words of which texts are made: names and numbers."""
+
+MOST_LETTERS = 8
+MOST_DIGITS = 9
+
+
+def is_name(word):
+    """Whether the word is 1 to 8 letters a to z."""
+    if not 1 <= len(word) <= MOST_LETTERS:
+        return False
+    return word.isascii() and word.isalpha() and word.islower()
+
+
+def number(word):
+    """The number that the word writes, or -1 where it writes none."""
+    # The length comes first: Python itself refuses to read very long numbers.
+    if len(word) > MOST_DIGITS or not (word.isascii() and word.isdigit()):
+        return -1
+    if word[0] == "0" and word != "0":
+        return -1
+    return int(word)

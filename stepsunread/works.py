@@ -1,0 +1,51 @@
+"""Works: files, and steps that read and write them."""
+
+from stepsunread.drafts import read_draft
+from stepsunread.errors import NoFile, NoStep
+
+
+class Work:
+    """A work, by its text: BadWork."""
+
+    def __init__(self, text):
+        draft = read_draft(text)
+        self.text = text
+        # What is told of each step, by its name: see part_of.
+        self.parts = draft.parts
+        self.files = tuple(draft.widths)
+        self.sizes = tuple(draft.widths.values())
+        self.steps = tuple(draft.parts)
+        self.kinds = tuple([part.kind for part in draft.parts.values()])
+        self.mosts = tuple([part.most for part in draft.parts.values()])
+        self.sources = tuple([file for file in self.files if self.maker(file) is None])
+
+    def __eq__(self, other):
+        return isinstance(other, Work) and self.text == other.text
+
+    def reads(self, step):
+        """The files that the step reads: NoStep."""
+        return part_of(self, step).inputs
+
+    def writes(self, step):
+        """The files that the step writes: NoStep."""
+        return part_of(self, step).outputs
+
+    def claims(self, step):
+        """The texts of the claims of the step: NoStep."""
+        return part_of(self, step).claimed
+
+    def maker(self, file):
+        """The step that writes the file, None of a source: NoFile."""
+        if file not in self.files:
+            raise NoFile(file)
+        for part in self.parts.values():
+            if file in part.outputs:
+                return part.name
+        return None
+
+
+def part_of(work, step):
+    """What the work tells of the step: NoStep."""
+    if step not in work.steps:
+        raise NoStep(step)
+    return work.parts[step]
