@@ -61,7 +61,7 @@ class Draft:
 
     def is_between_steps(self):
         """Whether there is a file, and the last step, if any, has all that it needs."""
-        return bool(self.widths) and (self.last is None or self.last.outputs != ())
+        return bool(self.widths) and (self.last is None or self.is_whole())
 
     def is_whole(self):
         """Whether nothing lacks at the end."""

@@ -223,7 +223,11 @@ class CountsTest(unittest.TestCase):
         self.assertEqual(with_facts(Work(text.format(3)), "s", (((("a", 0),), ("read", "b")),)), 0)
         self.assertEqual(with_facts(Work(text.format(3)), "s", (((("a", 0),), ("end", (0, 0))),)), 0)
         self.assertEqual(with_facts(Work(text.format(3)), "s", (((("c", 0),), ("read", "a")),)), 0)
+        swapped = ((("c", 2), ("a", 0), ("b", 1)), ("end", (0, 1)))
+        self.assertEqual(with_facts(Work(text.format(3)), "s", (swapped,)), 0)
+        self.assertEqual(with_facts(Work(text.format(3)), "s", (((("b", 0),), ("read", "c")),)), 0)
         self.assertEqual(things(Work(text.format(3)), "s", (), (("a", 2), ("c", 1))), (("read", "b"),))
+        self.assertEqual(things(Work(text.format(3)), "s", (), (("a", 2), ("b", 1))), ())
 
 
 class FactsTest(unittest.TestCase):

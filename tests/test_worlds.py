@@ -8,7 +8,7 @@ from stepsunread.errors import BadBook, BadWorld
 from stepsunread.works import Work
 from stepsunread.worlds import fits, is_world, misfits, stands
 from tests import reference
-from tests.samples import ANY, MILL, told_of
+from tests.samples import ANY, MILL, YARD, told_of
 from tests.stories import Story, blotted, chance_links
 
 CUT = ("read", "a", (("end", (2,)), ("read", "b", (("end", (0,)), ("fail",)))))
@@ -96,6 +96,20 @@ class IsWorldTest(unittest.TestCase):
             head + (((), row[:-1] + (None,)),), (CREW, (first, first)) + head[2:] + (((), row),),
             (CREW, ((), first)) + head[2:] + (((), row),), head[:2] + (((), (0,)), ((), row))]
         self.check((one, other), good, bad)
+
+    def test_weavings_of_other_numbers(self):
+        book = ((("saw", "a", 0),), (("beside", 0), ("saw", "a", 0), ("saw", "b", 0)))
+        head = (CREW, ((0, 0, 0), ()), ((), ()))
+        good = [head + (((), row),) for row in ((0, 1, 1), (1, 0, 1), (1, 1, 0))]
+        bad = [head + (((), row),) for row in itertools.product((-1, 0, 1, 2), repeat=3) if sorted(row) != [0, 1, 1]]
+        self.check(book, good, bad)
+
+    def test_events_of_a_file_called_like_a_step(self):
+        book = ((("begin", "a"), ("end", "a", None)), (("beside", 0), ("set", "a", 0), ("saw", "a", 0)))
+        crew = ("fail",), ("read", "c", (("end", (1,)), ("end", (0,))))
+        head = (crew, ((0, 0, 0, 0, 0), ()), ((), (0,)))
+        good = [head + (((), row),) for row in set(itertools.permutations((0, 0, 1, 1)))]
+        self.check(book, good, [head + (((), (0, 1, 1)),)], YARD)
 
     def test_beside_a_log_with_after(self):
         book = ((("set", "a", 0),), (("after", 0), ("saw", "a", 0)), (("beside", 1), ("saw", "b", 0)))
