@@ -1,10 +1,12 @@
 """Logs and books."""
 
-from stepsunread.events import LINKS, body_of, is_event, link_of
+from stepsunread.events import HANDS, LINKS, body_of, is_event, link_of
 from stepsunread.weavings import STOPS, has_weaving
 
 MOST_EVENTS = 20
 MOST_LOGS = 3
+# The words of events that stand amid a run of their step.
+GOING_ON = ("reads", "end", "break")
 
 
 def is_log(work, value):
@@ -19,6 +21,8 @@ def is_book(work, value):
     if not all([is_log_of_book(work, log, at) for at, log in enumerate(value)]):
         return False
     pairs = pairs_of(value)
+    if not pairs:
+        return True
     paired = [log for pair in pairs for log in pair]
     if len(set(paired)) < len(paired):
         return False
@@ -34,7 +38,8 @@ def is_log_of_book(work, value, number):
     """Whether the value can be the log of this number, beside and after lesser ones."""
     if not is_short(value):
         return False
-    if not value or not is_event(work, value[0]) or value[0][0] not in LINKS:
+    # No log is of a lesser number than the first one, which cannot begin as another one, then.
+    if number == 0 or not value or not is_event(work, value[0]) or value[0][0] not in LINKS:
         return is_sequence(work, value)
     return value[0][1] < number and is_sequence(work, value[1:])
 
@@ -43,16 +48,18 @@ def is_sequence(work, events):
     """Whether these are events that can come one behind the other, after and beside apart."""
     running = []
     for event in events:
-        if not is_event(work, event) or event[0] in LINKS:
+        if not is_event(work, event):
             return False
-        if event[0] in ("run", "begin", "reads", "end", "break"):
-            is_under_way = event[1] in running
-            if is_under_way != (event[0] in ("reads", "end", "break")):
-                return False
-        if event[0] == "begin":
-            running.append(event[1])
-        elif event[0] in STOPS:
-            running.remove(event[1])
+        word = event[0]
+        if word in HANDS:
+            continue
+        name = event[1]
+        if word in LINKS or (name in running) != (word in GOING_ON):
+            return False
+        if word == "begin":
+            running.append(name)
+        elif word in STOPS:
+            running.remove(name)
     return True
 
 

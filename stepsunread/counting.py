@@ -1,118 +1,61 @@
-"""How many programs of a step have facts, for each kind of step."""
+"""What programs of a step can do next, and how many there are, by what is known of them.
 
-from itertools import permutations
+What is known is a dict of what a program does behind ways; behind each of
+these ways it is known to read on as the way tells.
+"""
 
-from stepsunread.rules import all_ends, can_end, is_met
-from stepsunread.sums import count_sums
-
-
-class Leaves:
-    """The ends that the claims of a step leave open, by the way that leads to them."""
-
-    def __init__(self, part):
-        self.part = part
-        self.ends = all_ends(part)
-        self.counts = {}
-
-    def many(self, way):
-        """How many ends can stand behind the way."""
-        rules = self.part.rules
-        # Only the claims that are met count, and they are few: so ways share their numbers.
-        met = tuple([is_met(rule[0], way) for rule in rules])
-        if met not in self.counts:
-            self.counts[met] = len([end for end in self.ends if can_end(rules, way, end)])
-        return self.counts[met]
+from stepsunread.orders import Orders
+from stepsunread.sums import Sums
 
 
-class Tally:
-    """Counts programs of a step that read the files of an order, one at each depth.
-
-    Where the order is None, they read any files. In a full one each way down
-    goes through the whole order, otherwise it may end at each place.
-    """
-
-    def __init__(self, leaves, order, is_full):
-        self.part = leaves.part
-        self.leaves = leaves
-        self.order = order
-        self.is_full = is_full
-        self.known = {}
-
-    def next_files(self, way):
-        """The files that can be read behind the way."""
-        if self.order is not None:
-            return self.order[len(way):len(way) + 1]
-        if len(way) == self.part.most:
-            return ()
-        seen = [read[0] for read in way]
-        return tuple([file for file in self.part.inputs if file not in seen])
-
-    def is_leaf(self, way):
-        """Whether a program can end behind the way."""
-        return not self.is_full or len(way) == len(self.order)
-
-    def free(self, way):
-        """How many ways to go on there are behind the way, nothing being known."""
-        key = tuple(sorted(way))
-        if key not in self.known:
-            total = self.leaves.many(way) if self.is_leaf(way) else 0
-            for file in self.next_files(way):
-                total += self.branches(way, file, [])
-            self.known[key] = total
-        return self.known[key]
-
-    def branches(self, way, file, facts):
-        """How many ways to go on there are behind the way if the file is read."""
-        total = 1
-        for content in range(self.part.widths[file]):
-            read = (file, content)
-            beyond = [fact for fact in facts if fact[0][len(way):len(way) + 1] == (read,)]
-            total = total * self.below(way + (read,), beyond)
-        return total
-
-    def below(self, way, facts):
-        """How many ways to go on have the facts, all of which begin with the way."""
-        if not facts:
-            return self.free(way)
-        thing = asked(facts[0], len(way))
-        if any([asked(fact, len(way)) != thing for fact in facts]):
-            return 0
-        if thing[0] != "read":
-            return 1 if self.is_leaf(way) and can_end(self.part.rules, way, thing) else 0
-        if thing[1] not in self.next_files(way):
-            return 0
-        return self.branches(way, thing[1], facts)
+def shape_of(part):
+    """All programs of the step, as a whole."""
+    # Kept with the step: it hangs on nothing else, and is asked for again and again.
+    if part.shape is None:
+        part.shape = Sums(part) if part.kind == "sums" else Orders(part)
+    return part.shape
 
 
-def asked(fact, depth):
-    """What the fact asks a program to do at this depth of its way."""
-    way, thing = fact
-    return thing if len(way) == depth else ("read", way[depth][0])
+def known_by(facts):
+    """What is known by facts, None where they contradict."""
+    known = {}
+    for way, thing in facts:
+        if not follow(known, way) or known.setdefault(way, thing) != thing:
+            return None
+    return known
 
 
-def orders(part):
-    """All sequences of files that the step can read, each file once."""
-    rows = []
-    for many in range(part.most + 1):
-        rows += list(permutations(list(part.inputs), many))
-    return rows
+def follow(known, way):
+    """Whether programs that do what is known can come to the way; if so, that becomes known, too."""
+    for depth, read in enumerate(way):
+        thing = ("read", read[0])
+        if known.setdefault(way[:depth], thing) != thing:
+            return False
+    return True
 
 
-def count_levels(leaves, order, facts):
-    """How many programs of the kind row read just the files of the order, to its whole depth."""
-    total = Tally(leaves, order, False).below((), facts)
-    if order:
-        total -= Tally(leaves, order[:-1], False).below((), facts)
-    return total
+def can_read_so(part, known):
+    """Whether no file is read twice on a way, and no more files than MOST tells."""
+    for way, thing in known.items():
+        if thing[0] == "read" and (len(way) >= part.most or thing[1] in [read[0] for read in way]):
+            return False
+    return True
 
 
 def count_programs(part, facts):
     """How many programs of the step have all facts."""
-    if part.kind == "sums":
-        return count_sums(part, facts)
-    leaves = Leaves(part)
-    if part.kind == "tree":
-        return Tally(leaves, None, False).below((), facts)
-    if part.kind == "row":
-        return sum([count_levels(leaves, order, facts) for order in orders(part)])
-    return sum([Tally(leaves, order, True).below((), facts) for order in orders(part)])
+    known = known_by(facts)
+    if known is None or not can_read_so(part, known):
+        return 0
+    return shape_of(part).count(known)
+
+
+def things_behind(part, facts, way):
+    """What programs that have all facts, and come to the way, do behind it, ascending."""
+    known = known_by(facts)
+    if known is None or not follow(known, way) or not can_read_so(part, known):
+        return ()
+    shape = shape_of(part)
+    if way not in known:
+        return shape.things(known, way)
+    return (known[way],) if shape.is_possible(known) else ()

@@ -1,12 +1,15 @@
 """The text of a work, taken line by line."""
 
 from stepsunread.claims import read_claim
-from stepsunread.counting import count_programs
+from stepsunread.counting import shape_of
 from stepsunread.errors import BadWork
 from stepsunread.parts import Part
-from stepsunread.words import is_name, number
+from stepsunread.words import is_name
 
 KINDS = ("tree", "row", "flat", "sums")
+# Numbers as they are written, without leading zeros.
+SIZES = {"2": 2, "3": 3, "4": 4}
+MOSTS = {"0": 0, "1": 1, "2": 2, "3": 3}
 MOST_FILES = 6
 MOST_STEPS = 3
 MOST_READ = 4
@@ -20,17 +23,20 @@ class Draft:
     def __init__(self):
         self.widths = {}
         self.parts = {}
+        # The files that are written.
+        self.written = []
         # The part whose lines are being told.
         self.last = None
 
     def take(self, line):
         """Whether the line can stand here; if so, it is told."""
         words = line.split(" ")
-        if words[0] == "file":
+        first = words[0]
+        if first == "file":
             return self.take_file(words)
-        if words[0] == "step":
+        if first == "step":
             return self.take_step(words)
-        if words[:2] != ["", ""] or len(words) < 3 or self.last is None:
+        if first != "" or len(words) < 3 or words[1] != "" or self.last is None:
             return False
         if words[2] == "reads":
             return self.take_reads(words[3:])
@@ -43,9 +49,9 @@ class Draft:
         if len(words) != 3 or self.parts or len(self.widths) == MOST_FILES:
             return False
         _, name, size = words
-        if not is_name(name) or name in self.widths or not 2 <= number(size) <= 4:
+        if size not in SIZES or name in self.widths or not is_name(name):
             return False
-        self.widths[name] = number(size)
+        self.widths[name] = SIZES[size]
         return True
 
     def take_step(self, words):
@@ -53,9 +59,9 @@ class Draft:
         if len(words) != 4 or not self.is_between_steps() or len(self.parts) == MOST_STEPS:
             return False
         _, name, kind, most = words
-        if not is_name(name) or name in self.parts or kind not in KINDS or not 0 <= number(most) <= 3:
+        if most not in MOSTS or kind not in KINDS or name in self.parts or not is_name(name):
             return False
-        self.last = Part(name, kind, number(most))
+        self.last = Part(name, kind, MOSTS[most])
         self.parts[name] = self.last
         return True
 
@@ -69,9 +75,12 @@ class Draft:
 
     def are_files(self, names, most):
         """Whether these are different files, one at least and at most so many."""
-        if not 1 <= len(names) <= most or len(set(names)) < len(names):
+        if not 1 <= len(names) <= most:
             return False
-        return all([name in self.widths for name in names])
+        for at, name in enumerate(names):
+            if name not in self.widths or name in names[:at]:
+                return False
+        return True
 
     def take_reads(self, names):
         """Take the files that the last step reads."""
@@ -86,11 +95,10 @@ class Draft:
         last = self.last
         if last.inputs == () or last.outputs != () or not self.are_files(names, MOST_WRITTEN):
             return False
-        taken = list(last.inputs)
-        for part in self.parts.values():
-            taken += part.outputs
-        if any([name in taken for name in names]):
-            return False
+        for name in names:
+            if name in last.inputs or name in self.written:
+                return False
+        self.written += names
         last.outputs = tuple(names)
         last.widths = {name: self.widths[name] for name in last.inputs + last.outputs}
         return has_room(last)
@@ -103,9 +111,8 @@ class Draft:
         rule = read_claim(last, words)
         if rule is None:
             return False
-        last.claimed += (" ".join(words),)
-        last.rules += (rule,)
-        return count_programs(last, ()) > 0
+        last.add_rule(" ".join(words), rule)
+        return shape_of(last).has_programs()
 
 
 def has_room(part):

@@ -1,7 +1,6 @@
 """Events by their forms, and how logs begin."""
 
-from stepsunread.forms import is_below, is_content, is_integer, is_pair
-from stepsunread.works import part_of
+from stepsunread.forms import is_below, is_integer
 
 # How many items an event has, by its word.
 LENGTHS = {
@@ -9,6 +8,7 @@ LENGTHS = {
     "begin": 2, "reads": 3, "end": 3, "break": 3,
 }
 LINKS = ("after", "beside")
+HANDS = ("set", "saw")
 MOST_PARTS = 4
 # A file that is not noted may be any: so its content may be one of the greatest files.
 MOST_CONTENTS = 4
@@ -16,72 +16,68 @@ MOST_CONTENTS = 4
 
 def is_event(work, value):
     """Whether the value is an event, by its form (after and beside: of any log)."""
-    if not isinstance(value, tuple) or not value or not isinstance(value[0], str):
+    if not isinstance(value, tuple) or not value:
         return False
     word = value[0]
-    if word not in LENGTHS or len(value) != LENGTHS[word]:
+    if not isinstance(word, str) or LENGTHS.get(word) != len(value):
         return False
+    name = value[1]
     if word in LINKS:
-        return is_integer(value[1]) and value[1] >= 0
-    if word in ("set", "saw"):
-        return value[1] in work.files and is_noted_content(work, value[1], value[2])
-    return value[1] in work.steps and is_step_event(part_of(work, value[1]), value)
-
-
-def is_step_event(part, event):
-    """Whether what stands behind the step in its event can stand there."""
-    word = event[0]
+        return is_integer(name) and name >= 0
+    # What is no string may have no place in a dict.
+    if not isinstance(name, str):
+        return False
+    if word in HANDS:
+        return name in work.widths and (value[2] is None or is_below(value[2], work.widths[name]))
+    if name not in work.parts:
+        return False
+    part = work.parts[name]
     if word == "run":
-        return is_reads(part, event[2], True) and is_noted_end(part, event[3])
+        return is_reads(part, value[2], True) and is_noted_end(part, value[3])
     if word == "reads":
-        return is_reads(part, event[2], False)
+        return is_reads(part, value[2], False)
     if word == "end":
-        return is_noted_end(part, event[2])
-    return word == "begin" or is_broken(part, event[2])
-
-
-def is_noted_content(work, file, value):
-    """Whether the value is a content of the file, or None."""
-    return value is None or is_content(work, file, value)
+        return is_noted_end(part, value[2])
+    return word == "begin" or is_broken(part, value[2])
 
 
 def is_reads(part, value, may_have_gaps):
     """Whether the value is reads of the step."""
     if not isinstance(value, tuple) or len(value) > MOST_PARTS:
         return False
-    return all([is_noted_read(part, item, may_have_gaps) for item in value])
+    for item in value:
+        if item is None and may_have_gaps:
+            continue
+        if not isinstance(item, tuple) or len(item) != 2:
+            return False
+        file, content = item
+        if file is not None and file not in part.inputs:
+            return False
+        if content is not None and not is_below(content, MOST_CONTENTS if file is None else part.widths[file]):
+            return False
+    return True
 
 
-def is_noted_read(part, value, may_be_gap):
-    """Whether the value is a part of reads."""
-    if value is None:
-        return may_be_gap
-    if not is_pair(value):
+def is_noted_row(part, value):
+    """Whether the value is a tuple with a content, or None, for each of the first files that the step writes."""
+    if not isinstance(value, tuple):
         return False
-    file, content = value
-    if file is not None and file not in part.inputs:
-        return False
-    bound = MOST_CONTENTS if file is None else part.widths[file]
-    return content is None or is_below(content, bound)
-
-
-def is_noted_row(value, sizes):
-    """Whether the value is a tuple with a content, or None, for each of the sizes."""
-    if not isinstance(value, tuple) or len(value) != len(sizes):
-        return False
-    return all([item is None or is_below(item, size) for item, size in zip(value, sizes)])
+    for item, file in zip(value, part.outputs):
+        if item is not None and not is_below(item, part.widths[file]):
+            return False
+    return True
 
 
 def is_noted_end(part, value):
     """Whether the value can be noted as an end of the step."""
-    return value is None or value == "fail" or is_noted_row(value, part.output_sizes())
+    if value is None or value == "fail":
+        return True
+    return is_noted_row(part, value) and len(value) == len(part.outputs)
 
 
 def is_broken(part, value):
     """Whether the value can be what a broken run of the step wrote: not all its files."""
-    if not isinstance(value, tuple) or len(value) >= len(part.outputs):
-        return False
-    return is_noted_row(value, part.output_sizes()[:len(value)])
+    return is_noted_row(part, value) and len(value) < len(part.outputs)
 
 
 def link_of(log):

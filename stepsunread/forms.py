@@ -11,14 +11,17 @@ def is_integer(value):
 
 def is_below(value, bound):
     """Whether the value is an integer from 0 below the bound."""
-    return is_integer(value) and 0 <= value < bound
+    return isinstance(value, int) and not isinstance(value, bool) and 0 <= value < bound
 
 
 def is_row(value, sizes):
     """Whether the value is a tuple with an integer below each of the sizes."""
     if not isinstance(value, tuple) or len(value) != len(sizes):
         return False
-    return all([is_below(item, size) for item, size in zip(value, sizes)])
+    for item, size in zip(value, sizes):
+        if not is_below(item, size):
+            return False
+    return True
 
 
 def all_rows(sizes):

@@ -15,6 +15,8 @@ class Part:
         # The claims as they are written, and as rules (stepsunread/rules.py).
         self.claimed = ()
         self.rules = ()
+        # What was worked out of its programs as a whole (see shape_of in stepsunread/counting.py).
+        self.shape = None
 
     def input_sizes(self):
         """The sizes of the files that it reads."""
@@ -23,3 +25,10 @@ class Part:
     def output_sizes(self):
         """The sizes of the files that it writes."""
         return [self.widths[file] for file in self.outputs]
+
+    def add_rule(self, claim, rule):
+        """One claim more, and the rule that it writes."""
+        self.claimed += (claim,)
+        self.rules += (rule,)
+        # What was worked out so far holds no more.
+        self.shape = None

@@ -1,37 +1,14 @@
 """Programs of steps: what they are, how many there are, what they do next."""
 
-from stepsunread.counting import count_programs
+from stepsunread.counting import count_programs, shape_of, things_behind
 from stepsunread.errors import BadFacts, BadWay
-from stepsunread.forms import is_fact, is_thing, is_way
-from stepsunread.rules import all_ends
+from stepsunread.forms import is_fact, is_way
 from stepsunread.works import part_of
 
 
 def is_program(work, step, value):
     """Whether the value is a program of the step: NoStep."""
-    part = part_of(work, step)
-    facts = facts_of(part, value, ())
-    # A program is just what does at all its places what it does there.
-    return facts is not None and count_programs(part, facts) == 1
-
-
-def facts_of(part, value, way):
-    """What a program does at each place from this way on, as facts; None if its form is wrong."""
-    if not isinstance(value, tuple) or not value or value[0] != "read":
-        return [(way, value)] if is_thing(part, value) else None
-    # The depth is bounded here, as values may be nested deeper than Python can go.
-    if len(value) != 3 or len(way) == part.most or value[1] not in part.inputs:
-        return None
-    _, file, branches = value
-    if not isinstance(branches, tuple) or len(branches) != part.widths[file]:
-        return None
-    facts = [(way, ("read", file))]
-    for content, branch in enumerate(branches):
-        beyond = facts_of(part, branch, way + ((file, content),))
-        if beyond is None:
-            return None
-        facts += beyond
-    return facts
+    return shape_of(part_of(work, step)).is_program(value)
 
 
 def programs(work, step):
@@ -51,8 +28,7 @@ def things(work, step, facts, way):
         raise BadFacts(facts)
     if not is_way(part, way):
         raise BadWay(way)
-    possible = all_ends(part) + [("read", file) for file in sorted(part.inputs)]
-    return tuple([thing for thing in possible if count_programs(part, facts + ((way, thing),)) > 0])
+    return things_behind(part, facts, way)
 
 
 def with_facts(work, step, facts):

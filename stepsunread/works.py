@@ -10,14 +10,15 @@ class Work:
     def __init__(self, text):
         draft = read_draft(text)
         self.text = text
-        # What is told of each step, by its name: see part_of.
+        # What is told of each step (see part_of), and the size of each file, by their names.
         self.parts = draft.parts
+        self.widths = draft.widths
         self.files = tuple(draft.widths)
         self.sizes = tuple(draft.widths.values())
         self.steps = tuple(draft.parts)
         self.kinds = tuple([part.kind for part in draft.parts.values()])
         self.mosts = tuple([part.most for part in draft.parts.values()])
-        self.sources = tuple([file for file in self.files if self.maker(file) is None])
+        self.sources = tuple([file for file in self.files if file not in draft.written])
 
     def __eq__(self, other):
         return isinstance(other, Work) and self.text == other.text
