@@ -13,6 +13,11 @@ def written(work, stand, files, contents):
     return tuple(row)
 
 
+def end_of(thing):
+    """The end of a run that does this thing at last."""
+    return "fail" if thing[0] == "fail" else thing[1]
+
+
 class Machine:
     """A crew at a stand, and of each run under way what is left of its program."""
 

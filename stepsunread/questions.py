@@ -136,3 +136,8 @@ def is_question(work, book, value):
         told[kind] = part
     return True
 
+
+
+def names_log(question):
+    """Whether the question is one about a log."""
+    return "log" in PARTS[question[0]]

@@ -56,6 +56,16 @@ class Weaver:
                 table[at, beside] = is_end or goes_on or goes_beside
         return table
 
+    def turns(self):
+        """For each (events of the one, of the other): what can come next, 0 or 1, so that all others can come."""
+        table = self.open_places()
+        rows = {}
+        for at, beside in table:
+            goes_beside = self.can_step_beside(at, beside) and table[at, beside + 1]
+            goes_on = self.can_step(at, beside) and table[at + 1, beside]
+            rows[at, beside] = ((0,) if goes_beside else ()) + ((1,) if goes_on else ())
+        return rows
+
     def is_weaving(self, value):
         """Whether the value is a weaving of all events of both."""
         if not isinstance(value, tuple) or not all([is_below(item, 2) for item in value]):

@@ -57,6 +57,11 @@ def passage(work, book, world):
     return Passage(work, book, world)
 
 
+def is_fitting(work, book, value):
+    """Whether the value is a world of the book that fits: BadBook."""
+    return is_world(work, book, value) and not Passage(work, book, value).misfits
+
+
 def misfits(work, book, world):
     """The ascending tuple of the marks of events that are not as noted: BadBook, BadWorld."""
     return tuple(sorted(passage(work, book, world).misfits))

@@ -33,6 +33,10 @@ ANY = [
     nested(tuple, 40), nested(list, 40), nested(dict, 40),
 ]
 
+# Values of any kind, and others, that are no books of the mill.
+NO_BOOKS = [value for value in ANY if value != ((), ())] + [
+    (), ((("set", "a", 2),),), [()], ((("after", 0),),), ((), (), (), ()), ((("end", "cut", None),),), ((), [])]
+
 
 def told_of(test, error, call, *values, **named):
     """The value of the error that the call raises."""

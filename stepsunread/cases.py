@@ -1,0 +1,179 @@
+"""Cases: what was chosen of a book, and what was worked out by that."""
+
+from stepsunread.events import link_of
+from stepsunread.forms import is_below, is_way
+from stepsunread.halts import Halt
+from stepsunread.walks import Walk
+
+
+class Case:
+    """Choices for a book, worked out as far as they lead.
+
+    chosen: by points (of first, hand and weave) the numbers that were chosen.
+    known: by steps what their programs were chosen to do behind ways.
+    walks: for each group of the layout how far it was worked out, None if it
+    has not begun. wrong: the marks of events that are wrong.
+    """
+
+    def __init__(self, layout):
+        self.layout = layout
+        self.chosen = {}
+        self.known = {step: {} for step in layout.work.steps}
+        self.walks = [None] * len(layout.groups)
+        self.wrong = []
+
+    def copy(self):
+        """A case with the same choices that goes on by itself."""
+        twin = Case(self.layout)
+        twin.chosen = {point: self.chosen[point] for point in self.chosen}
+        twin.known = {step: self.known[step] for step in self.known}
+        twin.walks = list(self.walks)
+        twin.wrong = list(self.wrong)
+        return twin
+
+    def choose(self, point, thing):
+        """One choice more."""
+        if point[0] == "next":
+            # Other cases share the choices for the step so far.
+            told = self.known[point[1]]
+            self.known[point[1]] = {way: told[way] for way in told}
+            self.known[point[1]][point[2]] = thing
+        else:
+            self.chosen[point] = thing
+
+    def with_choice(self, point, thing):
+        """The case behind one choice more, worked out."""
+        beyond = self.copy()
+        beyond.choose(point, thing)
+        beyond.go()
+        return beyond
+
+    def content(self, told):
+        """The content that is told, as an integer or by its point."""
+        if isinstance(told, int):
+            return told
+        if told not in self.chosen:
+            raise Halt(told)
+        return self.chosen[told]
+
+    def thing(self, step, way):
+        """What the program does behind the way."""
+        known = self.known[step]
+        if way not in known:
+            raise Halt(("next", step, way))
+        return known[way]
+
+    def note_wrong(self, mark):
+        """The event is wrong."""
+        if mark not in self.wrong:
+            self.wrong.append(mark)
+
+    def go(self):
+        """Work all logs out as far as the choices lead."""
+        for at, numbers in enumerate(self.layout.groups):
+            walk = self.walks[at]
+            if walk is None:
+                walk = self.begin(numbers)
+            elif walk.is_over or not self.is_chosen(walk.halt):
+                continue
+            else:
+                # Other cases share the walk so far.
+                walk = walk.copy()
+            if walk is not None:
+                walk.go(self)
+                self.walks[at] = walk
+
+    def begin(self, numbers):
+        """The walk of these logs at their beginning, None as long as that is not worked out."""
+        layout = self.layout
+        link = link_of(layout.book[numbers[0]])
+        if link is None:
+            stand, writers = layout.first_stand(numbers[0]), (None,) * len(layout.work.files)
+        else:
+            ahead = self.walk_of(link[1])
+            if ahead is None or not ahead.is_over:
+                return None
+            stand, writers = ahead.stand, ahead.writers
+        walk = Walk(layout, numbers, stand, writers)
+        walk.begin()
+        return walk
+
+    def walk_of(self, number):
+        """The walk of the log of this number."""
+        return self.walks[self.layout.group_numbers[number]]
+
+    def is_chosen(self, point):
+        """Whether the point was chosen."""
+        return point[2] in self.known[point[1]] if point[0] == "next" else point in self.chosen
+
+    def halts(self):
+        """The points at which the logs halt, each once."""
+        points = []
+        for walk in self.walks:
+            if walk is not None and not walk.is_over and walk.halt not in points:
+                points.append(walk.halt)
+        return points
+
+    def is_worked_out(self):
+        """Whether all logs have come to their end."""
+        return all([walk is not None and walk.is_over for walk in self.walks])
+
+    def things(self, point):
+        """What a point that is one, and open, can be, ascending."""
+        word = point[0]
+        if word == "next":
+            return self.layout.things(point[1], self.known[point[1]], point[2])
+        if word == "weave":
+            came = self.came_ahead(point[1], point[2])
+            return self.layout.turns_open[point[1]][sum(came), len(came) - sum(came)]
+        work = self.layout.work
+        file = point[2] if word == "first" else self.layout.book[point[1]][point[2]][1]
+        return tuple(range(work.widths[file]))
+
+    def came_ahead(self, beside, many):
+        """The first so many items of the weaving of this log; None if the choices do not tell them."""
+        came = ()
+        while len(came) < many:
+            items = self.layout.turns_open[beside][sum(came), len(came) - sum(came)]
+            point = ("weave", beside, len(came))
+            if len(items) == 1:
+                came += items
+            elif point in self.chosen:
+                came += (self.chosen[point],)
+            else:
+                return None
+        return came
+
+    def is_open(self, value):
+        """Whether the value is a point that was not chosen, and to which the choices lead."""
+        if not isinstance(value, tuple) or len(value) != 3 or not isinstance(value[0], str):
+            return False
+        word = value[0]
+        if word == "next":
+            return self.is_open_way(value[1], value[2])
+        if word not in ("first", "hand", "weave") or not is_below(value[1], len(self.layout.book)):
+            return False
+        if word == "first":
+            is_point = value[2] in self.layout.work.files and link_of(self.layout.book[value[1]]) is None
+        elif word == "hand":
+            # Sets of which it is noted what they wrote are no points.
+            is_point = is_below(value[2], len(self.layout.book[value[1]])) and self.layout.hands.get(value[1:]) == value
+        else:
+            is_point = self.is_open_turn(value[1], value[2])
+        return is_point and value not in self.chosen
+
+    def is_open_way(self, step, way):
+        """Whether the choices lead the program of the step to the way, but tell nothing of what it does there."""
+        if step not in self.layout.work.steps or not is_way(self.layout.work.parts[step], way):
+            return False
+        known = self.known[step]
+        for depth, read in enumerate(way):
+            if known.get(way[:depth]) != ("read", read[0]):
+                return False
+        return way not in known
+
+    def is_open_turn(self, beside, number):
+        """Whether the choices tell all that comes ahead of this event of a pair."""
+        if beside not in self.layout.turns_open:
+            return False
+        return is_below(number, self.layout.many_woven(beside)) and self.came_ahead(beside, number) is not None
