@@ -58,16 +58,9 @@ def worlds_of(case):
     return total
 
 
-def world_that_fits(work, book, left=()):
-    """Any world that fits but for left out marks; None if there is none."""
-    finding = Finding(Layout(work, book, left), None, (), 1)
-    finding.grow()
-    return some_world(finding.found[None]) if finding.found else None
-
-
-def has_world(work, book, left=()):
-    """Whether some world fits but for left out marks."""
-    finding = Finding(Layout(work, book, left), None, (), 1)
+def has_world(work, book):
+    """Whether some world fits."""
+    finding = Finding(Layout(work, book, ()), None, (), 1)
     finding.grow()
     return len(finding.found) > 0
 

@@ -14,7 +14,7 @@ def is_barred(chosen, rows):
 def bars_all_ahead(marks, told, rows):
     """Whether of these marks each tuple of fewer than told, and each lesser one of as many, is barred."""
     for many in range(len(told) + 1):
-        for chosen in combinations(marks, many):
+        for chosen in combinations(list(marks), many):
             if chosen == told:
                 return True
             if not is_barred(chosen, rows):

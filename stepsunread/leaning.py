@@ -82,7 +82,7 @@ def lean(work, book, questions, *, given=()):
     """
     check_lean(work, book, questions, given)
     answers = all_answers(work, book, questions)
-    marks = others(book, given)
+    marks = list(others(book, given))
     rows, barring = [], []
     for many in range(len(marks) + 1):
         for chosen in combinations(marks, many):

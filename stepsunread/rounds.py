@@ -42,7 +42,7 @@ def rounds(work, book, steps):
     """(rounds, rows): as few rounds as can be, and why: BadBook, BadSteps, NoWorld."""
     check_rounds(work, book, steps)
     rows, barred = [], []
-    for step, other in combinations(steps, 2):
+    for step, other in combinations(list(steps), 2):
         finding = Finding(Layout(work, book, ()), ("apart", step, other), (True,), 1)
         grown = finding.grow()
         if finding.found:
@@ -57,7 +57,7 @@ def shows_rounds(work, book, steps, value):
     check_rounds(work, book, steps)
     if not isinstance(value, tuple) or len(value) != 2 or not isinstance(value[1], tuple):
         return False
-    pairs = list(combinations(steps, 2))
+    pairs = list(combinations(list(steps), 2))
     if len(value[1]) != len(pairs):
         return False
     barred = []

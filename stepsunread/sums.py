@@ -130,7 +130,8 @@ class Sums:
         total = 1
         # What one file gets tells nothing of the other one: their numbers multiply.
         for bits in self.weights_left(known) or (0,):
-            total = total * f"{bits:b}".count("1")
+            digits = f"{bits:b}"
+            total = total * digits.count("1")
         return total
 
     def is_possible(self, known):

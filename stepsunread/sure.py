@@ -27,9 +27,15 @@ class Sure(Growth):
         Growth.__init__(self, layout, None)
         self.step = step
         self.facts = None
+        # What was chosen for the step in leaves so far.
+        self.seen = {}
 
     def give(self, case, answer):
         """A leaf fits."""
+        told = tuple(case.known[self.step].items())
+        if told in self.seen:
+            return
+        self.seen[told] = True
         known = forced(self.layout, self.step, case.known[self.step])
         if self.facts is None:
             self.facts = known

@@ -1,14 +1,9 @@
-"""The texts of contents, ways, ends, things and answers."""
-
-
-def content_text(content):
-    """The text of a content, perhaps not noted."""
-    return "?" if content is None else str(content)
+"""The texts of answers, by which they are told in sequence."""
 
 
 def contents_text(contents):
     """The text of a tuple of contents."""
-    return ",".join([content_text(content) for content in contents]) or "-"
+    return ",".join([str(content) for content in contents]) or "-"
 
 
 def names_text(names):
@@ -16,23 +11,13 @@ def names_text(names):
     return ",".join(names) or "-"
 
 
-def read_text(part):
-    """The text of a read, or of a part of reads."""
-    if part is None:
-        return ".."
-    file, content = part
-    return ("?" if file is None else file) + ":" + content_text(content)
-
-
 def way_text(way):
-    """The text of a way, of reads, or of changes."""
-    return ",".join([read_text(part) for part in way]) or "-"
+    """The text of a way."""
+    return ",".join([file + ":" + str(content) for file, content in way]) or "-"
 
 
 def end_text(end):
-    """The text of an end, perhaps not noted."""
-    if end is None:
-        return "*"
+    """The text of an end."""
     return "fail" if end == "fail" else contents_text(end)
 
 

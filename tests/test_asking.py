@@ -229,8 +229,33 @@ class KnownEarly(unittest.TestCase):
         question = ("had", 0, 0, 1, "c")
         self.assertFalse(self.shown(question, 1, [self.READS, self.ZERO], log))
         self.assertTrue(self.shown(question, 0, [self.READS, self.ZERO, self.ONE], log))
+        # All that comes anew has to be worked out, though nobody writes a.
+        self.assertFalse(self.shown(("had", 0, 0, 1, "a"), 1, [self.READS, self.ZERO], log))
         # What was seen is not asked, and what nobody writes stands as it did.
         self.assertTrue(self.shown(("had", 0, 0, 1, "a"), 1, [self.READS, self.ZERO, self.ONE], log))
+
+    def test_had_begins_where_the_pair_begins(self):
+        # The other log's run and set come first: the run reads what stood ahead of the set.
+        text = "file x 2\nfile y 2\nstep q tree 1\n  reads x\n  writes y"
+        book = ((("saw", "x", None),), (("beside", 0), ("run", "q", (("x", 0),), None), ("set", "x", 1)))
+        program = ("read", "x", (("end", (0,)), ("end", (1,))))
+        world = (program,), ((0, 0), ()), ((), (1,)), ((), (1, 1, 0))
+        question = ("had", 1, 2, 0, "y")
+        rows, told = ask(Work(text), book, question)
+        rows = tuple((answer, world if answer == 0 else other) for answer, other in rows)
+        self.assertIs(shows_answers(Work(text), book, question, (rows, told)), True)
+        rows = tuple((answer, world if answer == 1 else other) for answer, other in rows)
+        self.assertIs(shows_answers(Work(text), book, question, (rows, told)), False)
+
+    def test_apart_where_runs_that_would_meet_never_do(self):
+        # one writes what other reads where a is 0; it changes it where a is 1 alone.
+        text = ("file a 2\nfile c 2\nfile x 2\nstep one tree 1\n  reads a\n  writes c\n"
+                "  claim if a = 0 then fails\n  claim if a = 1 then c = 1\n"
+                "step other tree 2\n  reads a c\n  writes x\n  claim ends")
+        book = ((("set", "a", 0), ("set", "c", 0), ("run", "other", (("a", 0), ("c", 0)), (0,)), ("set", "a", 1),
+                 ("run", "other", (("a", 1),), (1,))),)
+        self.assertEqual([row[0] for row in ask(Work(text), book, ("apart", "one", "other"))[0]], [True])
+        self.assertEqual([row[0] for row in ask(Work(text), ((),), ("apart", "one", "other"))[0]], [False, True])
 
 
 class Errors(unittest.TestCase):

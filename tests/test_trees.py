@@ -246,6 +246,10 @@ class Points(unittest.TestCase):
         self.check(book, ("weave", 0, 0), (0, 1), False)
         self.check(book, ("weave", 1, 1), (0, 1), False)
         self.check(book, ("weave", 1, 3), (0,), False)
+        ahead = {("weave", 1, 0): 0}
+        for number in (3, 4, -1, None, True):
+            for many in ((), (0,), (0, 1)):
+                self.check(book, ("weave", 1, number), many, False, ahead=ahead)
         # Behind the set the run alone can come; behind both begin alone.
         self.check(book, ("weave", 1, 1), (1,), True, ahead={("weave", 1, 0): 0})
         self.check(book, ("weave", 1, 2), (0,), True, ahead={("weave", 1, 0): 0})
@@ -271,6 +275,14 @@ class Points(unittest.TestCase):
             self.assertIs(shows_tree(WORK, BOOK, ("rests",), value), False, value)
         self.assertIs(shows_tree(WORK, ((),), None, ["gives", None]), False)
         self.assertIs(shows_tree(WORK, ((),), None, ("gives", False)), False)
+
+    def test_words_of_leaves(self):
+        book = ((("set", "a", 0), ("saw", "a", 1)),)
+        self.assertIs(shows_tree(WORK, book, None, ("shut", 0, 1)), True)
+        for word in ("Shut", "at", "gives", "saw", "", None, 0):
+            self.assertIs(shows_tree(WORK, book, None, (word, 0, 1)), False)
+        self.assertIs(shows_tree(WORK, ((),), None, ("gave", None)), False)
+        self.assertIs(shows_tree(WORK, ((),), None, ("shut", None)), False)
 
     def test_a_deep_tree(self):
         log = tuple(("set", "a", None) for _ in range(20))
