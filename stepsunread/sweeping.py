@@ -39,6 +39,14 @@ def is_fresh(case, step, stand):
     return all([case.content(found) == content for found, content in told])
 
 
+def sweep_from(case, stand):
+    """The stands behind each step of one sweep, the stand ahead of it being the first."""
+    stands = [stand]
+    for step in case.layout.work.steps:
+        stands.append(stand_behind(case, step, stands[-1]))
+    return stands
+
+
 class Sweeps:
     """Sweeps from a stand, until they come to rest, or a stand comes again.
 
@@ -65,27 +73,45 @@ class Sweeps:
 
     def sweep(self, stand):
         """The stand behind one sweep."""
-        for step in self.case.layout.work.steps:
-            beyond = stand_behind(self.case, step, stand)
-            if beyond != stand and step not in self.changing:
+        stands = sweep_from(self.case, stand)
+        for step, before, behind in zip(self.case.layout.work.steps, stands, stands[1:]):
+            if behind != before and step not in self.changing:
                 self.changing.append(step)
-            stand = beyond
-        return stand
+        return stands[-1]
 
 
 def rests_everywhere(case):
     """Whether sweeps come to rest from each stand."""
     work = case.layout.work
     read = [file for step in work.steps for file in work.reads(step)]
-    # What nobody reads is settled by one run of the step that writes it: it stops no rest, and brings none.
+    # What nobody reads is settled by one run of the step that writes it: it stops no rest, and
+    # brings none. So it is left at 0.
     sizes = [work.widths[file] if file in read else 1 for file in work.files]
+    beyond = {}
     halt_point = None
     for stand in all_rows(sizes):
         try:
-            if Sweeps(case, stand).last is None:
-                return False
+            told = sweep_from(case, stand)[-1]
+            beyond[stand] = tuple([content if size > 1 else 0 for content, size in zip(told, sizes)])
         except Halt as halt:
             halt_point = halt_point or halt.point
+    if comes_again(beyond):
+        return False
     if halt_point is not None:
         raise Halt(halt_point)
     return True
+
+
+def comes_again(beyond):
+    """Whether a stand comes again behind other ones, if each of these stands leads to the one that is told."""
+    fine = {}
+    for begin in beyond:
+        stand, path = begin, {}
+        while stand in beyond and stand not in fine and beyond[stand] != stand:
+            if stand in path:
+                return True
+            path[stand] = True
+            stand = beyond[stand]
+        for passed in path:
+            fine[passed] = True
+    return False

@@ -82,6 +82,9 @@ class AmendsTest(unittest.TestCase):
                (marks, world, rows + (((), ("gives", None)),)), (marks, world, rows + (((), None),)),
                (marks + ((9, 9),), world, rows), (marks, world, rows, 0), (marks, world, rows + ((everything, None),))]
         if rows:
+            told_marks, shown = rows[-1]
+            bad += [(marks, world, rows + ((other, shown),)) for other in (
+                list(told_marks), told_marks + ((9, 9),), told_marks[:1] + told_marks, told_marks + (None,), None)]
             bad += [(marks, world, rows[:-1] + (list(rows[-1]),)), (marks, world, ()),
                     (marks, world, rows[:-1] + ((rows[-1][0], ("gives", None)),)), (marks[::-1] * 2, world, rows)]
         for value in bad:

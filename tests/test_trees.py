@@ -299,6 +299,8 @@ class Points(unittest.TestCase):
 class Errors(unittest.TestCase):
     def test_books(self):
         for book in NO_BOOKS:
+            self.assertIs(told_of(self, BadBook, tree, WORK, book, None), book)
+            self.assertIs(told_of(self, BadBook, shows_tree, WORK, book, None, None), book)
             self.assertIs(told_of(self, BadBook, tree, WORK, book, 7, left=7), book)
             self.assertIs(told_of(self, BadBook, shows_tree, WORK, book, 7, 7, left=7), book)
 
