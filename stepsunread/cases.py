@@ -6,6 +6,11 @@ from stepsunread.halts import Halt
 from stepsunread.walks import Walk
 
 
+def new_case(layout):
+    """The case in which nothing was chosen, and nothing worked out so far."""
+    return Case(layout, {}, {step: {} for step in layout.work.steps}, [None] * len(layout.groups), [])
+
+
 class Case:
     """Choices for a book, worked out as far as they lead.
 
@@ -15,36 +20,26 @@ class Case:
     has not begun. wrong: the marks of events that are wrong.
     """
 
-    def __init__(self, layout):
+    def __init__(self, layout, chosen, known, walks, wrong):
         self.layout = layout
-        self.chosen = {}
-        self.known = {step: {} for step in layout.work.steps}
-        self.walks = [None] * len(layout.groups)
-        self.wrong = []
-
-    def copy(self):
-        """A case with the same choices that goes on by itself."""
-        twin = Case(self.layout)
-        twin.chosen = {point: self.chosen[point] for point in self.chosen}
-        twin.known = {step: self.known[step] for step in self.known}
-        twin.walks = list(self.walks)
-        twin.wrong = list(self.wrong)
-        return twin
-
-    def choose(self, point, thing):
-        """One choice more."""
-        if point[0] == "next":
-            # Other cases share the choices for the step so far.
-            told = self.known[point[1]]
-            self.known[point[1]] = {way: told[way] for way in told}
-            self.known[point[1]][point[2]] = thing
-        else:
-            self.chosen[point] = thing
+        self.chosen = chosen
+        self.known = known
+        self.walks = walks
+        self.wrong = wrong
 
     def with_choice(self, point, thing):
         """The case behind one choice more, worked out."""
-        beyond = self.copy()
-        beyond.choose(point, thing)
+        chosen, known = self.chosen, self.known
+        # Cases share their choices, and how far they were worked out: what changes is copied.
+        if point[0] == "next":
+            told = known[point[1]]
+            known = {step: known[step] for step in known}
+            known[point[1]] = {way: told[way] for way in told}
+            known[point[1]][point[2]] = thing
+        else:
+            chosen = {other: chosen[other] for other in chosen}
+            chosen[point] = thing
+        beyond = Case(self.layout, chosen, known, list(self.walks), list(self.wrong))
         beyond.go()
         return beyond
 
@@ -77,7 +72,6 @@ class Case:
             elif walk.is_over or not self.is_chosen(walk.halt):
                 continue
             else:
-                # Other cases share the walk so far.
                 walk = walk.copy()
             if walk is not None:
                 walk.go(self)

@@ -1,7 +1,7 @@
 """Growing trees: choices are made until each case is shut, or gives an answer."""
 
 from stepsunread.answers import answer_in
-from stepsunread.cases import Case
+from stepsunread.cases import new_case
 from stepsunread.halts import Halt
 
 
@@ -31,7 +31,7 @@ class Growth:
 
     def grow(self):
         """The tree; None where it was left off."""
-        case = Case(self.layout)
+        case = new_case(self.layout)
         case.go()
         # A stack of its own, as trees grow deeper than calls should.
         forks = [Fork(None, [case])]

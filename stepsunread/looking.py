@@ -1,7 +1,7 @@
 """Looking at values that may be trees."""
 
 from stepsunread.answers import answer_in
-from stepsunread.cases import Case
+from stepsunread.cases import new_case
 from stepsunread.forms import is_integer
 from stepsunread.halts import Halt
 
@@ -19,7 +19,7 @@ def is_same(value, told):
 
 def leaf_answers(layout, question, value):
     """The answers that leaves of the tree give, each once; None if the value is no tree."""
-    case = Case(layout)
+    case = new_case(layout)
     case.go()
     answers = []
     # A stack of its own, as trees may be deeper than calls should be.

@@ -1,6 +1,6 @@
 """Worlds from cases, and cases from worlds."""
 
-from stepsunread.cases import Case
+from stepsunread.cases import new_case
 from stepsunread.events import link_of
 from stepsunread.layouts import Layout
 from stepsunread.marks import marks_of
@@ -71,7 +71,7 @@ def done_by(program):
 def case_of_world(work, book, world):
     """The case in which all is chosen as it is in the world; what is noted is not asked."""
     crew, firsts, hands, weaves = world
-    case = Case(Layout(work, book, marks_of(book)))
+    case = new_case(Layout(work, book, marks_of(book)))
     for step, program in zip(work.steps, crew):
         case.known[step] = done_by(program)
     for number, log in enumerate(book):

@@ -5,7 +5,7 @@ import unittest
 
 from stepsunread.answers import answer_in
 from stepsunread.asking import ask, is_sure, shows_answers, sure_facts
-from stepsunread.cases import Case
+from stepsunread.cases import new_case
 from stepsunread.errors import BadBook, BadQuestion, NoStep, NoWorld
 from stepsunread.halts import Halt
 from stepsunread.layouts import Layout
@@ -205,11 +205,11 @@ class KnownEarly(unittest.TestCase):
         choices = [(("next", "on", ()), ("read", "a")), (("next", "back", ()), ("read", "c")),
                    (("next", "on", (("a", 0),)), ("end", (0,))), (("next", "on", (("a", 1),)), ("end", (1,))),
                    (("next", "back", (("c", 0),)), ("end", (1,))), (("next", "back", (("c", 1),)), ("end", (0,)))]
-        case = Case(Layout(work, book, ()))
+        case = new_case(Layout(work, book, ()))
         for point, thing in choices:
             with self.assertRaises(Halt):
                 answer_in(case, ("rests",))
-            case.choose(point, thing)
+            case = case.with_choice(point, thing)
         self.assertIs(answer_in(case, ("rests",)), False)
 
     def test_aside_and_apart(self):
