@@ -49,7 +49,12 @@ def is_way(part, value):
 
 def is_contents(part, value):
     """Whether the value is a tuple with a content for each file that the step writes."""
-    return is_row(value, [part.widths[file] for file in part.outputs])
+    if not isinstance(value, tuple) or len(value) != len(part.outputs):
+        return False
+    for item, file in zip(value, part.outputs):
+        if not is_below(item, part.widths[file]):
+            return False
+    return True
 
 
 def is_end(part, value):

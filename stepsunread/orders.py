@@ -37,9 +37,12 @@ class Check:
         if not isinstance(branches, tuple) or len(branches) != part.widths[file]:
             return False
         beyond = files + (file,)
-        for content, branch in enumerate(branches):
-            if not self.can_stand(branch, beyond, bits | self.breaks.off_by((file, content))):
+        content = 0
+        for branch in branches:
+            off = bits | self.breaks.off_by((file, content)) if self.breaks.broken else 0
+            if not self.can_stand(branch, beyond, off):
                 return False
+            content += 1
         return True
 
 

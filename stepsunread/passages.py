@@ -75,19 +75,18 @@ class Passage:
         numbers = [number] if partner is None else [number, partner]
         left = {}
         for log in numbers:
-            many = len(self.book[log]) - len(body_of(self.book[log]))
-            self.rows[log] = [stand] * (many + 1)
+            # One stand at the beginning, and one behind after or beside.
+            self.rows[log] = [stand] if link_of(self.book[log]) is None else [stand, stand]
             left[log] = list(self.hands[log])
-        for log in self.sequence(number, partner):
-            self.go_on(machine, log, left[log])
+        if partner is None:
+            for _ in body_of(self.book[number]):
+                self.go_on(machine, number, left[number])
+        else:
+            for item in self.weaves[partner]:
+                log = partner if item == 1 else number
+                self.go_on(machine, log, left[log])
         for log in numbers:
             self.lasts[log] = machine.stand
-
-    def sequence(self, number, partner):
-        """The numbers of the logs whose next events come, in the sequence in which they come."""
-        if partner is None:
-            return [number] * len(body_of(self.book[number]))
-        return [partner if item == 1 else number for item in self.weaves[partner]]
 
     def go_on(self, machine, log, contents):
         """The next event of the log comes."""
