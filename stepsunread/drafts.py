@@ -56,7 +56,9 @@ class Draft:
 
     def take_step(self, words):
         """Take step NAME KIND MOST."""
-        if len(words) != 4 or not self.is_between_steps() or len(self.parts) == MOST_STEPS:
+        if len(words) != 4 or not self.widths or len(self.parts) == MOST_STEPS:
+            return False
+        if self.last is not None and self.last.outputs == ():
             return False
         _, name, kind, most = words
         if most not in MOSTS or kind not in KINDS or name in self.parts or not is_name(name):
@@ -64,10 +66,6 @@ class Draft:
         self.last = Part(name, kind, MOSTS[most])
         self.parts[name] = self.last
         return True
-
-    def is_between_steps(self):
-        """Whether there is a file, and the last step, if any, has all that it needs."""
-        return bool(self.widths) and (self.last is None or self.is_whole())
 
     def is_whole(self):
         """Whether nothing lacks at the end."""
@@ -77,8 +75,8 @@ class Draft:
         """Whether these are different files, one at least and at most so many."""
         if not 1 <= len(names) <= most:
             return False
-        for at, name in enumerate(names):
-            if name not in self.widths or name in names[:at]:
+        for name in names:
+            if name not in self.widths or names.count(name) > 1:
                 return False
         return True
 

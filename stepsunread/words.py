@@ -6,9 +6,8 @@ MOST_DIGITS = 9
 
 def is_name(word):
     """Whether the word is 1 to 8 letters a to z."""
-    if not 1 <= len(word) <= MOST_LETTERS:
-        return False
-    return word.isascii() and word.isalpha() and word.islower()
+    # An empty word has no letters.
+    return len(word) <= MOST_LETTERS and word.isalpha() and word.islower() and word.isascii()
 
 
 def number(word):
