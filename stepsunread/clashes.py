@@ -1,8 +1,8 @@
 """Notes that contradict, and notes that are enough for an answer."""
 
 from stepsunread.books import is_book
-from stepsunread.errors import BadBook, BadQuestion, NoWorld, NotSure
-from stepsunread.finding import answers_of, has_world
+from stepsunread.errors import BadBook, BadQuestion, NoWorld
+from stepsunread.finding import has_world, only_answer
 from stepsunread.forms import is_pair
 from stepsunread.layouts import Layout
 from stepsunread.looking import is_same, leaf_answers
@@ -36,13 +36,9 @@ def grounds(work, book, question):
     """(marks, answer, tree) of notes that are enough for the only answer: BadBook, BadQuestion, NotSure, NoWorld."""
     if not is_question(work, book, question):
         raise BadQuestion(question)
-    answers = answers_of(work, book, question)
-    if not answers:
-        raise NoWorld(None)
-    if len(answers) > 1:
-        raise NotSure(answers)
-    marks, tree = strip(work, book, question, answers)
-    return marks, answers[0], tree
+    answer = only_answer(work, book, question)
+    marks, tree = strip(work, book, question, (answer,))
+    return marks, answer, tree
 
 
 def shows_grounds(work, book, question, value):

@@ -1,6 +1,7 @@
 """What the leaves of trees tell of the worlds that fit: answers, numbers, sure facts."""
 
 from stepsunread.answers import answer_in
+from stepsunread.errors import NoWorld, NotSure
 from stepsunread.growth import Growth
 from stepsunread.layouts import Layout
 from stepsunread.making import case_of_world, some_world
@@ -70,6 +71,16 @@ def answers_of(work, book, question):
     finding = Finding(Layout(work, book, ()), question)
     finding.grow()
     return tuple(by_text(question, list(finding.found)))
+
+
+def only_answer(work, book, question):
+    """The only answer of worlds that fit: NotSure, NoWorld."""
+    answers = answers_of(work, book, question)
+    if not answers:
+        raise NoWorld(None)
+    if len(answers) > 1:
+        raise NotSure(answers)
+    return answers[0]
 
 
 def answer_of_world(work, book, world, question):

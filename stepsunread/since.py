@@ -1,9 +1,9 @@
 """From which note on something was known."""
 
 from stepsunread.books import is_book
-from stepsunread.errors import BadBook, BadLog, BadQuestion, NoWorld, NotSure
+from stepsunread.errors import BadBook, BadLog, BadQuestion
 from stepsunread.events import link_of
-from stepsunread.finding import Finding, answer_of_world, answers_of
+from stepsunread.finding import Finding, answer_of_world, only_answer
 from stepsunread.forms import is_below, is_pair
 from stepsunread.layouts import Layout
 from stepsunread.looking import leaf_answers
@@ -19,12 +19,7 @@ def check_since(work, book, log, question):
         raise BadLog(log)
     if not is_question(work, book, question) or names_log(question):
         raise BadQuestion(question)
-    answers = answers_of(work, book, question)
-    if not answers:
-        raise NoWorld(None)
-    if len(answers) > 1:
-        raise NotSure(answers)
-    return answers[0]
+    return only_answer(work, book, question)
 
 
 def cut(book, log, number):
