@@ -10,6 +10,14 @@ from stepsunread.forms import is_thing
 from stepsunread.rules import Breaks
 
 
+def power(number, many):
+    """The product of so many factors, each of them the number."""
+    total = 1
+    for _ in range(many):
+        total = total * number
+    return total
+
+
 class Check:
     """Looks at a value that may be a program, from its first read down."""
 
@@ -165,7 +173,7 @@ class Orders:
         """How many ways there are to go on from the open places along the order."""
         total = 1
         for (depth, bits), many in places.items():
-            total = total * self.free_row(order[depth:], is_flat, bits) ** many
+            total = total * power(self.free_row(order[depth:], is_flat, bits), many)
         return total
 
     def orders(self, levels):

@@ -142,6 +142,14 @@ class LanguageTest(unittest.TestCase):
                         if isinstance(sign, (ast.Is, ast.IsNot)):
                             self.assertIn(getattr(right, "value", 0), (None, True, False), name)
 
+    def test_powers_have_literal_exponents(self):
+        for name, _, tree in modules():
+            for node in ast.walk(tree):
+                if isinstance(node, (ast.BinOp, ast.AugAssign)) and isinstance(node.op, ast.Pow):
+                    exponent = node.right if isinstance(node, ast.BinOp) else node.value
+                    self.assertIsInstance(exponent, ast.Constant, (name, node.lineno))
+                    self.assertIn(exponent.value, range(65), (name, node.lineno))
+
     def test_names(self):
         for name, text, tree in modules():
             taken = {alias.name for node in tree.body if isinstance(node, ast.ImportFrom) for alias in node.names}
