@@ -43,6 +43,25 @@ class Case:
         beyond.go()
         return beyond
 
+    def going_on(self, layout, number, stand):
+        """The case, by a layout in which this log, which is alone and worked out, goes on to the stand."""
+        walks = list(self.walks)
+        at = layout.group_numbers[number]
+        walks[at] = walks[at].copy()
+        walks[at].stand = stand
+        return Case(layout, self.chosen, self.known, walks, self.wrong)
+
+    def with_choices(self, told):
+        """The case behind choices more for points that are contents, all logs being worked out."""
+        chosen = {point: self.chosen[point] for point in self.chosen}
+        for point in told:
+            chosen[point] = told[point]
+        return Case(self.layout, chosen, self.known, self.walks, self.wrong)
+
+    def branches(self, point):
+        """The cases behind each thing that the point can be."""
+        return [self.with_choice(point, thing) for thing in self.things(point)]
+
     def content(self, told):
         """The content that is told, as an integer or by its point."""
         if isinstance(told, int):

@@ -42,6 +42,22 @@ class Layout:
         self.known_things = {}
         self.known_counts = {}
 
+    def going_on(self, number, events):
+        """The layout of the book in which this log, which is alone, has these events more, all noted."""
+        twin = Layout(self.work, (), ())
+        twin.book = self.book[:number] + (self.book[number] + events,) + self.book[number + 1:]
+        twin.left = self.left
+        twin.groups = self.groups
+        twin.group_numbers = self.group_numbers
+        twin.turns_open = self.turns_open
+        twin.known_things = self.known_things
+        twin.known_counts = self.known_counts
+        twin.hands = {mark: self.hands[mark] for mark in self.hands}
+        for at, event in enumerate(events, start=len(self.book[number])):
+            if event[0] == "set":
+                twin.hands[number, at] = event[2]
+        return twin
+
     def first_logs(self):
         """The numbers of the logs at whose beginning nothing is known."""
         return [numbers[0] for numbers in self.groups if link_of(self.book[numbers[0]]) is None]

@@ -123,6 +123,11 @@ def is_question(work, book, value):
     """Whether the value is a question about the book: BadBook."""
     if not is_book(work, book):
         raise BadBook(book)
+    return is_asked(work, book, value)
+
+
+def is_asked(work, book, value):
+    """Whether the value is a question about the book, which is one (but for how long its logs are)."""
     if not isinstance(value, tuple) or not value or not isinstance(value[0], str):
         return False
     if value[0] not in PARTS or len(value) != 1 + len(PARTS[value[0]]):
@@ -135,7 +140,6 @@ def is_question(work, book, value):
             return False
         told[kind] = part
     return True
-
 
 
 def names_log(question):

@@ -1,9 +1,14 @@
 """The texts of answers, by which they are told in sequence."""
 
 
+def content_text(content):
+    """The text of a content, perhaps not noted."""
+    return "?" if content is None else str(content)
+
+
 def contents_text(contents):
-    """The text of a tuple of contents."""
-    return ",".join([str(content) for content in contents]) or "-"
+    """The text of a tuple of contents, of which some are perhaps not noted."""
+    return ",".join([content_text(content) for content in contents]) or "-"
 
 
 def names_text(names):
@@ -11,13 +16,23 @@ def names_text(names):
     return ",".join(names) or "-"
 
 
+def part_text(part):
+    """The text of a part of reads, perhaps a gap, perhaps not noted."""
+    if part is None:
+        return ".."
+    file, content = part
+    return ("?" if file is None else file) + ":" + content_text(content)
+
+
 def way_text(way):
-    """The text of a way."""
-    return ",".join([file + ":" + str(content) for file, content in way]) or "-"
+    """The text of a way, or of reads."""
+    return ",".join([part_text(part) for part in way]) or "-"
 
 
 def end_text(end):
-    """The text of an end."""
+    """The text of an end, perhaps not noted."""
+    if end is None:
+        return "*"
     return "fail" if end == "fail" else contents_text(end)
 
 

@@ -13,6 +13,11 @@ def is_world(work, book, value):
     """Whether the value is a world of the book, by its form: BadBook."""
     if not is_book(work, book):
         raise BadBook(book)
+    return has_form(work, book, value)
+
+
+def has_form(work, book, value):
+    """Whether the value has the form of a world of the book, which is one (but for how long its logs are)."""
     if not isinstance(value, tuple) or len(value) != 4:
         return False
     crew, firsts, hands, weaves = value
@@ -59,7 +64,17 @@ def passage(work, book, world):
 
 def is_fitting(work, book, value):
     """Whether the value is a world of the book that fits: BadBook."""
-    return is_world(work, book, value) and not Passage(work, book, value).misfits
+    return is_world(work, book, value) and is_as_noted(work, book, value)
+
+
+def is_as_noted(work, book, world):
+    """Whether all events are as noted in the world, which is one of the book."""
+    return not Passage(work, book, world).misfits
+
+
+def last_stand(work, book, world, number):
+    """The stand at the end of the log of this number, in the world, which is one of the book."""
+    return Passage(work, book, world).rows[number][-1]
 
 
 def misfits(work, book, world):

@@ -1,0 +1,127 @@
+"""Worlds that no acts ever tell apart."""
+
+from stepsunread.books import is_book
+from stepsunread.errors import BadBook, BadLog, BadQuestion, NoWorld
+from stepsunread.finding import answer_of_world
+from stepsunread.forms import is_stand
+from stepsunread.goals import answers_in, last_stands
+from stepsunread.halts import Halt
+from stepsunread.machines import Machine
+from stepsunread.making import some_world
+from stepsunread.outlooks import cases_of
+from stepsunread.probing import come, is_log_to_act_on, prepared, writings
+from stepsunread.questions import is_asked
+from stepsunread.worlds import is_fitting, last_stand
+
+
+def check_hidden(work, book, log, question):
+    """Cases that part all worlds that fit: BadBook, BadLog, BadQuestion, NoWorld."""
+    if not is_book(work, book):
+        raise BadBook(book)
+    if not is_log_to_act_on(book, log):
+        raise BadLog(log)
+    if not is_asked(work, book, question):
+        raise BadQuestion(question)
+    cases = cases_of(work, book)
+    if not cases:
+        raise NoWorld(None)
+    return cases
+
+
+def probes_of(work):
+    """All probes that write."""
+    return [("probe", contents, step) for contents in writings(work) for step in work.steps]
+
+
+class Group:
+    """Worlds that were not told apart so far: cases, and the stands to which acts can lead."""
+
+    def __init__(self, cases, stands, done):
+        self.cases = cases
+        self.stands = stands
+        # How many probes were looked at, of all that can be made at one stand, at the next one, and so on.
+        self.done = done
+
+    def parted(self, probes):
+        """The groups into which the next probe parts the worlds; None if there is no other probe."""
+        if self.done == len(self.stands) * len(probes):
+            return None
+        stand, probe = self.stands[self.done // len(probes)], probes[self.done % len(probes)]
+        found = {}
+        ahead = list(self.cases)
+        while ahead:
+            case = ahead.pop()
+            try:
+                outcome, beyond = come(case, probe, stand)
+            except Halt as halt:
+                ahead += case.branches(halt.point)
+                continue
+            stands = self.stands if beyond in self.stands else self.stands + (beyond,)
+            found.setdefault(outcome, Group([], stands, self.done + 1)).cases.append(case)
+        return list(found.values())
+
+
+def first_groups(cases, number):
+    """The groups of worlds in which the log ends alike."""
+    groups = {}
+    for case in cases:
+        for stand, told in last_stands([case], number).items():
+            groups.setdefault(stand, Group([], (stand,), 0)).cases.append(told)
+    return list(groups.values())
+
+
+def hidden(work, book, log, question):
+    """(world, other, stands) of two worlds never told apart that give unlike answers, None if there are none.
+
+    BadBook, BadLog, BadQuestion, NoWorld.
+    """
+    cases = check_hidden(work, book, log, question)
+    probes = probes_of(work)
+    ahead = first_groups(cases, log)
+    while ahead:
+        group = ahead.pop()
+        found = answers_in(group.cases, question, 2)
+        if len(found) < 2:
+            continue
+        groups = [group]
+        # As long as nothing is told apart, the answers stay unlike.
+        while len(groups) == 1:
+            group = groups[0]
+            groups = group.parted(probes)
+            if groups is None:
+                one, other = list(answers_in(group.cases, question, 2).values())
+                return some_world(one), some_world(other), tuple(sorted(group.stands))
+        ahead += groups
+    return None
+
+
+def shows_hidden(work, book, log, question, value):
+    """Whether the value is what hidden could tell, with any stands: BadBook, BadLog, BadQuestion, NoWorld."""
+    check_hidden(work, book, log, question)
+    if value is None:
+        return hidden(work, book, log, question) is None
+    if not isinstance(value, tuple) or len(value) != 3 or not isinstance(value[2], tuple):
+        return False
+    world, other, stands = value
+    if not is_fitting(work, book, world) or not is_fitting(work, book, other):
+        return False
+    if not all([is_stand(work, stand) for stand in stands]):
+        return False
+    if any([stand >= later for stand, later in zip(stands, stands[1:])]):
+        return False
+    if any([last_stand(work, book, told, log) not in stands for told in (world, other)]):
+        return False
+    if not is_shut(work, world[0], other[0], stands):
+        return False
+    return answer_of_world(work, book, world, question) != answer_of_world(work, book, other, question)
+
+
+def is_shut(work, crew, other, stands):
+    """Whether both crews do the same at the stands behind each writing of the sources, and lead to no other stands."""
+    for stand in stands:
+        for probe in probes_of(work):
+            begin = prepared(work, probe, stand)
+            machine, beside = Machine(work, crew, begin), Machine(work, other, begin)
+            if machine.run_whole(probe[2]) != beside.run_whole(probe[2]) or machine.stand not in stands:
+                return False
+    return True
