@@ -1,12 +1,12 @@
 """The cheapest acts behind which a goal is reached."""
 
-from stepsunread.books import is_book
-from stepsunread.errors import BadBook, BadCount, BadGoal, BadLog, BadPrices, BadTruth, NoWorld
+from stepsunread.errors import BadCount, BadGoal, BadLog, BadPrices, BadTruth, NoWorld
 from stepsunread.forms import is_below
 from stepsunread.goals import is_goal
 from stepsunread.keys import are_prices
 from stepsunread.outlooks import Search
 from stepsunread.probing import all_acts, hands_of, is_log_to_act_on, price_of
+from stepsunread.studies import study_of
 
 MOST_ACTS = 3
 # What as many acts cost at most.
@@ -15,8 +15,7 @@ GREATEST_SUM = 27
 
 def check_acts(work, book, log, goal, prices, most, is_writing):
     """The search: BadBook, BadLog, BadGoal, BadPrices, BadCount, BadTruth, NoWorld."""
-    if not is_book(work, book):
-        raise BadBook(book)
+    study = study_of(work, book)
     if not is_log_to_act_on(book, log):
         raise BadLog(log)
     if not is_goal(work, book, goal):
@@ -27,7 +26,7 @@ def check_acts(work, book, log, goal, prices, most, is_writing):
         raise BadCount(most)
     if not isinstance(is_writing, bool):
         raise BadTruth(is_writing)
-    search = Search(work, book, log, goal)
+    search = Search(study, log, goal)
     if not search.first.cases:
         raise NoWorld(None)
     return search

@@ -21,20 +21,20 @@ def last_stand(case, number):
 def stood(case, question):
     """A content behind so many events of a log."""
     _, number, moment, file = question
-    stand = case.walk_of(number).rows[number][moment][0]
+    stand = case.walk_of(number).row(number, moment)[0]
     return case.content(content_at(case.layout.work, stand, file))
 
 
 def ran(case, question):
     """(way, end) of a run of a log."""
     _, number, at = question
-    return case.walk_of(number).runs[number, at]
+    return case.walk_of(number).run_at(number, at)
 
 
 def wrote(case, question):
     """The mark of the event by which a content came to be written."""
     _, number, moment, file = question
-    writers = case.walk_of(number).rows[number][moment][1]
+    writers = case.walk_of(number).row(number, moment)[1]
     return content_at(case.layout.work, writers, file)
 
 
@@ -42,11 +42,10 @@ def had(case, question):
     """A content at the end of a log, if a hand had written another one."""
     _, number, at, content, file = question
     told = case.walk_of(number)
-    stand, writers = told.rows[told.numbers[0]][0]
+    stand, writers = told.first
     walk = Walk(case.layout, told.numbers, stand, writers)
     walk.begin()
-    walk.changed[number, at] = content
-    walk.is_asking = False
+    walk.changed = {(number, at): content}
     walk.go(case)
     if walk.halt is not None:
         raise Halt(walk.halt)
@@ -149,7 +148,7 @@ def turns(case, question):
     _, number, changes = question
     files, contents = [item[0] for item in changes], [item[1] for item in changes]
     found = Sweeps(case, written(case.layout.work, last_stand(case, number), files, contents))
-    return None if found.last is None else tuple(sorted(found.changing))
+    return None if found.last is None else tuple(sorted(set(found.changing)))
 
 
 def rests(case, question):

@@ -1,14 +1,16 @@
 """Cases: what was chosen of a book, and what was worked out by that."""
 
-from stepsunread.events import link_of
 from stepsunread.forms import is_below, is_way
 from stepsunread.halts import Halt
 from stepsunread.walks import Walk
 
 
-def new_case(layout):
-    """The case in which nothing was chosen, and nothing worked out so far."""
-    return Case(layout, {}, {step: {} for step in layout.work.steps}, [None] * len(layout.groups), [])
+def new_case(layout, is_hasty=False):
+    """The case in which nothing was chosen, worked out so far."""
+    case = Case(layout, {}, {step: {} for step in layout.work.steps}, [None] * len(layout.groups), [])
+    case.is_hasty = is_hasty
+    case.go()
+    return case
 
 
 class Case:
@@ -26,80 +28,150 @@ class Case:
         self.known = known
         self.walks = walks
         self.wrong = wrong
+        # Whether nothing is worked out any more as soon as one event is wrong, and what can be one thing
+        # alone, but for what is wrong at once, is chosen as soon as it is needed.
+        self.is_hasty = False
+        # (point, things, marks that shut them, number of the thing) for each of these choices.
+        self.decided = []
+        # By points at which walks halt: (things, marks that shut them), as far as nothing was chosen since.
+        self.asked = {}
+        # The walk that goes on.
+        self.walking = None
+        # What was worked out of steps at stands by the choices so far (see stepsunread/sweeping.py): by
+        # (step, stand), and these in their sequence.
+        self.memory = {}
+        self.remembered = []
+
+    def copy(self):
+        """A case in which as much was chosen, and that goes on by itself."""
+        chosen = {point: self.chosen[point] for point in self.chosen}
+        known = {}
+        for step, told in self.known.items():
+            known[step] = {way: told[way] for way in told}
+        # A walk that is over does not change any more.
+        walks = [walk if walk is None or walk.is_over else walk.copy() for walk in self.walks]
+        twin = Case(self.layout, chosen, known, walks, list(self.wrong))
+        twin.is_hasty = self.is_hasty
+        return twin
+
+    def choose(self, point, thing):
+        """One choice more, worked out."""
+        self.asked = {}
+        if point[0] == "next":
+            self.known[point[1]][point[2]] = thing
+        else:
+            self.chosen[point] = thing
+        self.go()
+
+    def try_out(self, point, thing):
+        """One choice more, or in the place of another one, all logs being worked out."""
+        if point[0] == "next":
+            self.known[point[1]][point[2]] = thing
+        else:
+            self.chosen[point] = thing
+
+    def take_back(self, point):
+        """The choice that was tried out last is taken back."""
+        if point[0] == "next":
+            del self.known[point[1]][point[2]]
+        else:
+            del self.chosen[point]
+
+    def remember(self, place, told):
+        """What was worked out of (step, stand) by the choices so far."""
+        self.memory[place] = told
+        self.remembered.append(place)
+        return told
+
+    def forget(self, many):
+        """What was remembered behind so many is no more."""
+        while len(self.remembered) > many:
+            self.memory.pop(self.remembered.pop(), None)
 
     def with_choice(self, point, thing):
-        """The case behind one choice more, worked out."""
-        chosen, known = self.chosen, self.known
-        # Cases share their choices, and how far they were worked out: what changes is copied.
-        if point[0] == "next":
-            told = known[point[1]]
-            known = {step: known[step] for step in known}
-            known[point[1]] = {way: told[way] for way in told}
-            known[point[1]][point[2]] = thing
-        else:
-            chosen = {other: chosen[other] for other in chosen}
-            chosen[point] = thing
-        beyond = Case(self.layout, chosen, known, list(self.walks), list(self.wrong))
-        beyond.go()
+        """Another case, with one choice more."""
+        beyond = self.copy()
+        beyond.choose(point, thing)
         return beyond
 
+    def with_choices(self, told):
+        """Another case, with choices more for points that are contents, all logs being worked out."""
+        beyond = self.copy()
+        for point in told:
+            beyond.chosen[point] = told[point]
+        return beyond
+
+    def branches(self, point):
+        """Other cases, one for each thing that the point can be."""
+        return [self.with_choice(point, thing) for thing in self.things(point)]
+
     def going_on(self, layout, number, stand):
-        """The case, by a layout in which this log, which is alone and worked out, goes on to the stand."""
+        """Another case, by a layout in which this log, which is alone and worked out, goes on to the stand."""
         walks = list(self.walks)
         at = layout.group_numbers[number]
         walks[at] = walks[at].copy()
         walks[at].stand = stand
         return Case(layout, self.chosen, self.known, walks, self.wrong)
 
-    def with_choices(self, told):
-        """The case behind choices more for points that are contents, all logs being worked out."""
-        chosen = {point: self.chosen[point] for point in self.chosen}
-        for point in told:
-            chosen[point] = told[point]
-        return Case(self.layout, chosen, self.known, self.walks, self.wrong)
-
-    def branches(self, point):
-        """The cases behind each thing that the point can be."""
-        return [self.with_choice(point, thing) for thing in self.things(point)]
-
     def content(self, told):
         """The content that is told, as an integer or by its point."""
         if isinstance(told, int):
             return told
-        if told not in self.chosen:
-            raise Halt(told)
-        return self.chosen[told]
+        if told in self.chosen:
+            return self.chosen[told]
+        return self.decide(told)
 
     def thing(self, step, way):
         """What the program does behind the way."""
         known = self.known[step]
-        if way not in known:
-            raise Halt(("next", step, way))
-        return known[way]
+        return known[way] if way in known else self.decide(("next", step, way))
+
+    def decide(self, point):
+        """The only thing that the point, which is needed, can be; Halt if there are others, or nobody asked."""
+        if not self.is_hasty:
+            raise Halt(point)
+        things = self.things(point)
+        marks = self.walking.barring(self, point, things)
+        if marks.count(None) != 1:
+            self.asked[point] = things, marks
+            raise Halt(point)
+        self.asked = {}
+        at = marks.index(None)
+        self.decided.append((point, things, marks, at))
+        self.try_out(point, things[at])
+        return things[at]
 
     def note_wrong(self, mark):
         """The event is wrong."""
         if mark not in self.wrong:
             self.wrong.append(mark)
+        if self.is_hasty:
+            raise Halt(None)
 
     def go(self):
         """Work all logs out as far as the choices lead."""
-        for at, numbers in enumerate(self.layout.groups):
-            walk = self.walks[at]
-            if walk is None:
-                walk = self.begin(numbers)
-            elif walk.is_over or not self.is_chosen(walk.halt):
-                continue
-            else:
-                walk = walk.copy()
-            if walk is not None:
-                walk.go(self)
-                self.walks[at] = walk
+        is_going = True
+        while is_going:
+            is_going = False
+            for at, numbers in enumerate(self.layout.groups):
+                walk = self.walks[at]
+                if walk is None:
+                    walk = self.begin(numbers)
+                    self.walks[at] = walk
+                elif walk.is_over or not self.is_chosen(walk.halt):
+                    continue
+                if walk is not None:
+                    self.walking = walk
+                    walk.go(self)
+                    if self.wrong and self.is_hasty:
+                        return
+                    # What was decided here may be what others halt at.
+                    is_going = self.decided != []
 
     def begin(self, numbers):
         """The walk of these logs at their beginning, None as long as that is not worked out."""
         layout = self.layout
-        link = link_of(layout.book[numbers[0]])
+        link = layout.outline.links[numbers[0]]
         if link is None:
             stand, writers = layout.first_stand(numbers[0]), (None,) * len(layout.work.files)
         else:
@@ -126,6 +198,15 @@ class Case:
             if walk is not None and not walk.is_over and walk.halt not in points:
                 points.append(walk.halt)
         return points
+
+    def barring(self, point, things):
+        """For each thing that the point can be: the mark of an event that is wrong then, None where none is seen."""
+        marks = [None] * len(things)
+        for walk in self.walks:
+            if walk is not None and not walk.is_over and walk.halt == point:
+                found = walk.barring(self, point, things)
+                marks = [mark or other for mark, other in zip(marks, found)]
+        return marks
 
     def is_worked_out(self):
         """Whether all logs have come to their end."""
@@ -167,7 +248,7 @@ class Case:
         if word not in ("first", "hand", "weave") or not is_below(value[1], len(self.layout.book)):
             return False
         if word == "first":
-            is_point = value[2] in self.layout.work.files and link_of(self.layout.book[value[1]]) is None
+            is_point = value[2] in self.layout.work.files and self.layout.outline.links[value[1]] is None
         elif word == "hand":
             # Sets of which it is noted what they wrote are no points.
             is_point = is_below(value[2], len(self.layout.book[value[1]])) and self.layout.hands.get(value[1:]) == value

@@ -1,29 +1,32 @@
 """How many worlds fit, and how they are shared among the answers to a question."""
 
-from stepsunread.books import is_book
-from stepsunread.errors import BadBook, BadMarks, BadQuestion
-from stepsunread.finding import Counting
-from stepsunread.layouts import Layout
+from stepsunread.asking import study_asked
+from stepsunread.errors import BadMarks
+from stepsunread.finding import contents_of, programs_of, shares_of
+from stepsunread.growth import asked_by
 from stepsunread.marks import are_marks
-from stepsunread.questions import is_question
+from stepsunread.studies import study_of
 from stepsunread.wording import by_text
 
 
 def worlds(work, book, *, left=()):
     """How many worlds fit but for left out marks: BadBook, BadMarks."""
-    if not is_book(work, book):
-        raise BadBook(book)
+    study = study_of(work, book)
     if not are_marks(book, left):
         raise BadMarks(left)
-    counting = Counting(Layout(work, book, left), None)
-    counting.grow()
-    return counting.counts.get(None, 0)
+    return sum([programs_of(case) * contents_of(case) for case in study.grown(left, ()).all_cases()])
 
 
 def shares(work, book, question):
     """(answer, number) for each answer, with the number of worlds that fit and give it: BadBook, BadQuestion."""
-    if not is_question(work, book, question):
-        raise BadQuestion(question)
-    counting = Counting(Layout(work, book, ()), question)
-    counting.grow()
-    return tuple([(answer, counting.counts[answer]) for answer in by_text(question, list(counting.counts))])
+    study = study_asked(work, book, question)
+    counts, seen = {}, {}
+    for case in study.grown((), study.logs_of(question)).all_cases():
+        key = asked_by(case, question)
+        rows = seen[key] if key in seen else shares_of(case, question)
+        if key:
+            seen[key] = rows
+        whole = contents_of(case)
+        for answer, crews, part in rows:
+            counts[answer] = counts.get(answer, 0) + crews * (whole // part)
+    return tuple([(answer, counts[answer]) for answer in by_text(question, list(counts))])

@@ -1,29 +1,62 @@
-"""What the leaves of trees tell of the worlds that fit: answers, numbers, sure facts."""
+"""What the leaves of trees tell of the worlds that fit: answers, and how many worlds there are."""
 
-from stepsunread.answers import answer_in
 from stepsunread.errors import NoWorld, NotSure
-from stepsunread.growth import Growth
-from stepsunread.layouts import Layout
-from stepsunread.making import case_of_world, some_world
+from stepsunread.growth import Asking, asked_by
+from stepsunread.making import some_world
 from stepsunread.wording import by_text
 
 
-class Finding(Growth):
-    """Finds the answers of worlds that fit, but those that are known; with a most, no more than so many."""
+class Finding:
+    """Finds the answers of worlds that fit, but those that are known; with a most, no more than so many.
 
-    def __init__(self, layout, question, known=(), most=None):
-        Growth.__init__(self, layout, question)
+    growth: the tree without the question.
+    """
+
+    def __init__(self, growth, question, known=(), most=None):
+        self.growth = growth
+        self.question = question
         self.known = known
         self.most = most
         # By answers: the case that gave it first.
         self.found = {}
+        # By what answers hang on: the trees that tell them.
+        self.built = {}
 
-    def give(self, case, answer):
-        """A leaf gives this answer."""
-        if answer not in self.found and answer not in self.known:
-            self.found[answer] = case
+    def grow(self):
+        """The tree; None where it was left off."""
+        leaves = []
+        case = self.growth.leaf(0)
+        while case is not None:
+            grown = self.grow_answers(case)
             if len(self.found) == self.most:
-                self.is_done = True
+                return None
+            leaves.append(grown)
+            case = self.growth.leaf(len(leaves))
+        return self.growth.tree(leaves)
+
+    def grow_answers(self, case):
+        """The tree of answers that the case gives; what is as far if enough were found."""
+        if self.question is None:
+            self.note(case, None)
+            return "gives", None
+        key = asked_by(case, self.question)
+        if key in self.built:
+            return self.built[key]
+        asking = Asking(case.copy(), self.question)
+        told = asking.next_answer()
+        while told is not None:
+            self.note(asking.case, told[0])
+            if len(self.found) == self.most:
+                return None
+            told = asking.next_answer()
+        if key:
+            self.built[key] = asking.built
+        return asking.built
+
+    def note(self, case, answer):
+        """The case gives this answer by its choices now."""
+        if answer not in self.found and answer not in self.known:
+            self.found[answer] = case.copy()
 
     def answer_rows(self):
         """(answer, world) for each answer that was found, ascending by the texts of the answers."""
@@ -31,24 +64,24 @@ class Finding(Growth):
         return tuple([(answer, some_world(self.found[answer])) for answer in answers])
 
 
-class Counting(Growth):
-    """Counts the worlds that fit, by the answers that they give."""
-
-    def __init__(self, layout, question):
-        Growth.__init__(self, layout, question)
-        self.counts = {}
-
-    def give(self, case, answer):
-        """A leaf gives this answer."""
-        self.counts[answer] = self.counts.get(answer, 0) + worlds_of(case)
+def tree_of(growth, question):
+    """The tree for a question, or None."""
+    finding = Finding(growth, question)
+    return finding.grow()
 
 
-def worlds_of(case):
-    """How many worlds there are of a case in which all logs have come to their end."""
+def programs_of(case):
+    """How many crews there are in a case."""
+    total = 1
+    for step in case.layout.work.steps:
+        total = total * case.layout.count(step, case.known[step])
+    return total
+
+
+def contents_of(case):
+    """How many ways there are for contents that were not chosen in a case."""
     layout = case.layout
     total = 1
-    for step in layout.work.steps:
-        total = total * layout.count(step, case.known[step])
     for number in layout.first_logs():
         for file, point in zip(layout.work.files, layout.first_stand(number)):
             if point not in case.chosen:
@@ -59,30 +92,23 @@ def worlds_of(case):
     return total
 
 
-def has_world(work, book):
-    """Whether some world fits."""
-    finding = Finding(Layout(work, book, ()), None, (), 1)
-    finding.grow()
-    return len(finding.found) > 0
+def shares_of(case, question):
+    """(answer, crews, part) for all answers that the case gives: for one of so many parts of the contents."""
+    asking = Asking(case.copy(), question)
+    whole = contents_of(case)
+    rows = []
+    told = asking.next_answer()
+    while told is not None:
+        rows.append((told[0], programs_of(asking.case), whole // contents_of(asking.case)))
+        told = asking.next_answer()
+    return rows
 
 
-def answers_of(work, book, question):
-    """The answers of worlds that fit, ascending by their texts."""
-    finding = Finding(Layout(work, book, ()), question)
-    finding.grow()
-    return tuple(by_text(question, list(finding.found)))
-
-
-def only_answer(work, book, question):
+def only_answer(study, question):
     """The only answer of worlds that fit: NotSure, NoWorld."""
-    answers = answers_of(work, book, question)
+    answers = study.answers(question)
     if not answers:
         raise NoWorld(None)
     if len(answers) > 1:
         raise NotSure(answers)
     return answers[0]
-
-
-def answer_of_world(work, book, world, question):
-    """The answer that the world gives."""
-    return answer_in(case_of_world(work, book, world), question)

@@ -85,9 +85,9 @@ def is_stand(work, value):
 
 def content_at(work, stand, file):
     """The content of the file in the stand."""
-    return stand[work.files.index(file)]
+    return stand[work.places[file]]
 
 
 def is_content(work, file, value):
     """Whether the value is a content of the file."""
-    return is_below(value, work.sizes[work.files.index(file)])
+    return is_below(value, work.widths[file])

@@ -3,9 +3,8 @@
 Cases part all worlds that fit; all their logs have come to their end.
 """
 
-from stepsunread.answers import answer_in
 from stepsunread.forms import all_rows
-from stepsunread.halts import Halt
+from stepsunread.growth import find_answers
 from stepsunread.looking import is_same
 from stepsunread.machines import written
 from stepsunread.questions import is_asked
@@ -23,16 +22,21 @@ def is_goal(work, book, value):
     return is_asked(work, book, value[1])
 
 
+class Leaves:
+    """Cases that part all worlds that fit, one by one."""
+
+    def __init__(self, cases):
+        self.cases = cases
+
+    def leaf(self, at):
+        """The case of this number, None if there are not so many."""
+        return self.cases[at] if at < len(self.cases) else None
+
+
 def answers_in(cases, question, most):
     """By answers that the cases give, no more than so many: a case that gives it."""
     found = {}
-    ahead = list(cases)
-    while ahead and len(found) < most:
-        case = ahead.pop()
-        try:
-            found.setdefault(answer_in(case, question), case)
-        except Halt as halt:
-            ahead += case.branches(halt.point)
+    find_answers(Leaves(cases), question, found, most)
     return found
 
 

@@ -3,86 +3,214 @@
 from stepsunread.answers import answer_in
 from stepsunread.cases import new_case
 from stepsunread.halts import Halt
+from stepsunread.questions import names_log
+from stepsunread.sweeping import settled
+
+# Questions that hang on what is known of steps, and on what stands at the end of a log.
+AT_THE_END = ("would", "fresh", "still", "swept", "sweeps", "turns", "aside")
 
 
 class Fork:
-    """A point with the cases behind its choices, and the trees that have grown from the first ones."""
+    """A point of a tree, and the case in which its things are chosen one by one."""
 
-    def __init__(self, point, cases):
+    def __init__(self, point, choices, marks, case):
         self.point = point
-        self.cases = cases
-        self.grown = []
+        self.choices = choices
+        # For each thing the mark of the event that shuts it at once, or None.
+        self.marks = marks
+        self.case = case
+        # How many things have been gone through, and how many of the others are not shut at once.
+        self.reached = 0
+        self.many = marks.count(None)
+
+    def next_case(self):
+        """The case behind the next thing."""
+        thing = self.choices[self.reached]
+        self.reached += 1
+        self.many -= 1
+        # The case itself goes on with the last one.
+        case = self.case.copy() if self.many else self.case
+        case.choose(self.point, thing)
+        return case
 
 
 class Growth:
-    """Grows a tree for a layout and a question (or None), leaf by leaf.
+    """Grows a tree for a layout: cases are the ones of its leaves that fit, as far as they were asked for."""
 
-    What is to be known of leaves that give an answer is told by classes below, by their give.
-    """
-
-    def __init__(self, layout, question):
+    def __init__(self, layout):
         self.layout = layout
-        self.question = question
-        # Set where no more leaves are needed.
+        self.cases = []
+        # The forks from the first one down, a stack of its own: trees grow deeper than calls should.
+        self.forks = []
+        # What has been built, from below: leaves that are shut, None for each that fits, (point, number of trees).
+        self.built = []
         self.is_done = False
 
-    def give(self, case, answer):
-        """A leaf gives this answer."""
+    def leaf(self, at):
+        """The case of the leaf of this number that fits, None if there are not so many."""
+        if not self.built and not self.forks:
+            self.take(new_case(self.layout, True))
+        while len(self.cases) <= at and not self.is_done:
+            self.take(self.forks[-1].next_case())
+        return self.cases[at] if at < len(self.cases) else None
 
-    def grow(self):
-        """The tree; None where it was left off."""
-        case = new_case(self.layout)
-        case.go()
-        # A stack of its own, as trees grow deeper than calls should.
-        forks = [Fork(None, [case])]
-        while not self.is_done:
-            fork = forks[-1]
-            if len(fork.grown) < len(fork.cases):
-                forks.append(self.go_on(fork.cases[len(fork.grown)]))
-                if forks[-1].point is None:
-                    leaf = forks.pop()
-                    fork.grown += leaf.grown
+    def all_cases(self):
+        """The cases of all leaves that fit."""
+        while self.leaf(len(self.cases)) is not None:
+            continue
+        return self.cases
+
+    def take(self, case):
+        """The case is a leaf, or a fork comes there."""
+        for point, choices, marks, at in case.decided:
+            self.built += [("shut",) + mark for mark in marks[:at]]
+            fork = Fork(point, choices, marks, case)
+            fork.reached = at + 1
+            self.forks.append(fork)
+        case.decided = []
+        points = [] if case.wrong else case.halts()
+        if points:
+            self.forks.append(best_fork(case, points))
+        elif case.wrong:
+            self.built.append(("shut",) + case.wrong[0])
+        else:
+            self.built.append(None)
+            case.is_hasty = False
+            self.cases.append(case)
+        self.go_on()
+
+    def go_on(self):
+        """Go on up to a thing that is not shut at once, or to the end."""
+        while self.forks:
+            fork = self.forks[-1]
+            marks = fork.marks
+            while fork.reached < len(marks) and marks[fork.reached] is not None:
+                self.built.append(("shut",) + marks[fork.reached])
+                fork.reached += 1
+            if fork.reached < len(marks):
+                return
+            self.built.append((fork.point, len(marks)))
+            self.forks.pop()
+        self.is_done = True
+
+    def tree(self, leaves):
+        """The tree, whole, with these trees in the places of leaves that fit, of which there are as many."""
+        built = []
+        many = 0
+        for row in self.built:
+            if row is None:
+                built.append(leaves[many])
+                many += 1
+            elif row[0] == "shut":
+                built.append(row)
+            else:
+                point, number = row
+                trees = tuple(built[-number:])
+                del built[-number:]
+                built.append(("at", point, trees))
+        return built[0]
+
+
+def best_fork(case, points):
+    """The fork at the point at which the fewest things are left."""
+    best = None
+    for point in points:
+        if point in case.asked:
+            choices, marks = case.asked[point]
+        else:
+            choices = case.things(point)
+            marks = case.barring(point, choices)
+        fork = Fork(point, choices, marks, case)
+        if best is None or fork.many < best.many:
+            best = fork
+        if best.many < 2:
+            break
+    return best
+
+
+class Asking:
+    """Goes through the answers to a question in a case of which all logs have come to their end.
+
+    The case is the caller's, and nobody else's: choices are made in it, and
+    taken back again when all answers have been told.
+    """
+
+    def __init__(self, case, question):
+        self.case = case
+        self.question = question
+        # (point, things, trees that have grown, what was remembered ahead) from the first point down.
+        self.forks = []
+        # The leaf that was told last.
+        self.last = None
+        # The tree, as soon as it is whole.
+        self.built = None
+
+    def next_answer(self):
+        """A tuple of the next answer alone, which the case gives by its choices now; None if there are no more."""
+        if self.last is not None:
+            self.put(self.last)
+        while self.built is None:
+            try:
+                answer = answer_in(self.case, self.question)
+            except Halt as halt:
+                self.fork_off(halt.point)
                 continue
-            forks.pop()
-            if not forks:
-                return fork.grown[0]
-            forks[-1].grown.append(("at", fork.point, tuple(fork.grown)))
+            self.last = ("gives", answer)
+            return (answer,)
         return None
 
-    def go_on(self, case):
-        """The fork behind the case, or a leaf: one without a point that has grown already."""
-        if case.wrong:
-            return self.leaf(("shut",) + case.wrong[0])
-        points = case.halts()
-        if points:
-            return self.best_fork(case, points)
-        answer = None
-        if self.question is not None:
-            try:
-                answer = answer_in(case, self.question)
-            except Halt as halt:
-                return self.fork(case, halt.point)
-        self.give(case, answer)
-        return self.leaf(("gives", answer))
+    def fork_off(self, point):
+        """The first choice for the point."""
+        choices = self.case.things(point)
+        self.forks.append((point, choices, [], len(self.case.remembered)))
+        self.case.try_out(point, choices[0])
 
-    def leaf(self, tree):
-        """What has grown already."""
-        fork = Fork(None, [])
-        fork.grown.append(tree)
-        return fork
+    def put(self, tree):
+        """The tree has grown at the place that is next."""
+        while self.forks:
+            point, choices, grown, many = self.forks[-1]
+            grown.append(tree)
+            self.case.forget(many)
+            if len(grown) < len(choices):
+                self.case.try_out(point, choices[len(grown)])
+                return
+            self.case.take_back(point)
+            self.forks.pop()
+            tree = ("at", point, tuple(grown))
+        self.built = tree
 
-    def fork(self, case, point):
-        """The fork at the point."""
-        return Fork(point, [case.with_choice(point, thing) for thing in case.things(point)])
 
-    def best_fork(self, case, points):
-        """The fork at the point behind which the fewest cases are left."""
-        best, fewest = None, 0
-        for point in points:
-            fork = self.fork(case, point)
-            left = len([beyond for beyond in fork.cases if not beyond.wrong])
-            if best is None or left < fewest:
-                best, fewest = fork, left
-            if fewest < 2:
-                break
-        return best
+def asked_by(case, question):
+    """What the answers to the question hang on in a case of which all logs have come to their end.
+
+    Cases of which it is the same give the same answers, by the same trees; () where that is not told.
+    """
+    word = question[0]
+    if names_log(question) and word not in AT_THE_END:
+        return ()
+    # A tuple for each step, so that none of them is empty.
+    known = tuple([tuple(told.items()) for told in case.known.values()])
+    return known + settled(case, case.walk_of(question[1]).stand) if word in AT_THE_END else known
+
+
+def find_answers(cases, question, found, most):
+    """Put a case for each answer that the cases give, and that was not found so far, into found, up to so many.
+
+    cases: a Growth, or what tells its leaves likewise.
+    """
+    seen = {}
+    at = 0
+    while len(found) != most and cases.leaf(at) is not None:
+        case = cases.leaf(at)
+        at += 1
+        key = asked_by(case, question)
+        if key in seen:
+            continue
+        if key:
+            seen[key] = True
+        asking = Asking(case.copy(), question)
+        told = asking.next_answer()
+        while told is not None and len(found) != most:
+            if told[0] not in found:
+                found[told[0]] = asking.case.copy()
+            told = asking.next_answer()

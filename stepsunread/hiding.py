@@ -1,31 +1,30 @@
 """Worlds that no acts ever tell apart."""
 
-from stepsunread.books import is_book
-from stepsunread.errors import BadBook, BadLog, BadQuestion, NoWorld
-from stepsunread.finding import answer_of_world
+from stepsunread.errors import BadLog, BadQuestion, NoWorld
 from stepsunread.forms import is_stand
 from stepsunread.goals import answers_in, last_stands
 from stepsunread.halts import Halt
 from stepsunread.machines import Machine
-from stepsunread.making import some_world
-from stepsunread.outlooks import cases_of
+from stepsunread.making import answer_of_world, some_world
+from stepsunread.outlooks import cases_to_act_on
+from stepsunread.passages import Passage
 from stepsunread.probing import come, is_log_to_act_on, prepared, writings
 from stepsunread.questions import is_asked
-from stepsunread.worlds import is_fitting, last_stand
+from stepsunread.studies import study_of
+from stepsunread.worlds import is_fitting
 
 
 def check_hidden(work, book, log, question):
-    """Cases that part all worlds that fit: BadBook, BadLog, BadQuestion, NoWorld."""
-    if not is_book(work, book):
-        raise BadBook(book)
+    """(study, cases that part all worlds that fit): BadBook, BadLog, BadQuestion, NoWorld."""
+    study = study_of(work, book)
     if not is_log_to_act_on(book, log):
         raise BadLog(log)
     if not is_asked(work, book, question):
         raise BadQuestion(question)
-    cases = cases_of(work, book)
+    cases = cases_to_act_on(study, log, (question,))
     if not cases:
         raise NoWorld(None)
-    return cases
+    return study, cases
 
 
 def probes_of(work):
@@ -75,7 +74,7 @@ def hidden(work, book, log, question):
 
     BadBook, BadLog, BadQuestion, NoWorld.
     """
-    cases = check_hidden(work, book, log, question)
+    cases = check_hidden(work, book, log, question)[1]
     probes = probes_of(work)
     ahead = first_groups(cases, log)
     while ahead:
@@ -97,23 +96,23 @@ def hidden(work, book, log, question):
 
 def shows_hidden(work, book, log, question, value):
     """Whether the value is what hidden could tell, with any stands: BadBook, BadLog, BadQuestion, NoWorld."""
-    check_hidden(work, book, log, question)
+    outline = check_hidden(work, book, log, question)[0].outline
     if value is None:
         return hidden(work, book, log, question) is None
     if not isinstance(value, tuple) or len(value) != 3 or not isinstance(value[2], tuple):
         return False
     world, other, stands = value
-    if not is_fitting(work, book, world) or not is_fitting(work, book, other):
+    if not is_fitting(outline, world) or not is_fitting(outline, other):
         return False
     if not all([is_stand(work, stand) for stand in stands]):
         return False
     if any([stand >= later for stand, later in zip(stands, stands[1:])]):
         return False
-    if any([last_stand(work, book, told, log) not in stands for told in (world, other)]):
+    if any([Passage(outline, told).rows[log][-1] not in stands for told in (world, other)]):
         return False
     if not is_shut(work, world[0], other[0], stands):
         return False
-    return answer_of_world(work, book, world, question) != answer_of_world(work, book, other, question)
+    return answer_of_world(outline, world, question) != answer_of_world(outline, other, question)
 
 
 def is_shut(work, crew, other, stands):

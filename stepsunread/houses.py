@@ -117,7 +117,7 @@ class House:
         """The answers to the question, in the sequence of ask: BadQuestion, Clash."""
         if not is_asked(self.work, self.book, question):
             raise BadQuestion(question)
-        return tuple(answers_of_record(self.record, question))
+        return answers_of_record(self.record, question)
 
     def renew(self, most, *, is_restoring=False):
         """Sweeps, at most so many: (step, "restored" or "made") for each step that was not left.

@@ -2,14 +2,13 @@
 
 from itertools import combinations
 
-from stepsunread.books import is_book
-from stepsunread.errors import BadBook, BadPrices, BadStand, NoStep, NoWorld
-from stepsunread.finding import Finding, has_world
+from stepsunread.errors import BadPrices, BadStand, NoStep, NoWorld
+from stepsunread.finding import Finding
 from stepsunread.forms import all_rows, content_at, is_integer, is_pair, is_stand
-from stepsunread.layouts import Layout
 from stepsunread.looking import is_same, leaf_answers
 from stepsunread.machines import Machine, written
 from stepsunread.making import some_world
+from stepsunread.studies import study_of
 from stepsunread.worlds import is_fitting
 
 GREATEST_PRICE = 9
@@ -23,17 +22,17 @@ def are_prices(value, many):
 
 
 def check_key(work, book, step, stand, prices):
-    """BadBook, NoStep, BadStand, BadPrices, NoWorld."""
-    if not is_book(work, book):
-        raise BadBook(book)
+    """The study of the book: BadBook, NoStep, BadStand, BadPrices, NoWorld."""
+    study = study_of(work, book)
     if step not in work.steps:
         raise NoStep(step)
     if not is_stand(work, stand):
         raise BadStand(stand)
     if not are_prices(prices, len(work.reads(step))):
         raise BadPrices(prices)
-    if not has_world(work, book):
+    if not study.has_world():
         raise NoWorld(None)
+    return study
 
 
 def price_of(work, step, prices, files):
@@ -77,15 +76,15 @@ def key(work, book, step, stand, prices):
 
     BadBook, NoStep, BadStand, BadPrices, NoWorld.
     """
-    check_key(work, book, step, stand, prices)
+    study = check_key(work, book, step, stand, prices)
     rows = []
     for price, files in tuples_of_files(work, step, prices):
         if any([bars(work, row, stand, files) for row in rows]):
             continue
-        finding = Finding(Layout(work, book, ()), ("keeps", step, stand, files), (True,), 1)
+        finding = Finding(study.grown(), ("keeps", step, stand, files), (True,), 1)
         grown = finding.grow()
         if not finding.found:
-            return price, files, grown, tuple(rows)
+            return study.tell(("key", step, stand, prices), (price, files, grown, tuple(rows)))
         world = some_world(finding.found[False])
         rows.append((world, closest_stand(work, step, world, stand, files)))
     return None
@@ -93,21 +92,24 @@ def key(work, book, step, stand, prices):
 
 def shows_key(work, book, step, stand, prices, value):
     """Whether the value is what key could tell, with any rows: BadBook, NoStep, BadStand, BadPrices, NoWorld."""
-    check_key(work, book, step, stand, prices)
+    study = check_key(work, book, step, stand, prices)
+    if study.was_told(("key", step, stand, prices), value):
+        return True
     if not isinstance(value, tuple) or len(value) != 4 or not isinstance(value[3], tuple):
         return False
     price, files, grown, rows = value
     told = tuples_of_files(work, step, prices)
     places = [at for at, pair in enumerate(told) if is_same((price, files), pair)]
-    if not places or leaf_answers(Layout(work, book, ()), ("keeps", step, stand, files), grown) != [True]:
+    if not places or leaf_answers(study.laid_out(), ("keeps", step, stand, files), grown) != [True]:
         return False
-    if not all([is_barring_row(work, book, step, stand, row) for row in rows]):
+    if not all([is_barring_row(study.outline, step, stand, row) for row in rows]):
         return False
     return all([any([bars(work, row, stand, pair[1]) for row in rows]) for pair in told[:places[0]]])
 
 
-def is_barring_row(work, book, step, stand, value):
+def is_barring_row(outline, step, stand, value):
     """Whether the value is (world, other stand), the world fits, and its ends at both stands differ."""
-    if not is_pair(value) or not is_fitting(work, book, value[0]) or not is_stand(work, value[1]):
+    work = outline.work
+    if not is_pair(value) or not is_fitting(outline, value[0]) or not is_stand(work, value[1]):
         return False
     return end_at(work, step, value[0], stand) != end_at(work, step, value[0], value[1])

@@ -3,27 +3,27 @@
 from stepsunread.books import pairs_of
 from stepsunread.counting import shape_of
 from stepsunread.events import body_of, link_of
+from stepsunread.forms import all_rows
 from stepsunread.weavings import Weaver
 
 
-class Layout:
-    """A book, but for left out marks, as it is worked out.
+class Outline:
+    """How the logs of a book come together.
 
     groups: the tuples of logs that come together, alone or in pairs (the one
     that is beside the other behind it), each behind the one that it begins after.
     """
 
-    def __init__(self, work, book, left):
+    def __init__(self, work, book):
         self.work = work
         self.book = book
-        self.left = {mark: True for mark in left}
-        partners = dict(pairs_of(book))
+        self.links = [link_of(log) for log in book]
         self.groups = []
         # By logs: the number of their group; what can come next of a pair, by its log that is beside the other.
         self.group_numbers = {}
         self.turns_open = {}
-        for number, log in enumerate(book):
-            link = link_of(log)
+        partners = dict(pairs_of(book))
+        for number, link in enumerate(self.links):
             if link is None or link[0] == "after":
                 numbers = (number, partners[number]) if number in partners else (number,)
                 for member in numbers:
@@ -36,21 +36,30 @@ class Layout:
         for number, log in enumerate(book):
             for at, event in enumerate(log):
                 if event[0] == "set":
-                    is_open = event[2] is None or (number, at) in self.left
-                    self.hands[number, at] = ("hand", number, at) if is_open else event[2]
-        # What programs can do next, and how many there are, by what is known of them: asked again and again.
-        self.known_things = {}
+                    self.hands[number, at] = ("hand", number, at) if event[2] is None else event[2]
+        # How many programs do what is known: asked again and again.
         self.known_counts = {}
+        # See resting.
+        self.rest_stands = None
+
+    def resting(self):
+        """(sizes, stands) for sweeps from all stands; a file that nobody reads is left at 0, as if of size 1."""
+        if self.rest_stands is None:
+            work = self.work
+            read = [file for step in work.steps for file in work.reads(step)]
+            # What nobody reads is settled by one run of the step that writes it: it stops no rest, and brings none.
+            sizes = [work.widths[file] if file in read else 1 for file in work.files]
+            self.rest_stands = sizes, all_rows(sizes)
+        return self.rest_stands
 
     def going_on(self, number, events):
-        """The layout of the book in which this log, which is alone, has these events more, all noted."""
-        twin = Layout(self.work, (), ())
+        """The outline of the book in which this log, which is alone, has these events more, all noted."""
+        twin = Outline(self.work, ())
         twin.book = self.book[:number] + (self.book[number] + events,) + self.book[number + 1:]
-        twin.left = self.left
+        twin.links = self.links
         twin.groups = self.groups
         twin.group_numbers = self.group_numbers
         twin.turns_open = self.turns_open
-        twin.known_things = self.known_things
         twin.known_counts = self.known_counts
         twin.hands = {mark: self.hands[mark] for mark in self.hands}
         for at, event in enumerate(events, start=len(self.book[number])):
@@ -58,9 +67,29 @@ class Layout:
                 twin.hands[number, at] = event[2]
         return twin
 
+
+class Layout:
+    """A book, but for left out marks, as it is worked out; idle are the marks of runs that are passed over."""
+
+    def __init__(self, outline, left, idle=()):
+        self.outline = outline
+        self.work = outline.work
+        self.book = outline.book
+        self.groups = outline.groups
+        self.group_numbers = outline.group_numbers
+        self.turns_open = outline.turns_open
+        self.left = {mark: True for mark in left}
+        self.hands = outline.hands
+        if left:
+            self.hands = {mark: outline.hands[mark] for mark in outline.hands}
+            for mark in left:
+                if mark in outline.hands:
+                    self.hands[mark] = ("hand",) + mark
+        self.idle = {mark: True for mark in idle}
+
     def first_logs(self):
         """The numbers of the logs at whose beginning nothing is known."""
-        return [numbers[0] for numbers in self.groups if link_of(self.book[numbers[0]]) is None]
+        return [numbers[0] for numbers in self.groups if self.outline.links[numbers[0]] is None]
 
     def first_stand(self, number):
         """The stand at the beginning of the log, of which all is open."""
@@ -71,20 +100,19 @@ class Layout:
         log = self.book[beside]
         return len(body_of(log)) + len(body_of(self.book[log[0][1]]))
 
-    def programs_of(self, step):
-        """All programs of the step, as a whole."""
-        return shape_of(self.work.parts[step])
-
     def things(self, step, known, way):
-        """What programs of the step that do what is known do behind the way, to which they come."""
-        key = step, way, tuple(known.items())
-        if key not in self.known_things:
-            self.known_things[key] = self.programs_of(step).things(known, way)
-        return self.known_things[key]
+        """What programs of the step that do what is known, which some do, do behind the way, to which they come."""
+        return shape_of(self.work.parts[step]).things_at(known, way)
 
     def count(self, step, known):
         """How many programs of the step do what is known."""
+        counts = self.outline.known_counts
         key = step, tuple(known.items())
-        if key not in self.known_counts:
-            self.known_counts[key] = self.programs_of(step).count(known)
-        return self.known_counts[key]
+        if key not in counts:
+            counts[key] = shape_of(self.work.parts[step]).count(known)
+        return counts[key]
+
+
+def layout_of(work, book):
+    """The layout of a book in which all is worked out."""
+    return Layout(Outline(work, book), ())

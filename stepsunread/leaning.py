@@ -2,77 +2,80 @@
 
 from itertools import combinations
 
-from stepsunread.books import is_book
 from stepsunread.clashes import shuts
-from stepsunread.errors import BadBook, BadMarks, BadQuestion, BadQuestions, NoWorld
-from stepsunread.finding import Finding, answer_of_world, answers_of
+from stepsunread.errors import BadMarks, BadQuestion, BadQuestions, NoWorld
+from stepsunread.finding import Finding
 from stepsunread.forms import is_below, is_pair
 from stepsunread.hitting import bars_all_ahead, is_barred
-from stepsunread.layouts import Layout
 from stepsunread.looking import leaf_answers
+from stepsunread.making import answer_of_world, some_world
 from stepsunread.marks import are_marks, marks_of, others
-from stepsunread.making import some_world
-from stepsunread.questions import is_question
+from stepsunread.passages import Passage
+from stepsunread.questions import is_asked
 from stepsunread.stripping import strip
-from stepsunread.worlds import is_world, misfits
+from stepsunread.studies import study_of
+from stepsunread.worlds import has_form
 
 MOST_QUESTIONS = 3
 
 
 def amends(work, book):
     """(marks, world, rows): the fewest marks but for which some world fits: BadBook."""
-    if not is_book(work, book):
-        raise BadBook(book)
+    study = study_of(work, book)
     marks = marks_of(book)
     rows = []
     for many in range(len(marks) + 1):
         for chosen in combinations(marks, many):
             if is_barred(chosen, [row[0] for row in rows]):
                 continue
-            finding = Finding(Layout(work, book, chosen), None, (), 1)
-            finding.grow()
-            if finding.found:
-                return chosen, some_world(finding.found[None]), tuple(rows)
-            rows.append(strip(work, book, None, (), chosen))
+            case = study.grown(chosen, ()).leaf(0)
+            if case is not None:
+                return study.tell(("amends",), (chosen, some_world(case), tuple(rows)))
+            rows.append(strip(study, None, (), chosen))
     return None
+
+
+def wrong_in(outline, world):
+    """The marks of events that are not as noted in the world."""
+    return Passage(outline, world).misfits
 
 
 def shows_amends(work, book, value):
     """Whether the value is what amends could tell, with any rows: BadBook."""
-    if not is_book(work, book):
-        raise BadBook(book)
+    study = study_of(work, book)
+    if study.was_told(("amends",), value):
+        return True
     if not isinstance(value, tuple) or len(value) != 3 or not isinstance(value[2], tuple):
         return False
     marks, world, rows = value
-    if not are_marks(book, marks) or not is_world(work, book, world):
+    if not are_marks(book, marks) or not has_form(study.outline, world):
         return False
-    if not all([mark in marks for mark in misfits(work, book, world)]):
+    if not all([mark in marks for mark in wrong_in(study.outline, world)]):
         return False
     for row in rows:
-        if not is_pair(row) or not are_marks(book, row[0]) or not shuts(work, book, row[0], row[1]):
+        if not is_pair(row) or not are_marks(book, row[0]) or not shuts(study, row[0], row[1]):
             return False
     return bars_all_ahead(marks_of(book), marks, [row[0] for row in rows])
 
 
 def check_lean(work, book, questions, given):
-    """BadBook, BadQuestions, BadQuestion with the first that is none, BadMarks."""
-    if not is_book(work, book):
-        raise BadBook(book)
+    """The study of the book: BadBook, BadQuestions, BadQuestion with the first that is none, BadMarks."""
+    study = study_of(work, book)
     if not isinstance(questions, tuple) or not 1 <= len(questions) <= MOST_QUESTIONS:
         raise BadQuestions(questions)
     for question in questions:
-        if not is_question(work, book, question):
+        if not is_asked(work, book, question):
             raise BadQuestion(question)
     if not are_marks(book, given):
         raise BadMarks(given)
+    return study
 
 
-def all_answers(work, book, questions):
+def all_answers(study, questions):
     """For each question the answers of worlds that fit: NoWorld."""
-    rows = [answers_of(work, book, question) for question in questions]
-    if not rows[0]:
+    if not study.has_world():
         raise NoWorld(None)
-    return rows
+    return [study.answers(question) for question in questions]
 
 
 def lean(work, book, questions, *, given=()):
@@ -80,8 +83,8 @@ def lean(work, book, questions, *, given=()):
 
     BadBook, BadQuestions, BadQuestion, BadMarks, NoWorld.
     """
-    check_lean(work, book, questions, given)
-    answers = all_answers(work, book, questions)
+    study = check_lean(work, book, questions, given)
+    answers = all_answers(study, questions)
     marks = list(others(book, given))
     rows, barring = [], []
     for many in range(len(marks) + 1):
@@ -89,35 +92,33 @@ def lean(work, book, questions, *, given=()):
             if is_barred(chosen, barring):
                 continue
             left = [mark for mark in marks if mark not in chosen]
-            trees, row = trees_or_row(work, book, questions, answers, left)
+            trees, row = trees_or_row(study, questions, answers, left)
             if row is None:
-                return chosen, tuple(trees), tuple(rows)
+                return study.tell(("lean", questions, given), (chosen, tuple(trees), tuple(rows)))
             rows.append(row)
-            barring.append(misfits(work, book, row[1]))
+            barring.append(wrong_in(study.outline, row[1]))
     return None
 
 
-def trees_or_row(work, book, questions, answers, left):
+def trees_or_row(study, questions, answers, left):
     """(trees, None) if but for left out marks no answer comes in, otherwise (None, (number, world)) of one."""
     trees = []
     for number, question in enumerate(questions):
-        finding = Finding(Layout(work, book, left), question, answers[number], 1)
+        finding = Finding(study.grown(left), question, answers[number], 1)
         grown = finding.grow()
         if finding.found:
-            return None, (number, closest_world(work, book, question, answers[number], finding))
+            world = finding.answer_rows()[0][1]
+            return None, (number, closest_world(study, question, answers[number], world))
         trees.append(grown)
     return trees, None
 
 
-def closest_world(work, book, question, known, finding):
+def closest_world(study, question, known, world):
     """A world with another answer than the known ones, with as little wrong as one by one can be mended."""
-    world = finding.answer_rows()[0][1]
-    for mark in misfits(work, book, world):
-        wrong = [other for other in misfits(work, book, world) if other != mark]
-        trial = Finding(Layout(work, book, wrong), question, known, 1)
-        trial.grow()
-        if trial.found:
-            world = trial.answer_rows()[0][1]
+    for mark in wrong_in(study.outline, world):
+        wrong = [other for other in wrong_in(study.outline, world) if other != mark]
+        found = study.world_with_other(question, known, wrong)
+        world = world if found is None else found
     return world
 
 
@@ -126,8 +127,10 @@ def shows_lean(work, book, questions, value, *, given=()):
 
     BadBook, BadQuestions, BadQuestion, BadMarks, NoWorld.
     """
-    check_lean(work, book, questions, given)
-    answers = all_answers(work, book, questions)
+    study = check_lean(work, book, questions, given)
+    answers = all_answers(study, questions)
+    if study.was_told(("lean", questions, given), value):
+        return True
     if not isinstance(value, tuple) or len(value) != 3:
         return False
     marks, trees, rows = value
@@ -137,19 +140,19 @@ def shows_lean(work, book, questions, value, *, given=()):
         return False
     left = [mark for mark in others(book, given) if mark not in marks]
     for question, known, grown in zip(questions, answers, trees):
-        found = leaf_answers(Layout(work, book, left), question, grown)
+        found = leaf_answers(study.laid_out(left), question, grown)
         if found is None or any([answer not in known for answer in found]):
             return False
-    if not all([brings_in(work, book, questions, answers, given, row) for row in rows]):
+    if not all([brings_in(study.outline, questions, answers, given, row) for row in rows]):
         return False
-    return bars_all_ahead(others(book, given), marks, [misfits(work, book, row[1]) for row in rows])
+    return bars_all_ahead(others(book, given), marks, [wrong_in(study.outline, row[1]) for row in rows])
 
 
-def brings_in(work, book, questions, answers, given, value):
+def brings_in(outline, questions, answers, given, value):
     """Whether the value is (number, world): what is given fits there, and no world that fits has its answer."""
-    if not is_pair(value) or not is_below(value[0], len(questions)) or not is_world(work, book, value[1]):
+    if not is_pair(value) or not is_below(value[0], len(questions)) or not has_form(outline, value[1]):
         return False
     number, world = value
-    if any([mark in given for mark in misfits(work, book, world)]):
+    if any([mark in given for mark in wrong_in(outline, world)]):
         return False
-    return answer_of_world(work, book, world, questions[number]) not in answers[number]
+    return answer_of_world(outline, world, questions[number]) not in answers[number]

@@ -9,7 +9,7 @@ def written(work, stand, files, contents):
     """The stand behind the writing of the contents into the files."""
     row = list(stand)
     for file, content in zip(files, contents):
-        row[work.files.index(file)] = content
+        row[work.places[file]] = content
     return tuple(row)
 
 
@@ -29,7 +29,7 @@ class Machine:
 
     def content(self, file):
         """What stands in the file."""
-        return self.stand[self.work.files.index(file)]
+        return self.stand[self.work.places[file]]
 
     def write(self, files, contents):
         """Write the contents into the files."""
@@ -76,11 +76,11 @@ class Machine:
 
     def run_whole(self, step):
         """A run from beginning to end: (way, end)."""
-        files = self.work.files
+        places = self.work.places
         program = self.crew[self.work.steps.index(step)]
         way = ()
         while program[0] == "read":
-            content = self.stand[files.index(program[1])]
+            content = self.stand[places[program[1]]]
             way += ((program[1], content),)
             program = program[2][content]
         if program[0] == "fail":

@@ -1,15 +1,16 @@
 """Worlds from cases, and cases from worlds."""
 
-from stepsunread.cases import new_case
-from stepsunread.events import link_of
+from stepsunread.answers import answer_in
+from stepsunread.cases import Case
 from stepsunread.layouts import Layout
 from stepsunread.marks import marks_of
+from stepsunread.questions import names_log
 
 
 def some_program(layout, step, known, way):
     """What a program of the step can be from this way on; what it does there becomes known."""
     if way not in known:
-        known[way] = layout.programs_of(step).things(known, way)[0]
+        known[way] = layout.things(step, known, way)[0]
     thing = known[way]
     if thing[0] != "read":
         return thing
@@ -29,16 +30,21 @@ def some_crew(case):
 
 def some_first(case, number):
     """A stand for the beginning of the log, () where it is told elsewhere."""
-    if link_of(case.layout.book[number]) is not None:
+    if case.layout.outline.links[number] is not None:
         return ()
     return tuple([case.chosen.get(point, 0) for point in case.layout.first_stand(number)])
 
 
 def some_hands(case, number):
     """What hands can have written by the sets of the log."""
-    layout = case.layout
-    told = [layout.hands[number, at] for at, event in enumerate(layout.book[number]) if event[0] == "set"]
-    return tuple([item if isinstance(item, int) else case.chosen.get(item, 0) for item in told])
+    row = []
+    for at, event in enumerate(case.layout.book[number]):
+        if event[0] == "set":
+            told = case.layout.hands[number, at]
+            # Where it is left out, and nothing hangs on it, it may as well be as it is noted.
+            noted = event[2] or 0
+            row.append(told if isinstance(told, int) else case.chosen.get(told, noted))
+    return tuple(row)
 
 
 def woven(case, number):
@@ -68,13 +74,16 @@ def done_by(program):
     return known
 
 
-def case_of_world(work, book, world):
-    """The case in which all is chosen as it is in the world; what is noted is not asked."""
+def case_of_world(outline, world, question):
+    """The case in which all is chosen as it is in the world, as far as the question asks; no note is asked."""
+    work = outline.work
     crew, firsts, hands, weaves = world
-    case = new_case(Layout(work, book, marks_of(book)))
-    for step, program in zip(work.steps, crew):
-        case.known[step] = done_by(program)
-    for number, log in enumerate(book):
+    known = {step: done_by(program) for step, program in zip(work.steps, crew)}
+    layout = Layout(outline, marks_of(outline.book))
+    case = Case(layout, {}, known, [None] * len(outline.groups), [])
+    if not names_log(question):
+        return case
+    for number, log in enumerate(outline.book):
         for file, content in zip(work.files, firsts[number]):
             case.chosen["first", number, file] = content
         sets = [at for at, event in enumerate(log) if event[0] == "set"]
@@ -84,3 +93,8 @@ def case_of_world(work, book, world):
             case.chosen["weave", number, at] = item
     case.go()
     return case
+
+
+def answer_of_world(outline, world, question):
+    """The answer that the world gives."""
+    return answer_in(case_of_world(outline, world, question), question)

@@ -9,11 +9,17 @@ def is_read_as(part, read):
 
 def is_way_as(parts, way):
     """Whether the way is the parts, gaps being filled with some reads, perhaps none."""
-    if not parts:
-        return not way
-    if parts[0] is None:
-        return any([is_way_as(parts[1:], way[at:]) for at in range(len(way) + 1)])
-    return bool(way) and is_read_as(parts[0], way[0]) and is_way_as(parts[1:], way[1:])
+    if None in parts:
+        at = parts.index(None)
+        if len(way) < at or not is_way_as(parts[:at], way[:at]):
+            return False
+        return any([is_way_as(parts[at + 1:], way[skip:]) for skip in range(at, len(way) + 1)])
+    if len(parts) != len(way):
+        return False
+    for part, read in zip(parts, way):
+        if part[0] not in (None, read[0]) or part[1] not in (None, read[1]):
+            return False
+    return True
 
 
 def is_row_as(contents, row):

@@ -10,6 +10,10 @@ from stepsunread.forms import is_thing
 from stepsunread.rules import Breaks
 
 
+# So many answers are kept, as they are asked for again and again.
+MOST_KEPT = 2000
+
+
 def power(number, many):
     """The product of so many factors, each of them the number."""
     total = 1
@@ -63,6 +67,10 @@ class Orders:
         # How many ways to go on there are, by what can be read and the rules that are broken off.
         self.trees = {}
         self.rows = {}
+        # What trees do, by ways.
+        self.tree_things = {}
+        # What programs do where claims are to be kept, by ways and what is known.
+        self.ruled_things = {}
 
     def is_program(self, value):
         """Whether the value is one of these programs."""
@@ -223,6 +231,50 @@ class Orders:
         places = self.open_places(known)
         longest = [order for order in self.orders(levels) if len(order) == part.most]
         return any([self.count_along(places, order, False) > 0 for order in longest])
+
+    def things_at(self, known, way):
+        """What programs that do what is known, which some do, do behind the way, to which what is known leads."""
+        if self.part.kind == "tree":
+            # What is known elsewhere tells nothing of what trees do here.
+            if way not in self.tree_things:
+                self.tree_things[way] = self.tree_things_at(way)
+            return self.tree_things[way]
+        if self.part.rules:
+            key = way, tuple(known.items())
+            if key not in self.ruled_things:
+                if len(self.ruled_things) == MOST_KEPT:
+                    self.ruled_things.clear()
+                self.ruled_things[key] = self.things(known, way)
+            return self.ruled_things[key]
+        level = [thing for other, thing in known.items() if len(other) == len(way)]
+        reads = [thing for thing in level if thing[0] == "read"][:1]
+        if self.part.kind == "flat" and reads:
+            return tuple(reads)
+        found = list(self.breaks.ends)
+        # All ways of a flat program end behind equally many reads.
+        if len(way) < self.part.most and (self.part.kind == "row" or not level):
+            found += reads or self.reads_behind(way)
+        return tuple(found)
+
+    def reads_behind(self, way):
+        """All reads of files that were not read yet."""
+        seen = [read[0] for read in way]
+        return [("read", file) for file in sorted(self.part.inputs) if file not in seen]
+
+    def tree_things_at(self, way):
+        """What trees do behind the way."""
+        part = self.part
+        bits = self.breaks.off_behind(way)
+        found = list(self.breaks.ends_left(bits))
+        if len(way) < part.most:
+            seen = [read[0] for read in way]
+            for thing in self.reads_behind(way):
+                file = thing[1]
+                rest = tuple([other for other in part.inputs if other not in seen and other != file])
+                offs = [bits | self.breaks.off_by((file, content)) for content in range(part.widths[file])]
+                if all([self.free_tree(rest, off) > 0 for off in offs]):
+                    found.append(thing)
+        return tuple(found)
 
     def things(self, known, way):
         """What programs that do what is known, and come to the way, of which nothing is known, do there."""

@@ -1,30 +1,18 @@
 """What is known behind acts at the end of a log."""
 
 from stepsunread.goals import doubt_of
-from stepsunread.growth import Growth
 from stepsunread.halts import Halt
 from stepsunread.layouts import Layout
 from stepsunread.making import some_world
 from stepsunread.probing import come, events_of, hands_of, outcome_text
 
 
-class Gathering(Growth):
-    """Gathers the cases of all leaves that fit."""
-
-    def __init__(self, layout):
-        Growth.__init__(self, layout, None)
-        self.cases = []
-
-    def give(self, case, answer):
-        """A leaf fits."""
-        self.cases.append(case)
-
-
-def cases_of(work, book):
-    """Cases that part all worlds that fit."""
-    gathering = Gathering(Layout(work, book, ()))
-    gathering.grow()
-    return gathering.cases
+def cases_to_act_on(study, number, questions):
+    """Cases that part all worlds that fit, for acts at the end of this log, and for questions."""
+    logs = [number]
+    for question in questions:
+        logs += study.logs_of(question)
+    return study.grown((), tuple(sorted(set(logs)))).all_cases()
 
 
 class Told:
@@ -125,7 +113,8 @@ class Outlook:
         told = self.told.behind(search.work, act, outcome, search.is_ordered)
         key = told.as_key()
         if key not in search.outlooks:
-            layout = self.layout.going_on(search.number, events_of(search.work, act, outcome))
+            outline = self.layout.outline.going_on(search.number, events_of(search.work, act, outcome))
+            layout = Layout(outline, ())
             cases = [case.going_on(layout, search.number, stand) for case, stand in pairs]
             search.outlooks[key] = Outlook(search, layout, cases, told, key)
         return search.outlooks[key]
@@ -134,9 +123,9 @@ class Outlook:
 class Search:
     """A book, a log at whose end acts come, and a goal of theirs."""
 
-    def __init__(self, work, book, number, goal):
-        self.work = work
-        self.book = book
+    def __init__(self, study, number, goal):
+        self.work = study.work
+        self.outline = study.outline
         self.number = number
         self.goal = goal
         # What would stand at the end of this log hangs on the sequence of probes, in which they come anew.
@@ -144,9 +133,10 @@ class Search:
         # By what was told.
         self.outlooks = {}
         told = Told()
-        self.first = Outlook(self, Layout(work, book, ()), cases_of(work, book), told, told.as_key())
+        cases = cases_to_act_on(study, number, goal[1:2])
+        self.first = Outlook(self, study.laid_out(), cases, told, told.as_key())
         self.outlooks[told.as_key()] = self.first
-        self.many_hands = len([1 for event in book[number] if event[0] == "set"])
+        self.many_hands = len([1 for event in study.book[number] if event[0] == "set"])
 
     def world(self, case, wrote):
         """A world of the case, if acts wrote these contents."""

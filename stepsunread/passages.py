@@ -1,7 +1,6 @@
 """How a world goes through a book: what stands behind each event, what is not as noted."""
 
-from stepsunread.books import pairs_of
-from stepsunread.events import body_of, link_of
+from stepsunread.events import body_of
 from stepsunread.machines import Machine
 from stepsunread.noted import is_end_as, is_read_as, is_row_as, is_way_as
 
@@ -53,37 +52,35 @@ class Passage:
     rows: for each log its stands; misfits: the marks of events that are not as noted.
     """
 
-    def __init__(self, work, book, world):
-        self.work = work
-        self.book = book
+    def __init__(self, outline, world):
+        self.outline = outline
         self.crew, self.firsts, self.hands, self.weaves = world
-        self.rows = [[] for log in book]
+        self.rows = [[] for log in outline.book]
         self.misfits = []
         # The stand at the end of each log: one for both of a pair.
         self.lasts = {}
-        partners = dict(pairs_of(book))
-        for number, log in enumerate(book):
-            link = link_of(log)
-            if link is None or link[0] == "after":
-                self.go_from(number, partners.get(number))
+        for numbers in outline.groups:
+            self.go_from(numbers)
 
-    def go_from(self, number, partner):
-        """Go through the log of this number, and the one beside it, if any."""
-        link = link_of(self.book[number])
-        stand = self.firsts[number] if link is None else self.lasts[link[1]]
-        machine = Machine(self.work, self.crew, stand)
-        numbers = [number] if partner is None else [number, partner]
+    def go_from(self, numbers):
+        """Go through the log, or the pair, of these numbers."""
+        outline = self.outline
+        link = outline.links[numbers[0]]
+        stand = self.firsts[numbers[0]] if link is None else self.lasts[link[1]]
+        machine = Machine(outline.work, self.crew, stand)
         left = {}
         for log in numbers:
             # One stand at the beginning, and one behind after or beside.
-            self.rows[log] = [stand] if link_of(self.book[log]) is None else [stand, stand]
+            self.rows[log] = [stand] if outline.links[log] is None else [stand, stand]
             left[log] = list(self.hands[log])
-        if partner is None:
-            for _ in body_of(self.book[number]):
+        if len(numbers) == 1:
+            number = numbers[0]
+            for _ in body_of(outline.book[number]):
                 self.go_on(machine, number, left[number])
         else:
-            for item in self.weaves[partner]:
-                log = partner if item == 1 else number
+            number, beside = numbers
+            for item in self.weaves[beside]:
+                log = beside if item == 1 else number
                 self.go_on(machine, log, left[log])
         for log in numbers:
             self.lasts[log] = machine.stand
@@ -93,6 +90,6 @@ class Passage:
         row = self.rows[log]
         # A log has one stand more than events: so behind its first ones this is the next.
         event = len(row) - 1
-        if not come(machine, self.book[log][event], contents):
+        if not come(machine, self.outline.book[log][event], contents):
             self.misfits.append((log, event))
         row.append(machine.stand)

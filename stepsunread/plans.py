@@ -1,13 +1,14 @@
 """Looking at values that may be plans and foils."""
 
 from stepsunread.acts import GREATEST_SUM, check_acts, planner_of
-from stepsunread.finding import answer_of_world
 from stepsunread.forms import is_integer, is_pair, is_stand
 from stepsunread.goals import next_stands
 from stepsunread.looking import is_same
 from stepsunread.machines import Machine
-from stepsunread.probing import book_behind, is_outcome
-from stepsunread.worlds import has_form, is_as_noted, last_stand
+from stepsunread.making import answer_of_world
+from stepsunread.passages import Passage
+from stepsunread.probing import events_of, is_outcome
+from stepsunread.worlds import is_fitting
 
 
 def stands_from(work, crew, first):
@@ -59,53 +60,45 @@ class Looker:
             greatest = max(greatest, price)
         return cost + greatest
 
-    def is_foil(self, book, value, many, price):
-        """Whether the value is a foil for so many acts and this price, for the book."""
+    def is_foil(self, outline, value, many, price):
+        """Whether the value is a foil for so many acts and this price, for the book of the outline."""
         if not is_pair(value) or not isinstance(value[1], tuple):
             return False
         hint, rows = value
         acts = [pair for pair in self.acts if many and pair[1] <= price]
-        if len(rows) != len(acts) or not self.is_hint(book, hint):
+        if len(rows) != len(acts) or not self.is_hint(outline, hint):
             return False
         for row, (act, cost) in zip(rows, acts):
             if not isinstance(row, tuple) or len(row) != 3 or not is_same(row[0], act):
                 return False
             if not is_outcome(self.search.work, act, row[1]):
                 return False
-            beyond = book_behind(self.search.work, book, self.search.number, act, row[1])
+            beyond = outline.going_on(self.search.number, events_of(self.search.work, act, row[1]))
             if not self.is_foil(beyond, row[2], many - 1, price - cost):
                 return False
         return True
 
-    def is_hint(self, book, value):
+    def is_hint(self, outline, value):
         """Whether the value shows that the goal is not reached in the book."""
         goal = self.search.goal
         if goal[0] == "have":
-            return self.fits(book, value) and not is_same(goal[2], self.answer(book, value))
+            return is_fitting(outline, value) and not is_same(goal[2], answer_of_world(outline, value, goal[1]))
         if not isinstance(value, tuple) or len(value) != (2 if goal[0] == "know" else 4):
             return False
-        if not all([self.fits(book, world) for world in value[:2]]):
+        if not all([is_fitting(outline, world) for world in value[:2]]):
             return False
         if goal[0] == "know":
-            return self.answer(book, value[0]) != self.answer(book, value[1])
-        return self.is_doubt_of_all(book, value)
+            one, other = value
+            return answer_of_world(outline, one, goal[1]) != answer_of_world(outline, other, goal[1])
+        return self.is_doubt_of_all(outline, value)
 
-    def fits(self, book, value):
-        """Whether the value is a world of the book that fits."""
-        work = self.search.work
-        return has_form(work, book, value) and is_as_noted(work, book, value)
-
-    def answer(self, book, world):
-        """The answer of the world to the question of the goal."""
-        return answer_of_world(self.search.work, book, world, self.search.goal[1])
-
-    def is_doubt_of_all(self, book, value):
+    def is_doubt_of_all(self, outline, value):
         """Whether the first world leads to the stand, and both worlds have unlike runs of the step there."""
         work = self.search.work
         world, other, stand, step = value
         if not is_stand(work, stand) or step not in work.steps:
             return False
-        if stand not in stands_from(work, world[0], last_stand(work, book, world, self.search.number)):
+        if stand not in stands_from(work, world[0], Passage(outline, world).rows[self.search.number][-1]):
             return False
         return Machine(work, world[0], stand).run_whole(step) != Machine(work, other[0], stand).run_whole(step)
 
@@ -118,10 +111,10 @@ def shows_cheapest(work, book, log, goal, prices, most, value, *, is_writing=Tru
     search = check_acts(work, book, log, goal, prices, most, is_writing)
     looker = Looker(search, planner_of(search, prices, is_writing).acts)
     if is_pair(value) and is_same(value[0], "none"):
-        return looker.is_foil(book, value[1], most, GREATEST_SUM)
+        return looker.is_foil(search.outline, value[1], most, GREATEST_SUM)
     if not isinstance(value, tuple) or len(value) != 4 or not is_same(value[0], "plan") or not is_integer(value[1]):
         return False
     _, price, plan, foil = value
     if price != looker.price_of_plan(search.first, plan, most):
         return False
-    return foil is None if price == 0 else looker.is_foil(book, foil, most, price - 1)
+    return foil is None if price == 0 else looker.is_foil(search.outline, foil, most, price - 1)

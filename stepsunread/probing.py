@@ -79,8 +79,3 @@ def events_of(work, act, outcome):
     sets = [("set", file, content) for file, content in zip(work.sources, hands_of(act))]
     return tuple(sets) + (("run", act[2], outcome[0], outcome[1]),)
 
-
-def book_behind(work, book, number, act, outcome):
-    """The book behind the act at the end of the log of this number."""
-    log = book[number] + events_of(work, act, outcome)
-    return book[:number] + (log,) + book[number + 1:]

@@ -3,31 +3,29 @@
 from stepsunread.acts import cheapest
 from stepsunread.clashes import clash
 from stepsunread.errors import Clash, NoWorld
-from stepsunread.finding import Finding, has_world
-from stepsunread.layouts import Layout
 from stepsunread.probing import hands_of, price_of
-from stepsunread.wording import by_text
+from stepsunread.studies import study_of
 
 
 def check_clash(work, book):
     """Clash if no world fits the book."""
-    if not has_world(work, book):
+    if not study_of(work, book).has_world():
         raise Clash(clash(work, book)[0])
 
 
-def answers_of_record(record, question, most=None):
-    """The answers to the question, no more than so many, ascending by their texts: Clash."""
+def answers_of_record(record, question, is_few=False):
+    """The answers to the question, no more than two if is_few, ascending by their texts: Clash."""
     work, book = record.mill.work, record.logs()
-    finding = Finding(Layout(work, book, ()), question, (), most)
-    finding.grow()
-    if not finding.found:
+    study = study_of(work, book)
+    found = study.few_answers(question) if is_few else study.answers(question)
+    if not found:
         raise Clash(clash(work, book)[0])
-    return by_text(question, list(finding.found))
+    return found
 
 
 def is_surely_fresh(record, step):
     """Whether a run of the step would surely leave all as it stands: Clash."""
-    return answers_of_record(record, ("fresh", record.own_number(), step), 2) == [True]
+    return answers_of_record(record, ("fresh", record.own_number(), step), True) == (True,)
 
 
 def renew(record, most, is_restoring):
@@ -46,7 +44,7 @@ def renew(record, most, is_restoring):
 
 def renew_step(record, step, is_restoring):
     """The files of the step are brought up to date: how, restored or made: Clash, Full."""
-    ends = answers_of_record(record, ("would", record.own_number(), step), 2) if is_restoring else []
+    ends = answers_of_record(record, ("would", record.own_number(), step), True) if is_restoring else ()
     if len(ends) != 1:
         record.make(step)
         return "made"

@@ -2,23 +2,22 @@
 
 from itertools import combinations
 
-from stepsunread.books import is_book
-from stepsunread.errors import BadBook, BadSteps, NoWorld
-from stepsunread.finding import Finding, answer_of_world, has_world
-from stepsunread.layouts import Layout
+from stepsunread.errors import BadSteps, NoWorld
+from stepsunread.finding import Finding
 from stepsunread.looking import is_same, leaf_answers
-from stepsunread.making import some_world
+from stepsunread.making import answer_of_world, some_world
+from stepsunread.studies import study_of
 from stepsunread.worlds import is_fitting
 
 
 def check_rounds(work, book, steps):
-    """BadBook, BadSteps, NoWorld."""
-    if not is_book(work, book):
-        raise BadBook(book)
+    """The study of the book: BadBook, BadSteps, NoWorld."""
+    study = study_of(work, book)
     if not are_steps(work, steps):
         raise BadSteps(steps)
-    if not has_world(work, book):
+    if not study.has_world():
         raise NoWorld(None)
+    return study
 
 
 def are_steps(work, value):
@@ -40,21 +39,23 @@ def placed(steps, barred):
 
 def rounds(work, book, steps):
     """(rounds, rows): as few rounds as can be, and why: BadBook, BadSteps, NoWorld."""
-    check_rounds(work, book, steps)
+    study = check_rounds(work, book, steps)
     rows, barred = [], []
     for step, other in combinations(list(steps), 2):
-        finding = Finding(Layout(work, book, ()), ("apart", step, other), (True,), 1)
+        finding = Finding(study.grown(), ("apart", step, other), (True,), 1)
         grown = finding.grow()
         if finding.found:
             barred.append((step, other))
             grown = some_world(finding.found[False])
         rows.append((step, other, grown))
-    return placed(steps, barred), tuple(rows)
+    return study.tell(("rounds", steps), (placed(steps, barred), tuple(rows)))
 
 
 def shows_rounds(work, book, steps, value):
     """Whether the value is what rounds could tell: BadBook, BadSteps, NoWorld."""
-    check_rounds(work, book, steps)
+    study = check_rounds(work, book, steps)
+    if study.was_told(("rounds", steps), value):
+        return True
     if not isinstance(value, tuple) or len(value) != 2 or not isinstance(value[1], tuple):
         return False
     pairs = list(combinations(list(steps), 2))
@@ -65,10 +66,10 @@ def shows_rounds(work, book, steps, value):
         if not isinstance(row, tuple) or len(row) != 3 or not is_same(row[:2], pair):
             return False
         question = ("apart",) + pair
-        if is_fitting(work, book, row[2]):
-            if answer_of_world(work, book, row[2], question):
+        if is_fitting(study.outline, row[2]):
+            if answer_of_world(study.outline, row[2], question):
                 return False
             barred.append(pair)
-        elif leaf_answers(Layout(work, book, ()), question, row[2]) != [True]:
+        elif leaf_answers(study.laid_out(), question, row[2]) != [True]:
             return False
     return is_same(value[0], placed(steps, barred))

@@ -1,25 +1,26 @@
 """From which note on something was known."""
 
-from stepsunread.books import is_book
-from stepsunread.errors import BadBook, BadLog, BadQuestion
-from stepsunread.events import link_of
-from stepsunread.finding import Finding, answer_of_world, only_answer
+from stepsunread.errors import BadLog, BadQuestion
+from stepsunread.finding import Finding, only_answer
 from stepsunread.forms import is_below, is_pair
-from stepsunread.layouts import Layout
+from stepsunread.growth import Growth
+from stepsunread.layouts import Outline, layout_of
 from stepsunread.looking import leaf_answers
-from stepsunread.questions import is_question, names_log
+from stepsunread.making import answer_of_world
+from stepsunread.questions import is_asked, names_log
+from stepsunread.studies import study_of
 from stepsunread.worlds import is_fitting
 
 
 def check_since(work, book, log, question):
-    """The only answer: BadBook, BadLog, BadQuestion, NotSure, NoWorld."""
-    if not is_book(work, book):
-        raise BadBook(book)
-    if not is_below(log, len(book)) or any([link_of(told) is not None for told in book[log:]]):
+    """The study of the book, if there is an only answer: BadBook, BadLog, BadQuestion, NotSure, NoWorld."""
+    study = study_of(work, book)
+    if not is_below(log, len(book)) or any([link is not None for link in study.outline.links[log:]]):
         raise BadLog(log)
-    if not is_question(work, book, question) or names_log(question):
+    if not is_asked(work, book, question) or names_log(question):
         raise BadQuestion(question)
-    return only_answer(work, book, question)
+    only_answer(study, question)
+    return study
 
 
 def cut(book, log, number):
@@ -32,13 +33,13 @@ def since(work, book, log, question):
 
     BadBook, BadLog, BadQuestion, NotSure, NoWorld.
     """
-    check_since(work, book, log, question)
+    study = check_since(work, book, log, question)
     pair = None
     for number in range(len(book[log]) + 1):
-        finding = Finding(Layout(work, cut(book, log, number), ()), question, (), 2)
+        finding = Finding(Growth(layout_of(work, cut(book, log, number))), question, (), 2)
         grown = finding.grow()
         if len(finding.found) == 1:
-            return number, grown, pair
+            return study.tell(("since", log, question), (number, grown, pair))
         pair = tuple([row[1] for row in finding.answer_rows()])
     return None
 
@@ -48,20 +49,22 @@ def shows_since(work, book, log, question, value):
 
     BadBook, BadLog, BadQuestion, NotSure, NoWorld.
     """
-    check_since(work, book, log, question)
+    study = check_since(work, book, log, question)
+    if study.was_told(("since", log, question), value):
+        return True
     if not isinstance(value, tuple) or len(value) != 3 or not is_below(value[0], len(book[log]) + 1):
         return False
     number, grown, pair = value
-    found = leaf_answers(Layout(work, cut(book, log, number), ()), question, grown)
+    found = leaf_answers(layout_of(work, cut(book, log, number)), question, grown)
     # Some world fits: so there is an answer, and it is the only one with more events, too.
     if found is None or len(found) != 1:
         return False
-    return pair is None if number == 0 else differ(work, cut(book, log, number - 1), question, pair)
+    return pair is None if number == 0 else differ(Outline(work, cut(book, log, number - 1)), question, pair)
 
 
-def differ(work, book, question, value):
+def differ(outline, question, value):
     """Whether the value is a pair of worlds that fit and give unlike answers."""
-    if not is_pair(value) or not all([is_fitting(work, book, world) for world in value]):
+    if not is_pair(value) or not all([is_fitting(outline, world) for world in value]):
         return False
     one, other = value
-    return answer_of_world(work, book, one, question) != answer_of_world(work, book, other, question)
+    return answer_of_world(outline, one, question) != answer_of_world(outline, other, question)

@@ -138,6 +138,12 @@ class Sums:
         """Whether some program does what is known."""
         return self.weights_left(known) != ()
 
+    def things_at(self, known, way):
+        """What programs that do what is known, which some do, do behind the way, to which what is known leads."""
+        if len(way) < len(self.part.inputs):
+            return (("read", self.part.inputs[len(way)]),)
+        return self.things(known, way)
+
     def things(self, known, way):
         """What programs that do what is known, and come to the way, of which nothing is known, do there."""
         rows = self.weights_left(known)

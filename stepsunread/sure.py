@@ -1,7 +1,5 @@
 """What a program surely does, in all worlds that fit."""
 
-from stepsunread.growth import Growth
-
 
 def forced(layout, step, told):
     """What all programs do that do what is told, by ways: all else could be otherwise."""
@@ -20,26 +18,22 @@ def forced(layout, step, told):
     return known
 
 
-class Sure(Growth):
-    """Gathers what the program of a step does in all leaves that fit: facts, by ways, None if there are none."""
-
-    def __init__(self, layout, step):
-        Growth.__init__(self, layout, None)
-        self.step = step
-        self.facts = None
-        # What was chosen for the step in leaves so far.
-        self.seen = {}
-
-    def give(self, case, answer):
-        """A leaf fits."""
-        told = tuple(case.known[self.step].items())
-        if told in self.seen:
-            return
-        self.seen[told] = True
-        known = forced(self.layout, self.step, case.known[self.step])
-        if self.facts is None:
-            self.facts = known
-        else:
-            self.facts = {way: self.facts[way] for way in self.facts if known.get(way) == self.facts[way]}
-        if not self.facts:
-            self.is_done = True
+def sure_of(growth, step):
+    """What the program of the step does in all cases, by ways; None if there are no cases."""
+    facts = None
+    # What was chosen for the step in cases so far.
+    seen = {}
+    at = 0
+    case = growth.leaf(0)
+    while case is not None and facts != {}:
+        told = tuple(case.known[step].items())
+        if told not in seen:
+            seen[told] = True
+            known = forced(case.layout, step, case.known[step])
+            if facts is None:
+                facts = known
+            else:
+                facts = {way: facts[way] for way in facts if known.get(way) == facts[way]}
+        at += 1
+        case = growth.leaf(at)
+    return facts

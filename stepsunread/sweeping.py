@@ -1,11 +1,11 @@
 """Sweeps by choices: each step is run once, again and again, until nothing changes.
 
-Halt is raised where the choices do not do.
+Halt is raised where the choices do not do. What was worked out is remembered
+in the case, as the same is asked for again behind each further choice.
 """
 
-from stepsunread.forms import all_rows, content_at
+from stepsunread.forms import content_at
 from stepsunread.halts import Halt
-from stepsunread.machines import written
 from stepsunread.ways import run_from
 
 
@@ -16,13 +16,19 @@ def settled(case, stand):
 
 def stand_behind(case, step, stand):
     """The stand behind a run of the step; the end is held against what stands in all its files."""
+    place = step, stand
+    if place in case.memory:
+        return case.memory[place]
     end = run_from(case, step, stand)[1]
     if end == "fail":
-        return stand
-    work = case.layout.work
-    files = work.writes(step)
-    found = tuple([case.content(content_at(work, stand, file)) for file in files])
-    return stand if found == end else written(work, stand, files, end)
+        return case.remember(place, stand)
+    row = list(stand)
+    is_changed = False
+    for out, content in zip(case.layout.work.outs[step], end):
+        if case.content(row[out]) != content:
+            is_changed = True
+        row[out] = content
+    return case.remember(place, tuple(row) if is_changed else stand)
 
 
 def is_fresh(case, step, stand):
@@ -40,61 +46,71 @@ def is_fresh(case, step, stand):
 
 
 def sweep_from(case, stand):
-    """The stands behind each step of one sweep, the stand ahead of it being the first."""
-    stands = [stand]
+    """(the stand behind one sweep, the steps that change something in it)."""
+    place = None, stand
+    if place in case.memory:
+        return case.memory[place]
+    last, changing = stand, ()
     for step in case.layout.work.steps:
-        stands.append(stand_behind(case, step, stands[-1]))
-    return stands
+        beyond = stand_behind(case, step, last)
+        if beyond != last:
+            changing += (step,)
+        last = beyond
+    return case.remember(place, (last, changing))
 
 
 class Sweeps:
     """Sweeps from a stand, until they come to rest, or a stand comes again.
 
     last: the stand at rest, None if they never rest. many: how many sweeps
-    changed something. changing: the steps that did, in the sequence in which they came to it.
+    changed something. changing: the steps that did.
     """
 
     def __init__(self, case, stand):
-        self.case = case
         self.many = 0
-        self.changing = []
-        self.last = self.sweep_on(settled(case, stand))
+        self.changing = ()
+        self.last = self.sweep_on(case, settled(case, stand))
 
-    def sweep_on(self, stand):
+    def sweep_on(self, case, stand):
         """The stand at rest, None if there is none."""
         ahead = []
         while stand not in ahead:
             ahead.append(stand)
-            stand = self.sweep(stand)
-            if stand == ahead[-1]:
+            stand, changing = sweep_from(case, stand)
+            if not changing:
                 return stand
+            self.changing += changing
             self.many += 1
         return None
 
-    def sweep(self, stand):
-        """The stand behind one sweep."""
-        stands = sweep_from(self.case, stand)
-        for step, before, behind in zip(self.case.layout.work.steps, stands, stands[1:]):
-            if behind != before and step not in self.changing:
-                self.changing.append(step)
-        return stands[-1]
+
+def halt_of_sweep(case, stand):
+    """The point at which a sweep from the stand halts; None if it does not, and is remembered then."""
+    place = 0, stand
+    if (None, stand) in case.memory:
+        return None
+    # As long as the point is not chosen, the sweep halts there.
+    if place in case.memory and not case.is_chosen(case.memory[place]):
+        return case.memory[place]
+    try:
+        sweep_from(case, stand)
+    except Halt as halt:
+        return case.remember(place, halt.point)
+    return None
 
 
 def rests_everywhere(case):
     """Whether sweeps come to rest from each stand."""
-    work = case.layout.work
-    read = [file for step in work.steps for file in work.reads(step)]
-    # What nobody reads is settled by one run of the step that writes it: it stops no rest, and
-    # brings none. So it is left at 0.
-    sizes = [work.widths[file] if file in read else 1 for file in work.files]
+    sizes, rows = case.layout.outline.resting()
     beyond = {}
     halt_point = None
-    for stand in all_rows(sizes):
-        try:
-            told = sweep_from(case, stand)[-1]
+    for stand in rows:
+        point = halt_of_sweep(case, stand)
+        if point is None:
+            told = sweep_from(case, stand)[0]
             beyond[stand] = tuple([content if size > 1 else 0 for content, size in zip(told, sizes)])
-        except Halt as halt:
-            halt_point = halt_point or halt.point
+        else:
+            halt_point = halt_point or point
     if comes_again(beyond):
         return False
     if halt_point is not None:

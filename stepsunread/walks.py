@@ -4,29 +4,17 @@ The content of a file is an integer, or the point at which it is open. A case
 (stepsunread/cases.py) tells what is chosen, and gathers which events are wrong.
 """
 
-from stepsunread.events import body_of
+from stepsunread.barring import ANY, fine_things, only_content, part_at
 from stepsunread.halts import Halt
-from stepsunread.machines import end_of, written
+from stepsunread.machines import end_of
 from stepsunread.noted import is_end_as, is_row_as, is_way_as
-
-
-# A part of reads that any read is as.
-ANY = (None, None)
-
-
-def part_at(parts, place):
-    """What the reads of a run tell of the read at this place: None if there is none, anything from the first gap on."""
-    if None in parts[:place + 1]:
-        return ANY
-    return parts[place] if place < len(parts) else None
 
 
 class Walk:
     """How far a group of logs is worked out.
 
     stand, writers: what stands in each file, and the mark of the event that wrote it last.
-    rows: for each log (stand, writers) at its beginning and behind each event.
-    runs: by marks of whole runs their (way, end). woven: the weaving, of a pair.
+    woven: the weaving, of a pair.
     """
 
     def __init__(self, layout, numbers, stand, writers):
@@ -34,73 +22,91 @@ class Walk:
         self.numbers = numbers
         self.stand = stand
         self.writers = writers
-        self.rows = {}
-        self.runs = {}
+        self.first = stand, writers
+        # By logs: how many events have come, after and beside among them.
+        self.gone = {}
+        # (what came ahead, log, stand, writers, (way, end) of a whole run) of the event that came last.
+        self.trace = None
         self.woven = ()
         # By steps whose runs are under way: what they read so far.
         self.running = {}
-        # The log whose event is coming, and how many reads this event has had.
+        # The log whose event is coming, how many reads this event has had, its (way, end).
         self.coming = None
         self.done = 0
+        self.ran = None
         self.is_over = False
         # The point at which it halts.
         self.halt = None
-        # By marks of sets: what hands write in the place of what the book and the choices tell.
-        self.changed = {}
-        # Whether it is asked if events are as noted.
-        self.is_asking = True
+        # By marks of sets: what hands write in the place of what the book and the choices tell; None if nothing does.
+        self.changed = None
 
     def begin(self):
         """Nothing has come so far but after and beside."""
         for number in self.numbers:
-            log = self.layout.book[number]
-            self.rows[number] = [(self.stand, self.writers)] * (len(log) - len(body_of(log)) + 1)
+            self.gone[number] = 0 if self.layout.outline.links[number] is None else 1
 
     def copy(self):
         """A walk that has come as far, and goes on by itself."""
         twin = Walk(self.layout, self.numbers, self.stand, self.writers)
-        twin.rows = {number: list(self.rows[number]) for number in self.numbers}
-        twin.runs = {mark: self.runs[mark] for mark in self.runs}
+        twin.first = self.first
+        twin.gone = dict(self.gone)
+        twin.trace = self.trace
         twin.woven = self.woven
-        twin.running = {step: self.running[step] for step in self.running}
+        twin.running = dict(self.running)
         twin.coming = self.coming
         twin.done = self.done
         twin.is_over = self.is_over
         twin.halt = self.halt
         return twin
 
+    def row(self, number, moment):
+        """(stand, writers) behind so many events of the log, which has come to its end."""
+        place, at = self.trace, self.gone[number]
+        while place is not None:
+            ahead, log, stand, writers, _ = place
+            if log == number:
+                if at == moment:
+                    return stand, writers
+                at -= 1
+            place = ahead
+        return self.first
+
+    def run_at(self, number, event):
+        """(way, end) of this whole run of the log, which has come to its end."""
+        place, at = self.trace, self.gone[number] - 1
+        while place[1] != number or at != event:
+            at -= 1 if place[1] == number else 0
+            place = place[0]
+        return place[4]
+
     def go(self, case):
         """Come as far as the choices lead."""
         self.halt = None
+        gone, book = self.gone, self.layout.book
         try:
             while not self.is_over:
-                self.go_on(case)
+                if self.coming is None:
+                    self.coming = self.next_log(case)
+                    self.done = 0
+                number = self.coming
+                if number is None:
+                    self.is_over = True
+                    return
+                at = gone[number]
+                self.ran = None
+                self.come(case, (number, at), book[number][at])
+                self.trace = self.trace, number, self.stand, self.writers, self.ran
+                gone[number] = at + 1
+                self.coming = None
         except Halt as halt:
             self.halt = halt.point
 
-    def go_on(self, case):
-        """The next event comes, or all have come."""
-        if self.coming is None:
-            self.coming = self.next_log(case)
-            self.done = 0
-        number = self.coming
-        if number is None:
-            self.is_over = True
-            return
-        at = len(self.rows[number]) - 1
-        self.come(case, (number, at), self.layout.book[number][at])
-        self.rows[number].append((self.stand, self.writers))
-        self.coming = None
-
-    def left_of(self, number):
-        """How many events of the log are still to come."""
-        return len(self.layout.book[number]) - len(self.rows[number]) + 1
-
     def next_log(self, case):
         """The log whose event comes next, None if all have come."""
+        number = self.numbers[0]
         if len(self.numbers) == 1:
-            return self.numbers[0] if self.left_of(self.numbers[0]) else None
-        number, beside = self.numbers
+            return number if self.gone[number] < len(self.layout.book[number]) else None
+        beside = self.numbers[1]
         # after and beside apart, as many events of the log beside the other have come as its 1s.
         came = sum(self.woven)
         items = self.layout.turns_open[beside][came, len(self.woven) - came]
@@ -110,41 +116,45 @@ class Walk:
         self.woven += (item,)
         return beside if item else number
 
-    def place(self, file):
-        """The number of the file."""
-        return self.layout.work.files.index(file)
-
     def is_noted(self, mark):
         """Whether it is asked if the event is as noted."""
-        return self.is_asking and mark not in self.layout.left
+        return self.changed is None and mark not in self.layout.left
 
     def come(self, case, mark, event):
         """The event comes."""
         word, name = event[0], event[1]
         if word == "set":
-            self.write((name,), (self.changed.get(mark, self.layout.hands[mark]),), mark)
+            told = self.layout.hands[mark]
+            if self.changed is not None:
+                told = self.changed.get(mark, told)
+            self.write_one(self.layout.work.places[name], told, mark)
         elif word == "saw":
             if event[2] is not None and self.is_noted(mark):
-                if case.content(self.stand[self.place(name)]) != event[2]:
+                if case.content(self.stand[self.layout.work.places[name]]) != event[2]:
                     case.note_wrong(mark)
         elif word == "begin":
             self.running[name] = ()
         elif word == "run":
-            self.come_run(case, mark, event)
+            if mark not in self.layout.idle:
+                self.come_run(case, mark, event)
         elif word == "reads":
             self.come_reads(case, mark, event)
         else:
             self.come_last(case, mark, event)
 
-    def write(self, files, contents, mark):
-        """The event of this mark writes the contents into the files."""
-        work = self.layout.work
-        self.stand = written(work, self.stand, files, contents)
-        self.writers = written(work, self.writers, files, [mark] * len(contents))
+    def write_one(self, place, content, mark):
+        """The event of this mark writes the content into the file of this number."""
+        self.stand = self.stand[:place] + (content,) + self.stand[place + 1:]
+        self.writers = self.writers[:place] + (mark,) + self.writers[place + 1:]
+
+    def write(self, places, contents, mark):
+        """The event of this mark writes the contents into the files of these numbers."""
+        for place, content in zip(places, contents):
+            self.write_one(place, content, mark)
 
     def read(self, case, step, file):
         """The run reads the file: its content."""
-        content = case.content(self.stand[self.place(file)])
+        content = case.content(self.stand[self.layout.work.places[file]])
         self.running[step] += ((file, content),)
         return content
 
@@ -161,8 +171,8 @@ class Walk:
         end = end_of(thing)
         if is_noted and not (is_way_as(parts, way) and is_end_as(noted, end)):
             case.note_wrong(mark)
-        self.runs[mark] = way, end
-        self.leave(step, thing, len(self.layout.work.writes(step)), mark)
+        self.ran = way, end
+        self.leave(step, thing, 2, mark)
 
     def read_as_noted(self, case, mark, step, file, part):
         """The run reads the file; it is wrong if it should not be read, or not with this content."""
@@ -200,9 +210,9 @@ class Walk:
             self.read(case, step, thing[1])
             thing = case.thing(step, self.running[step])
         end = end_of(thing)
+        many = 2
         if word == "end":
             is_so = is_end_as(noted, end)
-            many = len(self.layout.work.writes(step))
         else:
             is_so = end != "fail" and is_row_as(noted, end)
             many = len(noted)
@@ -214,4 +224,32 @@ class Walk:
         """The run, which does this at last, writes its first so many files, and is under way no more."""
         del self.running[step]
         if thing[0] == "end":
-            self.write(self.layout.work.writes(step)[:many], thing[1][:many], mark)
+            self.write(self.layout.work.outs[step][:many], thing[1], mark)
+
+    def barring(self, case, point, things):
+        """For each thing that the point at which the walk halts can be: the mark of the event that is wrong then.
+
+        None where that is not to be seen at once.
+        """
+        number = self.coming
+        if number is None:
+            # It is open which event comes next.
+            return [None] * len(things)
+        mark = number, self.gone[number]
+        if mark in self.layout.left:
+            return [None] * len(things)
+        event = self.layout.book[number][mark[1]]
+        way = () if event[0] == "saw" else self.running[event[1]]
+        if point[0] == "next":
+            fine = fine_things(event, way, self.done, things)
+            return [None if thing in fine and self.can_read(case, event, thing) else mark for thing in things]
+        only = only_content(event, way, self.done)
+        return [mark if only not in (None, content) else None for content in things]
+
+    def can_read(self, case, event, thing):
+        """Whether the thing is no read, or one of a content with which the event is not wrong at once."""
+        if thing[0] != "read":
+            return True
+        told = self.stand[self.layout.work.places[thing[1]]]
+        content = told if isinstance(told, int) else case.chosen.get(told)
+        return content is None or only_content(event, self.running[event[1]], self.done) in (None, content)

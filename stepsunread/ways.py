@@ -4,18 +4,21 @@ A case (stepsunread/cases.py) tells what was chosen; Halt is raised where that
 does not do.
 """
 
-from stepsunread.forms import content_at
+from stepsunread.halts import Halt
 from stepsunread.machines import end_of
 
 
 def run_from(case, step, stand):
     """(way, end) of a run of the step at the stand."""
+    known, places = case.known[step], case.layout.work.places
     way = ()
-    thing = case.thing(step, way)
-    while thing[0] == "read":
-        way += ((thing[1], case.content(content_at(case.layout.work, stand, thing[1]))),)
-        thing = case.thing(step, way)
-    return way, end_of(thing)
+    while way in known:
+        thing = known[way]
+        if thing[0] != "read":
+            return way, end_of(thing)
+        told = stand[places[thing[1]]]
+        way += ((thing[1], told if isinstance(told, int) else case.content(told)),)
+    raise Halt(("next", step, way))
 
 
 def ways_down(case, step, contents):
