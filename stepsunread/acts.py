@@ -111,10 +111,20 @@ def cheapest(work, book, log, goal, prices, most, *, is_writing=True):
     BadBook, BadLog, BadGoal, BadPrices, BadCount, BadTruth, NoWorld.
     """
     search = check_acts(work, book, log, goal, prices, most, is_writing)
-    planner = planner_of(search, prices, is_writing)
+    told = plan_or_foil(search, planner_of(search, prices, is_writing), most)
+    return search.study.tell(place_of(log, goal, prices, most, is_writing), told)
+
+
+def plan_or_foil(search, planner, most):
+    """What cheapest tells."""
     least = planner.least(search.first, most, GREATEST_SUM)
     if least is None:
         return "none", planner.foil(search.first, most, GREATEST_SUM, ())
     plan = planner.plan(search.first, most, least)
     foil = None if least == 0 else planner.foil(search.first, most, least - 1, ())
     return "plan", least, plan, foil
+
+
+def place_of(*asked):
+    """What was asked, as a string: the answer of a goal may be any value."""
+    return "cheapest " + repr(asked)

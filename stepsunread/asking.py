@@ -41,7 +41,7 @@ def shows_answers(work, book, question, value):
     texts = [answer_text(question, row[0]) for row in rows]
     if any([text >= later for text, later in zip(texts, texts[1:])]):
         return False
-    found = leaf_answers(study.laid_out(), question, told)
+    found = leaf_answers(study.grown(), question, told)
     known = [row[0] for row in rows]
     return found is not None and all([answer in known for answer in found])
 

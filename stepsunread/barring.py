@@ -36,16 +36,20 @@ def fine_things(event, way, done, things):
     else:
         # What reads tell is asked for only as long as there are parts left.
         is_end = word != "reads"
-    if is_end:
-        fine += [thing for thing in things if thing[0] != "read" and can_end(word, event[-1], end_of(thing))]
-    return fine
+    return fine + fine_ends(word, event[-1], things) if is_end else fine
 
 
-def can_end(word, noted, end):
-    """Whether an event of this word, a run, end or break, can have this end, if that is noted of it."""
+def fine_ends(word, noted, things):
+    """Which of these things end a run, if that is noted of the end in an event of this word: a run, end or break."""
     if word == "break":
-        return end != "fail" and is_row_as(noted, end)
-    return noted is None or is_end_as(noted, end)
+        return [thing for thing in things if thing[0] == "end" and is_row_as(noted, thing[1])]
+    if noted is None:
+        return [thing for thing in things if thing[0] != "read"]
+    if noted == "fail" or None not in noted:
+        # Most of what is noted is noted whole: there is one such thing alone.
+        only = ("fail",) if noted == "fail" else ("end", noted)
+        return [only] if only in things else []
+    return [thing for thing in things if thing[0] != "read" and is_end_as(noted, end_of(thing))]
 
 
 def only_content(event, way, done):

@@ -28,7 +28,7 @@ def shows_clash(work, book, value):
 
 def shuts(study, marks, value):
     """Whether the value is a tree that shuts but for other events than these."""
-    return leaf_answers(study.laid_out(others(study.book, marks)), None, value) == []
+    return leaf_answers(study.grown(others(study.book, marks)), None, value) == []
 
 
 def grounds(work, book, question):
@@ -49,6 +49,6 @@ def shows_grounds(work, book, question, value):
     if not isinstance(value, tuple) or len(value) != 3 or not are_marks(book, value[0]):
         return False
     marks, answer, tree = value
-    answers = leaf_answers(study.laid_out(others(book, marks)), question, tree)
+    answers = leaf_answers(study.grown(others(book, marks)), question, tree)
     # Some world fits: so the tree gives an answer, and it is that of this world.
     return answers is not None and len(answers) == 1 and is_same(answer, answers[0])

@@ -45,6 +45,8 @@ class Growth:
         # What has been built, from below: leaves that are shut, None for each that fits, (point, number of trees).
         self.built = []
         self.is_done = False
+        # See numbered.
+        self.plain = None
 
     def leaf(self, at):
         """The case of the leaf of this number that fits, None if there are not so many."""
@@ -92,6 +94,12 @@ class Growth:
             self.built.append((fork.point, len(marks)))
             self.forks.pop()
         self.is_done = True
+
+    def numbered(self):
+        """The tree, whole, with ("leaf", number) in the places of leaves that fit."""
+        if self.plain is None:
+            self.plain = self.tree([("leaf", at) for at in range(len(self.all_cases()))])
+        return self.plain
 
     def tree(self, leaves):
         """The tree, whole, with these trees in the places of leaves that fit, of which there are as many."""

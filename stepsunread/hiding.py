@@ -74,7 +74,12 @@ def hidden(work, book, log, question):
 
     BadBook, BadLog, BadQuestion, NoWorld.
     """
-    cases = check_hidden(work, book, log, question)[1]
+    study, cases = check_hidden(work, book, log, question)
+    return study.tell(("hidden", log, question), pair_hidden(work, cases, log, question))
+
+
+def pair_hidden(work, cases, log, question):
+    """What hidden tells."""
     probes = probes_of(work)
     ahead = first_groups(cases, log)
     while ahead:
@@ -96,7 +101,10 @@ def hidden(work, book, log, question):
 
 def shows_hidden(work, book, log, question, value):
     """Whether the value is what hidden could tell, with any stands: BadBook, BadLog, BadQuestion, NoWorld."""
-    outline = check_hidden(work, book, log, question)[0].outline
+    study = check_hidden(work, book, log, question)[0]
+    outline = study.outline
+    if study.was_told(("hidden", log, question), value):
+        return True
     if value is None:
         return hidden(work, book, log, question) is None
     if not isinstance(value, tuple) or len(value) != 3 or not isinstance(value[2], tuple):

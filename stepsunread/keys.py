@@ -100,7 +100,7 @@ def shows_key(work, book, step, stand, prices, value):
     price, files, grown, rows = value
     told = tuples_of_files(work, step, prices)
     places = [at for at, pair in enumerate(told) if is_same((price, files), pair)]
-    if not places or leaf_answers(study.laid_out(), ("keeps", step, stand, files), grown) != [True]:
+    if not places or leaf_answers(study.grown(), ("keeps", step, stand, files), grown) != [True]:
         return False
     if not all([is_barring_row(study.outline, step, stand, row) for row in rows]):
         return False

@@ -31,14 +31,18 @@ class Outline:
                 self.groups.append(numbers)
         for number, beside in partners.items():
             self.turns_open[beside] = Weaver(body_of(book[beside]), body_of(book[number])).turns()
-        # By marks of sets: what is written, a content or the point at which it is open.
+        # By marks of sets: what is written, a content or the point at which it is open; for each log the sizes.
         self.hands = {}
+        self.set_sizes = [[] for log in book]
         for number, log in enumerate(book):
             for at, event in enumerate(log):
                 if event[0] == "set":
                     self.hands[number, at] = ("hand", number, at) if event[2] is None else event[2]
+                    self.set_sizes[number].append(work.widths[event[1]])
         # How many programs do what is known: asked again and again.
         self.known_counts = {}
+        # Tuples of contents and weavings that are known to be those of worlds, as strings.
+        self.contents = {}
         # See resting.
         self.rest_stands = None
 
@@ -62,9 +66,11 @@ class Outline:
         twin.turns_open = self.turns_open
         twin.known_counts = self.known_counts
         twin.hands = {mark: self.hands[mark] for mark in self.hands}
+        twin.set_sizes = [list(sizes) for sizes in self.set_sizes]
         for at, event in enumerate(events, start=len(self.book[number])):
             if event[0] == "set":
                 twin.hands[number, at] = event[2]
+                twin.set_sizes[number].append(self.work.widths[event[1]])
         return twin
 
 

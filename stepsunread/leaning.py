@@ -140,7 +140,7 @@ def shows_lean(work, book, questions, value, *, given=()):
         return False
     left = [mark for mark in others(book, given) if mark not in marks]
     for question, known, grown in zip(questions, answers, trees):
-        found = leaf_answers(study.laid_out(left), question, grown)
+        found = leaf_answers(study.grown(left), question, grown)
         if found is None or any([answer not in known for answer in found]):
             return False
     if not all([brings_in(study.outline, questions, answers, given, row) for row in rows]):

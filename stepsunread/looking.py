@@ -3,7 +3,12 @@
 from stepsunread.answers import answer_in
 from stepsunread.cases import new_case
 from stepsunread.forms import is_integer
+from stepsunread.growth import asked_by
 from stepsunread.halts import Halt
+
+
+# How points that are no points of steps begin, as strings.
+SIGNS = ("('first'", "('hand'", "('weave'")
 
 
 def is_same(value, told):
@@ -124,7 +129,49 @@ def is_shut_leaf(case, value):
     return value[1:] in case.wrong
 
 
-def leaf_answers(layout, question, value):
-    """The answers that leaves of the tree give, each once; None if the value is no tree."""
-    reader = Reader(layout, question)
-    return reader.found if reader.takes(value) else None
+def leaves_of(growth, value):
+    """(case, tree) for each leaf of the tree that has grown, if the value is like it but for what is behind leaves.
+
+    None if it is not.
+    """
+    rows = []
+    ahead = [(value, growth.numbered())]
+    while ahead:
+        value, told = ahead.pop()
+        if told[0] == "leaf":
+            rows.append((growth.leaf(told[1]), value))
+        elif told[0] == "shut":
+            if not is_same(value, told):
+                return None
+        else:
+            if not is_node(value, "at", 3) or not is_same(value[1], told[1]):
+                return None
+            if not isinstance(value[2], tuple) or len(value[2]) != len(told[2]):
+                return None
+            ahead += list(zip(value[2], told[2]))
+    return rows
+
+
+def leaf_answers(growth, question, value):
+    """The answers that leaves of the tree give, each once; None if the value is no tree.
+
+    growth: the tree without the question.
+    """
+    reader = Reader(growth.layout, question)
+    rows = leaves_of(growth, value)
+    if rows is None:
+        # Points may come in any sequence: it may still be another tree.
+        return reader.found if reader.takes(value) else None
+    seen = {}
+    for case, tree in rows:
+        key = () if question is None else asked_by(case, question)
+        text = repr(tree) if key else ""
+        # Whether other points than those of steps are open does not hang on the key alone.
+        if any([sign in text for sign in SIGNS]):
+            key = ()
+        if key and (key, text) in seen:
+            continue
+        if not reader.takes_answers(case.copy(), tree):
+            return None
+        seen[key, text] = True
+    return reader.found

@@ -31,9 +31,10 @@ class Machine:
         """What stands in the file."""
         return self.stand[self.work.places[file]]
 
-    def write(self, files, contents):
-        """Write the contents into the files."""
-        self.stand = written(self.work, self.stand, files, contents)
+    def write(self, places, contents):
+        """Write the contents into the files of these numbers, as far as there are contents."""
+        for place, content in zip(places, contents):
+            self.stand = self.stand[:place] + (content,) + self.stand[place + 1:]
 
     def start(self, step):
         """A run of the step begins."""
@@ -63,7 +64,7 @@ class Machine:
         self.leave(step)
         if thing[0] == "fail":
             return reads, "fail"
-        self.write(self.work.writes(step)[:many], thing[1])
+        self.write(self.work.outs[step][:many], thing[1])
         return reads, thing[1]
 
     def finish_run(self, step):
@@ -76,14 +77,15 @@ class Machine:
 
     def run_whole(self, step):
         """A run from beginning to end: (way, end)."""
-        places = self.work.places
+        places, stand = self.work.places, self.stand
         program = self.crew[self.work.steps.index(step)]
         way = ()
         while program[0] == "read":
-            content = self.stand[places[program[1]]]
-            way += ((program[1], content),)
-            program = program[2][content]
+            _, file, branches = program
+            content = stand[places[file]]
+            way += ((file, content),)
+            program = branches[content]
         if program[0] == "fail":
             return way, "fail"
-        self.write(self.work.parts[step].outputs, program[1])
+        self.write(self.work.outs[step], program[1])
         return way, program[1]

@@ -43,7 +43,7 @@ class Mill:
             raise NoFile(file)
         if not is_content(self.work, file, content):
             raise BadContent(content)
-        self.machine.write((file,), (content,))
+        self.machine.write((self.work.places[file],), (content,))
         self.settle()
 
     def make(self, step):

@@ -1,6 +1,10 @@
 """Whether what came is as it was noted."""
 
 
+# Reads of which nothing is noted.
+LONE_GAP = (None,)
+
+
 def is_read_as(part, read):
     """Whether a read, (file, content), is as a part of reads tells."""
     file, content = part
@@ -9,6 +13,8 @@ def is_read_as(part, read):
 
 def is_way_as(parts, way):
     """Whether the way is the parts, gaps being filled with some reads, perhaps none."""
+    if parts == LONE_GAP:
+        return True
     if None in parts:
         at = parts.index(None)
         if len(way) < at or not is_way_as(parts[:at], way[:at]):

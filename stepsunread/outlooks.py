@@ -124,6 +124,7 @@ class Search:
     """A book, a log at whose end acts come, and a goal of theirs."""
 
     def __init__(self, study, number, goal):
+        self.study = study
         self.work = study.work
         self.outline = study.outline
         self.number = number

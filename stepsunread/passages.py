@@ -1,6 +1,5 @@
 """How a world goes through a book: what stands behind each event, what is not as noted."""
 
-from stepsunread.events import body_of
 from stepsunread.machines import Machine
 from stepsunread.noted import is_end_as, is_read_as, is_row_as, is_way_as
 
@@ -10,7 +9,7 @@ def come(machine, event, contents):
     word, name = event[0], event[1]
     if word == "set":
         content = contents.pop(0)
-        machine.write((name,), (content,))
+        machine.write((machine.work.places[name],), (content,))
         return event[2] in (None, content)
     if word == "saw":
         return event[2] in (None, machine.content(name))
@@ -73,23 +72,17 @@ class Passage:
             # One stand at the beginning, and one behind after or beside.
             self.rows[log] = [stand] if outline.links[log] is None else [stand, stand]
             left[log] = list(self.hands[log])
-        if len(numbers) == 1:
-            number = numbers[0]
-            for _ in body_of(outline.book[number]):
-                self.go_on(machine, number, left[number])
-        else:
-            number, beside = numbers
-            for item in self.weaves[beside]:
-                log = beside if item == 1 else number
-                self.go_on(machine, log, left[log])
+        number, beside = numbers[0], numbers[-1]
+        # A log that is alone comes as if it were beside itself.
+        many = len(outline.book[number]) + 1 - len(self.rows[number])
+        weaving = self.weaves[beside] if len(numbers) > 1 else [1] * many
+        for item in weaving:
+            log = beside if item == 1 else number
+            row = self.rows[log]
+            # A log has one stand more than events: so behind its first ones this is the next.
+            event = len(row) - 1
+            if not come(machine, outline.book[log][event], left[log]):
+                self.misfits.append((log, event))
+            row.append(machine.stand)
         for log in numbers:
             self.lasts[log] = machine.stand
-
-    def go_on(self, machine, log, contents):
-        """The next event of the log comes."""
-        row = self.rows[log]
-        # A log has one stand more than events: so behind its first ones this is the next.
-        event = len(row) - 1
-        if not come(machine, self.outline.book[log][event], contents):
-            self.misfits.append((log, event))
-        row.append(machine.stand)

@@ -1,6 +1,6 @@
 """Looking at values that may be plans and foils."""
 
-from stepsunread.acts import GREATEST_SUM, check_acts, planner_of
+from stepsunread.acts import GREATEST_SUM, check_acts, place_of, planner_of
 from stepsunread.forms import is_integer, is_pair, is_stand
 from stepsunread.goals import next_stands
 from stepsunread.looking import is_same
@@ -109,6 +109,8 @@ def shows_cheapest(work, book, log, goal, prices, most, value, *, is_writing=Tru
     BadBook, BadLog, BadGoal, BadPrices, BadCount, BadTruth, NoWorld.
     """
     search = check_acts(work, book, log, goal, prices, most, is_writing)
+    if search.study.was_told(place_of(log, goal, prices, most, is_writing), value):
+        return True
     looker = Looker(search, planner_of(search, prices, is_writing).acts)
     if is_pair(value) and is_same(value[0], "none"):
         return looker.is_foil(search.outline, value[1], most, GREATEST_SUM)

@@ -70,6 +70,6 @@ def shows_rounds(work, book, steps, value):
             if answer_of_world(study.outline, row[2], question):
                 return False
             barred.append(pair)
-        elif leaf_answers(study.laid_out(), question, row[2]) != [True]:
+        elif leaf_answers(study.grown(), question, row[2]) != [True]:
             return False
     return is_same(value[0], placed(steps, barred))

@@ -6,12 +6,28 @@ from stepsunread.machines import Machine, written
 from stepsunread.programs import is_program
 from stepsunread.works import part_of
 
+# How programs begin.
+WORDS = ("read", "end", "fail")
+# A work keeps so many crews, as the same ones are looked at again and again.
+MOST_CREWS = 2000
+
 
 def is_crew(work, value):
     """Whether the value is a tuple with a program for each step."""
     if not isinstance(value, tuple) or len(value) != len(work.steps):
         return False
-    return all([is_program(work, step, program) for step, program in zip(work.steps, value)])
+    for program in value:
+        if not isinstance(program, tuple) or not program or program[0] not in WORDS:
+            return False
+    # What is equal need not be the same: True is not 1. As strings they differ.
+    key = repr(value)
+    if key not in work.crews:
+        if not all([is_program(work, step, program) for step, program in zip(work.steps, value)]):
+            return False
+        if len(work.crews) == MOST_CREWS:
+            work.crews.clear()
+        work.crews[key] = True
+    return True
 
 
 def run(work, crew, step, stand):

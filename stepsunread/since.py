@@ -55,7 +55,7 @@ def shows_since(work, book, log, question, value):
     if not isinstance(value, tuple) or len(value) != 3 or not is_below(value[0], len(book[log]) + 1):
         return False
     number, grown, pair = value
-    found = leaf_answers(layout_of(work, cut(book, log, number)), question, grown)
+    found = leaf_answers(Growth(layout_of(work, cut(book, log, number))), question, grown)
     # Some world fits: so there is an answer, and it is the only one with more events, too.
     if found is None or len(found) != 1:
         return False

@@ -29,4 +29,4 @@ def shows_tree(work, book, question, value, *, left=()):
     study = study_left(work, book, question, left)
     if study.was_told(("tree", question, left), value):
         return True
-    return leaf_answers(study.laid_out(left), question, value) is not None
+    return leaf_answers(study.grown(left), question, value) is not None

@@ -1,4 +1,6 @@
-"""The texts of answers, by which they are told in sequence."""
+"""The texts of answers, by which they are told in sequence, and of programs, events, questions and books."""
+
+from stepsunread.questions import PARTS
 
 
 def content_text(content):
@@ -81,3 +83,59 @@ def answer_text(question, answer):
 def by_text(question, answers):
     """The answers to the question, ascending by their texts."""
     return sorted(answers, key=lambda answer: answer_text(question, answer))
+
+
+def word_text(word):
+    """The text of a word, a number or a name."""
+    return str(word)
+
+
+# The parts of events behind the word, by this word.
+EVENT_TEXTS = {
+    "after": (word_text,),
+    "beside": (word_text,),
+    "set": (word_text, content_text),
+    "saw": (word_text, content_text),
+    "run": (word_text, way_text, end_text),
+    "begin": (word_text,),
+    "reads": (word_text, way_text),
+    "end": (word_text, end_text),
+    "break": (word_text, contents_text),
+}
+# The parts of questions that are no words, numbers or names.
+PART_TEXTS = {"way": way_text, "changes": way_text, "stand": contents_text, "files": names_text}
+
+
+def program_text(program):
+    """The text of a program."""
+    if program[0] == "fail":
+        return "fail"
+    if program[0] == "end":
+        return contents_text(program[1])
+    return program[1] + "(" + " ".join([program_text(branch) for branch in program[2]]) + ")"
+
+
+def event_text(event):
+    """The text of an event."""
+    words = [event[0]]
+    for show, part in zip(EVENT_TEXTS[event[0]], event[1:]):
+        words.append(show(part))
+    return " ".join(words)
+
+
+def question_text(question):
+    """The text of a question."""
+    words = [question[0]]
+    for kind, part in zip(PARTS[question[0]], question[1:]):
+        show = PART_TEXTS.get(kind, word_text)
+        words.append(show(part))
+    return " ".join(words)
+
+
+def book_lines(book):
+    """The lines of the text of a book."""
+    lines = []
+    for log in book:
+        lines.append("log")
+        lines += ["  " + event_text(event) for event in log]
+    return lines

@@ -8,6 +8,9 @@ from stepsunread.runs import is_crew
 from stepsunread.studies import study_of
 from stepsunread.weavings import Weaver
 
+# Of a book so many tuples of contents are kept, as the same ones are looked at again and again.
+MOST_CONTENTS = 2000
+
 
 def is_world(work, book, value):
     """Whether the value is a world of the book, by its form: BadBook."""
@@ -18,28 +21,37 @@ def has_form(outline, value):
     """Whether the value has the form of a world of the book."""
     if not isinstance(value, tuple) or len(value) != 4:
         return False
-    crew, firsts, hands, weaves = value
+    if not is_crew(outline.work, value[0]):
+        return False
+    # What is equal need not be the same: True is not 1. As strings they differ.
+    key = repr(value[1:])
+    if key not in outline.contents:
+        if not are_contents(outline, value):
+            return False
+        if len(outline.contents) == MOST_CONTENTS:
+            outline.contents.clear()
+        outline.contents[key] = True
+    return True
+
+
+def are_contents(outline, value):
+    """Whether a tuple of four, but for the first of them, has the form of a world of the book."""
+    _, firsts, hands, weaves = value
     many = len(outline.book)
     for row in (firsts, hands, weaves):
         if not isinstance(row, tuple) or len(row) != many:
             return False
-    for number in range(many):
-        if not is_first(outline, number, firsts[number]) or not are_hands(outline, number, hands[number]):
+    for number, sizes in enumerate(outline.set_sizes):
+        if not is_first(outline, number, firsts[number]) or not is_row(hands[number], sizes):
             return False
         if not is_weave(outline, number, weaves[number]):
             return False
-    return is_crew(outline.work, crew)
+    return True
 
 
 def is_first(outline, number, value):
     """Whether the value can be the stand at the beginning of the log, () where it is told elsewhere."""
     return is_stand(outline.work, value) if outline.links[number] is None else value == ()
-
-
-def are_hands(outline, number, value):
-    """Whether the value is a tuple with a content for each set of the log."""
-    widths = outline.work.widths
-    return is_row(value, [widths[event[1]] for event in outline.book[number] if event[0] == "set"])
 
 
 def is_weave(outline, number, value):
