@@ -135,7 +135,7 @@ class Search:
         self.outlooks = {}
         told = Told()
         cases = cases_to_act_on(study, number, goal[1:2])
-        self.first = Outlook(self, study.laid_out(), cases, told, told.as_key())
+        self.first = Outlook(self, Layout(study.outline, ()), cases, told, told.as_key())
         self.outlooks[told.as_key()] = self.first
         self.many_hands = len([1 for event in study.book[number] if event[0] == "set"])
 

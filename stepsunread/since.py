@@ -3,8 +3,6 @@
 from stepsunread.errors import BadLog, BadQuestion
 from stepsunread.finding import Finding, only_answer
 from stepsunread.forms import is_below, is_pair
-from stepsunread.growth import Growth
-from stepsunread.layouts import Outline, layout_of
 from stepsunread.looking import leaf_answers
 from stepsunread.making import answer_of_world
 from stepsunread.questions import is_asked, names_log
@@ -23,11 +21,6 @@ def check_since(work, book, log, question):
     return study
 
 
-def cut(book, log, number):
-    """The book with the first events of the log alone."""
-    return book[:log] + (book[log][:number],) + book[log + 1:]
-
-
 def since(work, book, log, question):
     """(number, tree, pair): with how many first events of the log the question has an only answer.
 
@@ -36,7 +29,7 @@ def since(work, book, log, question):
     study = check_since(work, book, log, question)
     pair = None
     for number in range(len(book[log]) + 1):
-        finding = Finding(Growth(layout_of(work, cut(book, log, number))), question, (), 2)
+        finding = Finding(study.cut(log, number).grown(), question, (), 2)
         grown = finding.grow()
         if len(finding.found) == 1:
             return study.tell(("since", log, question), (number, grown, pair))
@@ -55,11 +48,11 @@ def shows_since(work, book, log, question, value):
     if not isinstance(value, tuple) or len(value) != 3 or not is_below(value[0], len(book[log]) + 1):
         return False
     number, grown, pair = value
-    found = leaf_answers(Growth(layout_of(work, cut(book, log, number))), question, grown)
+    found = leaf_answers(study.cut(log, number).grown(), question, grown)
     # Some world fits: so there is an answer, and it is the only one with more events, too.
     if found is None or len(found) != 1:
         return False
-    return pair is None if number == 0 else differ(Outline(work, cut(book, log, number - 1)), question, pair)
+    return pair is None if number == 0 else differ(study.cut(log, number - 1).outline, question, pair)
 
 
 def differ(outline, question, value):

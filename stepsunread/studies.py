@@ -25,15 +25,20 @@ class Study:
         self.outline = Outline(work, book)
         # By marks of runs that are passed over; and those for left out marks, by these, too.
         self.whole = {}
+        # By (log, number of events): what cut tells.
+        self.cuts = {}
         # What was told last of what was asked, as values that are shown may be just that.
         self.told = {}
         # By questions: all their answers.
         self.answered = {}
         self.lacking = {}
 
-    def laid_out(self, left=()):
-        """The book, but for left out marks, all to be worked out."""
-        return Layout(self.outline, left)
+    def cut(self, log, number):
+        """The study of the book with so many first events of the log alone."""
+        if (log, number) not in self.cuts:
+            book = self.book[:log] + (self.book[log][:number],) + self.book[log + 1:]
+            self.cuts[log, number] = Study(self.work, book)
+        return self.cuts[log, number]
 
     def grown(self, left=(), logs=None):
         """The tree without a question, but for left out marks.
