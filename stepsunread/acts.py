@@ -4,7 +4,7 @@ from stepsunread.errors import BadCount, BadGoal, BadLog, BadPrices, BadTruth, N
 from stepsunread.forms import is_below
 from stepsunread.goals import is_goal
 from stepsunread.keys import are_prices
-from stepsunread.outlooks import Search
+from stepsunread.outlooks import Prospect
 from stepsunread.probing import all_acts, hands_of, is_log_to_act_on, price_of
 from stepsunread.studies import study_of
 
@@ -26,7 +26,7 @@ def check_acts(work, book, log, goal, prices, most, is_writing):
         raise BadCount(most)
     if not isinstance(is_writing, bool):
         raise BadTruth(is_writing)
-    search = Search(study, log, goal)
+    search = Prospect(study, log, goal)
     if not search.first.cases:
         raise NoWorld(None)
     return search

@@ -3,7 +3,6 @@
 from stepsunread.asking import study_asked
 from stepsunread.errors import BadMarks
 from stepsunread.finding import contents_of, programs_of, shares_of
-from stepsunread.growth import asked_by
 from stepsunread.marks import are_marks
 from stepsunread.studies import study_of
 from stepsunread.wording import by_text
@@ -20,13 +19,9 @@ def worlds(work, book, *, left=()):
 def shares(work, book, question):
     """(answer, number) for each answer, with the number of worlds that fit and give it: BadBook, BadQuestion."""
     study = study_asked(work, book, question)
-    counts, seen = {}, {}
+    counts = {}
     for case in study.grown((), study.logs_of(question)).all_cases():
-        key = asked_by(case, question)
-        rows = seen[key] if key in seen else shares_of(case, question)
-        if key:
-            seen[key] = rows
         whole = contents_of(case)
-        for answer, crews, part in rows:
+        for answer, crews, part in shares_of(case, question):
             counts[answer] = counts.get(answer, 0) + crews * (whole // part)
     return tuple([(answer, counts[answer]) for answer in by_text(question, list(counts))])

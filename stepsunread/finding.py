@@ -1,7 +1,7 @@
 """What the leaves of trees tell of the worlds that fit: answers, and how many worlds there are."""
 
 from stepsunread.errors import NoWorld, NotSure
-from stepsunread.growth import Asking, asked_by
+from stepsunread.inquiries import Asking, Search, asked_by, keep
 from stepsunread.making import some_world
 from stepsunread.wording import by_text
 
@@ -14,53 +14,33 @@ class Finding:
 
     def __init__(self, growth, question, known=(), most=None):
         self.growth = growth
-        self.question = question
-        self.known = known
-        self.most = most
+        self.search = Search(question, known, most)
         # By answers: the case that gave it first.
-        self.found = {}
-        # By what answers hang on: the trees that tell them.
-        self.built = {}
+        self.found = self.search.found
 
     def grow(self):
         """The tree; None where it was left off."""
         leaves = []
         case = self.growth.leaf(0)
         while case is not None:
-            grown = self.grow_answers(case)
-            if len(self.found) == self.most:
+            grown = self.tree_behind(case)
+            if self.search.is_enough():
                 return None
             leaves.append(grown)
             case = self.growth.leaf(len(leaves))
         return self.growth.tree(leaves)
 
-    def grow_answers(self, case):
-        """The tree of answers that the case gives; what is as far if enough were found."""
-        if self.question is None:
-            self.note(case, None)
-            return "gives", None
-        key = asked_by(case, self.question)
-        if key in self.built:
-            return self.built[key]
-        asking = Asking(case.copy(), self.question)
-        told = asking.next_answer()
-        while told is not None:
-            self.note(asking.case, told[0])
-            if len(self.found) == self.most:
-                return None
-            told = asking.next_answer()
-        if key:
-            self.built[key] = asking.built
-        return asking.built
-
-    def note(self, case, answer):
-        """The case gives this answer by its choices now."""
-        if answer not in self.found and answer not in self.known:
-            self.found[answer] = case.copy()
+    def tree_behind(self, case):
+        """The tree that tells the answers in the case of a leaf."""
+        if self.search.question is not None:
+            return self.search.ask(case)
+        if None not in self.search.known:
+            self.found.setdefault(None, case)
+        return "gives", None
 
     def answer_rows(self):
         """(answer, world) for each answer that was found, ascending by the texts of the answers."""
-        answers = by_text(self.question, list(self.found))
+        answers = by_text(self.search.question, list(self.found))
         return tuple([(answer, some_world(self.found[answer])) for answer in answers])
 
 
@@ -94,6 +74,11 @@ def contents_of(case):
 
 def shares_of(case, question):
     """(answer, crews, part) for all answers that the case gives: for one of so many parts of the contents."""
+    work = case.layout.work
+    key = asked_by(case, question)
+    place = "shares", question, key
+    if key and place in work.recalled:
+        return work.recalled[place]
     asking = Asking(case.copy(), question)
     whole = contents_of(case)
     rows = []
@@ -101,6 +86,8 @@ def shares_of(case, question):
     while told is not None:
         rows.append((told[0], programs_of(asking.case), whole // contents_of(asking.case)))
         told = asking.next_answer()
+    if key:
+        keep(work, place, rows)
     return rows
 
 

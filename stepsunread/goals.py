@@ -4,7 +4,7 @@ Cases part all worlds that fit; all their logs have come to their end.
 """
 
 from stepsunread.forms import all_rows
-from stepsunread.growth import find_answers
+from stepsunread.inquiries import find_answers
 from stepsunread.looking import is_same
 from stepsunread.machines import written
 from stepsunread.questions import is_asked
@@ -35,9 +35,7 @@ class Leaves:
 
 def answers_in(cases, question, most):
     """By answers that the cases give, no more than so many: a case that gives it."""
-    found = {}
-    find_answers(Leaves(cases), question, found, most)
-    return found
+    return find_answers(Leaves(cases), question, (), most)
 
 
 def doubt_of(cases, number, goal):

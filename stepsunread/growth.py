@@ -1,13 +1,6 @@
 """Growing trees: choices are made until each case is shut, or gives an answer."""
 
-from stepsunread.answers import answer_in
 from stepsunread.cases import new_case
-from stepsunread.halts import Halt
-from stepsunread.questions import names_log
-from stepsunread.sweeping import settled
-
-# Questions that hang on what is known of steps, and on what stands at the end of a log.
-AT_THE_END = ("would", "fresh", "still", "swept", "sweeps", "turns", "aside")
 
 
 class Fork:
@@ -134,91 +127,3 @@ def best_fork(case, points):
         if best.many < 2:
             break
     return best
-
-
-class Asking:
-    """Goes through the answers to a question in a case of which all logs have come to their end.
-
-    The case is the caller's, and nobody else's: choices are made in it, and
-    taken back again when all answers have been told.
-    """
-
-    def __init__(self, case, question):
-        self.case = case
-        self.question = question
-        # (point, things, trees that have grown, what was remembered ahead) from the first point down.
-        self.forks = []
-        # The leaf that was told last.
-        self.last = None
-        # The tree, as soon as it is whole.
-        self.built = None
-
-    def next_answer(self):
-        """A tuple of the next answer alone, which the case gives by its choices now; None if there are no more."""
-        if self.last is not None:
-            self.put(self.last)
-        while self.built is None:
-            try:
-                answer = answer_in(self.case, self.question)
-            except Halt as halt:
-                self.fork_off(halt.point)
-                continue
-            self.last = ("gives", answer)
-            return (answer,)
-        return None
-
-    def fork_off(self, point):
-        """The first choice for the point."""
-        choices = self.case.things(point)
-        self.forks.append((point, choices, [], len(self.case.remembered)))
-        self.case.try_out(point, choices[0])
-
-    def put(self, tree):
-        """The tree has grown at the place that is next."""
-        while self.forks:
-            point, choices, grown, many = self.forks[-1]
-            grown.append(tree)
-            self.case.forget(many)
-            if len(grown) < len(choices):
-                self.case.try_out(point, choices[len(grown)])
-                return
-            self.case.take_back(point)
-            self.forks.pop()
-            tree = ("at", point, tuple(grown))
-        self.built = tree
-
-
-def asked_by(case, question):
-    """What the answers to the question hang on in a case of which all logs have come to their end.
-
-    Cases of which it is the same give the same answers, by the same trees; () where that is not told.
-    """
-    word = question[0]
-    if names_log(question) and word not in AT_THE_END:
-        return ()
-    # A tuple for each step, so that none of them is empty.
-    known = tuple([tuple(told.items()) for told in case.known.values()])
-    return known + settled(case, case.walk_of(question[1]).stand) if word in AT_THE_END else known
-
-
-def find_answers(cases, question, found, most):
-    """Put a case for each answer that the cases give, and that was not found so far, into found, up to so many.
-
-    cases: a Growth, or what tells its leaves likewise.
-    """
-    seen = {}
-    at = 0
-    while len(found) != most and cases.leaf(at) is not None:
-        case = cases.leaf(at)
-        at += 1
-        key = asked_by(case, question)
-        if key in seen:
-            continue
-        if key:
-            seen[key] = True
-        asking = Asking(case.copy(), question)
-        told = asking.next_answer()
-        while told is not None and len(found) != most:
-            if told[0] not in found:
-                found[told[0]] = asking.case.copy()
-            told = asking.next_answer()

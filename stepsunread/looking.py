@@ -3,7 +3,7 @@
 from stepsunread.answers import answer_in
 from stepsunread.cases import new_case
 from stepsunread.forms import is_integer
-from stepsunread.growth import asked_by
+from stepsunread.inquiries import asked_by
 from stepsunread.halts import Halt
 
 

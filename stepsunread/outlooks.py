@@ -120,7 +120,7 @@ class Outlook:
         return search.outlooks[key]
 
 
-class Search:
+class Prospect:
     """A book, a log at whose end acts come, and a goal of theirs."""
 
     def __init__(self, study, number, goal):

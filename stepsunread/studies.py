@@ -3,8 +3,9 @@
 from stepsunread.books import MOST_EVENTS, MOST_LOGS, is_book
 from stepsunread.errors import BadBook
 from stepsunread.events import LENGTHS
-from stepsunread.growth import Growth, find_answers
+from stepsunread.growth import Growth
 from stepsunread.idling import idle_marks
+from stepsunread.inquiries import find_answers
 from stepsunread.layouts import Layout, Outline
 from stepsunread.making import some_world
 from stepsunread.questions import names_log
@@ -68,8 +69,7 @@ class Study:
     def answers(self, question):
         """The answers of worlds that fit, ascending by their texts."""
         if question not in self.answered:
-            found = {}
-            find_answers(self.grown((), self.logs_of(question)), question, found, None)
+            found = find_answers(self.grown((), self.logs_of(question)), question)
             if len(self.answered) == MOST_TOLD:
                 self.answered.clear()
             self.answered[question] = tuple(by_text(question, list(found)))
@@ -79,16 +79,13 @@ class Study:
         """The answers of worlds that fit, ascending by their texts, but no more than two of them."""
         if question in self.answered:
             return self.answered[question][:2]
-        found = {}
-        find_answers(self.grown((), self.logs_of(question)), question, found, 2)
+        found = find_answers(self.grown((), self.logs_of(question)), question, (), 2)
         return tuple(by_text(question, list(found)))
 
     def world_with_other(self, question, known, left):
         """A world that fits but for left out marks, and gives another answer than these; None if there is none."""
-        found = {answer: None for answer in known}
-        find_answers(self.grown(left, self.logs_of(question)), question, found, len(found) + 1)
-        others = [case for case in found.values() if case is not None]
-        return some_world(others[0]) if others else None
+        found = find_answers(self.grown(left, self.logs_of(question)), question, known, 1)
+        return some_world(list(found.values())[0]) if found else None
 
     def tell(self, place, value):
         """The value is told: place names the function and what it was asked."""

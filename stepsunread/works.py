@@ -24,6 +24,8 @@ class Work:
         self.outs = {part.name: tuple([self.places[file] for file in part.outputs]) for part in draft.parts.values()}
         # What was worked out of books (see study_of in stepsunread/studies.py).
         self.studies = {}
+        # What was worked out of questions (see stepsunread/inquiries.py).
+        self.recalled = {}
         # Tuples of programs that are known to be crews, as strings.
         self.crews = {}
 
