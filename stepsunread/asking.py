@@ -2,14 +2,13 @@
 
 from stepsunread.errors import BadQuestion, NoStep, NoWorld
 from stepsunread.finding import Finding
-from stepsunread.forms import is_pair
-from stepsunread.looking import is_same, leaf_answers
-from stepsunread.making import answer_of_world
+from stepsunread.forms import is_pair, is_same
+from stepsunread.looking import leaf_answers
 from stepsunread.questions import is_asked
 from stepsunread.studies import study_of
 from stepsunread.sure import sure_of
+from stepsunread.witnesses import answer_of_world, is_fitting
 from stepsunread.wording import answer_text
-from stepsunread.worlds import is_fitting
 
 
 def study_asked(work, book, question):

@@ -5,10 +5,20 @@ from stepsunread.halts import Halt
 from stepsunread.walks import Walk
 
 
-def new_case(layout, is_hasty=False):
-    """The case in which nothing was chosen, worked out so far."""
-    case = Case(layout, {}, {step: {} for step in layout.work.steps}, [None] * len(layout.groups), [])
-    case.is_hasty = is_hasty
+def empty_case(layout):
+    """The case in which nothing was chosen, not worked out."""
+    return Case(layout, {}, {step: {} for step in layout.work.steps}, [None] * len(layout.groups), [])
+
+
+def case_at(layout, path):
+    """The case behind the choices of a path, which is () or (path, point, number of the thing), worked out so far."""
+    choices = []
+    while path:
+        path, point, at = path
+        choices.append((point, at))
+    case = empty_case(layout)
+    for point, at in reversed(choices):
+        case.try_out(point, case.things(point)[at])
     case.go()
     return case
 

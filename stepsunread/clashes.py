@@ -3,8 +3,8 @@
 from stepsunread.asking import study_asked
 from stepsunread.errors import NoWorld
 from stepsunread.finding import only_answer
-from stepsunread.forms import is_pair
-from stepsunread.looking import is_same, leaf_answers
+from stepsunread.forms import is_pair, is_same
+from stepsunread.looking import leaf_answers
 from stepsunread.marks import are_marks, others
 from stepsunread.stripping import strip
 from stepsunread.studies import study_of

@@ -28,12 +28,15 @@ class Finding:
                 return None
             leaves.append(grown)
             case = self.growth.leaf(len(leaves))
-        return self.growth.tree(leaves)
+        tree = self.growth.tree(leaves)
+        self.growth.note_tree(self.search.question, tree, list(self.search.given))
+        return tree
 
     def tree_behind(self, case):
         """The tree that tells the answers in the case of a leaf."""
         if self.search.question is not None:
             return self.search.ask(case)
+        self.search.given[None] = True
         if None not in self.search.known:
             self.found.setdefault(None, case)
         return "gives", None

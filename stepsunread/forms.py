@@ -14,12 +14,18 @@ def is_below(value, bound):
     return isinstance(value, int) and not isinstance(value, bool) and 0 <= value < bound
 
 
+def is_same(value, told):
+    """Whether the value is just what is told."""
+    # What is equal need not be the same: True is not 1. As strings they differ.
+    return value == told and repr(value) == repr(told)
+
+
 def is_row(value, sizes):
     """Whether the value is a tuple with an integer below each of the sizes."""
     if not isinstance(value, tuple) or len(value) != len(sizes):
         return False
     for item, size in zip(value, sizes):
-        if not is_below(item, size):
+        if not isinstance(item, int) or isinstance(item, bool) or not 0 <= item < size:
             return False
     return True
 

@@ -3,10 +3,9 @@
 Cases part all worlds that fit; all their logs have come to their end.
 """
 
-from stepsunread.forms import all_rows
+from stepsunread.forms import all_rows, is_same
 from stepsunread.inquiries import find_answers
-from stepsunread.looking import is_same
-from stepsunread.machines import written
+from stepsunread.machines import left_by, written
 from stepsunread.questions import is_asked
 from stepsunread.sweeping import settled
 
@@ -90,9 +89,7 @@ def doubt_of_all(cases, number):
                 told, case = list(answers_in([origins[stand]], ("run", step, stand), 1).items())[0]
                 others = [found[other] for other in found if other != told]
                 return [case, others[0]], (stand, step)
-            end = list(found)[0][1]
-            if end != "fail":
-                beyond.append(written(work, stand, work.writes(step), end))
+            beyond.append(left_by(work, step, stand, list(found)[0][1]))
         for other in beyond:
             if other not in origins:
                 origins[other] = origins[stand]

@@ -1,6 +1,11 @@
 """Growing trees: choices are made until each case is shut, or gives an answer."""
 
-from stepsunread.cases import new_case
+from stepsunread.cases import empty_case
+
+
+# Of a growth the trees of so many questions are known, and so many of each.
+MOST_QUESTIONS = 64
+MOST_TREES = 3
 
 
 class Fork:
@@ -38,13 +43,16 @@ class Growth:
         # What has been built, from below: leaves that are shut, None for each that fits, (point, number of trees).
         self.built = []
         self.is_done = False
-        # See numbered.
-        self.plain = None
+        # By questions: (tree, answers that it gives) of trees that are known.
+        self.known = {}
 
     def leaf(self, at):
         """The case of the leaf of this number that fits, None if there are not so many."""
         if not self.built and not self.forks:
-            self.take(new_case(self.layout, True))
+            case = empty_case(self.layout)
+            case.is_hasty = True
+            case.go()
+            self.take(case)
         while len(self.cases) <= at and not self.is_done:
             self.take(self.forks[-1].next_case())
         return self.cases[at] if at < len(self.cases) else None
@@ -88,11 +96,15 @@ class Growth:
             self.forks.pop()
         self.is_done = True
 
-    def numbered(self):
-        """The tree, whole, with ("leaf", number) in the places of leaves that fit."""
-        if self.plain is None:
-            self.plain = self.tree([("leaf", at) for at in range(len(self.all_cases()))])
-        return self.plain
+    def known_trees(self, question):
+        """(tree, answers that it gives) for trees of the question that are known."""
+        return self.known.get(question, ())
+
+    def note_tree(self, question, tree, answers):
+        """The tree, for the question, is known, and gives these answers."""
+        if len(self.known) == MOST_QUESTIONS:
+            self.known.clear()
+        self.known[question] = ((tree, answers),) + self.known_trees(question)[:MOST_TREES - 1]
 
     def tree(self, leaves):
         """The tree, whole, with these trees in the places of leaves that fit, of which there are as many."""

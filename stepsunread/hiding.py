@@ -4,14 +4,13 @@ from stepsunread.errors import BadLog, BadQuestion, NoWorld
 from stepsunread.forms import is_stand
 from stepsunread.goals import answers_in, last_stands
 from stepsunread.halts import Halt
-from stepsunread.machines import Machine
-from stepsunread.making import answer_of_world, some_world
+from stepsunread.machines import left_by, run_of
+from stepsunread.making import some_world
 from stepsunread.outlooks import cases_to_act_on
-from stepsunread.passages import Passage
 from stepsunread.probing import come, is_log_to_act_on, prepared, writings
 from stepsunread.questions import is_asked
 from stepsunread.studies import study_of
-from stepsunread.worlds import is_fitting
+from stepsunread.witnesses import answer_of_world, end_stand, is_fitting
 
 
 def check_hidden(work, book, log, question):
@@ -116,7 +115,7 @@ def shows_hidden(work, book, log, question, value):
         return False
     if any([stand >= later for stand, later in zip(stands, stands[1:])]):
         return False
-    if any([Passage(outline, told).rows[log][-1] not in stands for told in (world, other)]):
+    if any([end_stand(outline, told, log) not in stands for told in (world, other)]):
         return False
     if not is_shut(work, world[0], other[0], stands):
         return False
@@ -128,7 +127,9 @@ def is_shut(work, crew, other, stands):
     for stand in stands:
         for probe in probes_of(work):
             begin = prepared(work, probe, stand)
-            machine, beside = Machine(work, crew, begin), Machine(work, other, begin)
-            if machine.run_whole(probe[2]) != beside.run_whole(probe[2]) or machine.stand not in stands:
+            told = run_of(work, crew, probe[2], begin)
+            if told != run_of(work, other, probe[2], begin):
+                return False
+            if left_by(work, probe[2], begin, told[1]) not in stands:
                 return False
     return True

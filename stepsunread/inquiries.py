@@ -90,7 +90,8 @@ def keep(work, place, told):
 class Search:
     """Looks for answers to a question, but those that are known; with a most, for no more than so many.
 
-    found: by answers the case that gave it first.
+    found: by answers the case that gave it first. given: all answers that
+    were given, known or not, as the keys of a dict.
     """
 
     def __init__(self, question, known=(), most=None):
@@ -98,6 +99,7 @@ class Search:
         self.known = known
         self.most = most
         self.found = {}
+        self.given = {}
 
     def is_enough(self):
         """Whether enough were found."""
@@ -121,6 +123,7 @@ class Search:
             answer = told[0]
             if answer not in paths:
                 paths[answer] = asking.path()
+                self.given[answer] = True
                 if self.is_new(answer):
                     self.found[answer] = asking.case.copy()
                     if self.is_enough():
@@ -134,6 +137,7 @@ class Search:
         """What ask tells, where the tree, and the choices that lead to each answer first, are told."""
         tree, paths = told
         for answer in paths:
+            self.given[answer] = True
             if self.is_new(answer):
                 beyond = case.copy()
                 for point, thing in paths[answer]:

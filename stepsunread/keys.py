@@ -4,12 +4,12 @@ from itertools import combinations
 
 from stepsunread.errors import BadPrices, BadStand, NoStep, NoWorld
 from stepsunread.finding import Finding
-from stepsunread.forms import all_rows, content_at, is_integer, is_pair, is_stand
-from stepsunread.looking import is_same, leaf_answers
-from stepsunread.machines import Machine, written
+from stepsunread.forms import all_rows, content_at, is_integer, is_pair, is_same, is_stand
+from stepsunread.looking import leaf_answers
+from stepsunread.machines import run_of, written
 from stepsunread.making import some_world
 from stepsunread.studies import study_of
-from stepsunread.worlds import is_fitting
+from stepsunread.witnesses import is_fitting
 
 GREATEST_PRICE = 9
 
@@ -51,7 +51,7 @@ def tuples_of_files(work, step, prices):
 
 def end_at(work, step, world, stand):
     """The end of a run of the step at the stand, in the world."""
-    return Machine(work, world[0], stand).run_whole(step)[1]
+    return run_of(work, world[0], step, stand)[1]
 
 
 def bars(work, row, stand, files):

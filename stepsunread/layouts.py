@@ -43,6 +43,8 @@ class Outline:
         self.known_counts = {}
         # Tuples of contents and weavings that are known to be those of worlds, as strings.
         self.contents = {}
+        # By worlds, as strings: their passages through the book (stepsunread/worlds.py).
+        self.passages = {}
         # See resting.
         self.rest_stands = None
 

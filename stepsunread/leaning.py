@@ -8,13 +8,12 @@ from stepsunread.finding import Finding
 from stepsunread.forms import is_below, is_pair
 from stepsunread.hitting import bars_all_ahead, is_barred
 from stepsunread.looking import leaf_answers
-from stepsunread.making import answer_of_world, some_world
+from stepsunread.making import some_world
 from stepsunread.marks import are_marks, marks_of, others
-from stepsunread.passages import Passage
 from stepsunread.questions import is_asked
 from stepsunread.stripping import strip
 from stepsunread.studies import study_of
-from stepsunread.worlds import has_form
+from stepsunread.witnesses import answer_of_world, misfits_of
 
 MOST_QUESTIONS = 3
 
@@ -35,11 +34,6 @@ def amends(work, book):
     return None
 
 
-def wrong_in(outline, world):
-    """The marks of events that are not as noted in the world."""
-    return Passage(outline, world).misfits
-
-
 def shows_amends(work, book, value):
     """Whether the value is what amends could tell, with any rows: BadBook."""
     study = study_of(work, book)
@@ -48,9 +42,8 @@ def shows_amends(work, book, value):
     if not isinstance(value, tuple) or len(value) != 3 or not isinstance(value[2], tuple):
         return False
     marks, world, rows = value
-    if not are_marks(book, marks) or not has_form(study.outline, world):
-        return False
-    if not all([mark in marks for mark in wrong_in(study.outline, world)]):
+    wrong = misfits_of(study.outline, world)
+    if not are_marks(book, marks) or wrong is None or any([mark not in marks for mark in wrong]):
         return False
     for row in rows:
         if not is_pair(row) or not are_marks(book, row[0]) or not shuts(study, row[0], row[1]):
@@ -96,7 +89,7 @@ def lean(work, book, questions, *, given=()):
             if row is None:
                 return study.tell(("lean", questions, given), (chosen, tuple(trees), tuple(rows)))
             rows.append(row)
-            barring.append(wrong_in(study.outline, row[1]))
+            barring.append(misfits_of(study.outline, row[1]))
     return None
 
 
@@ -115,8 +108,8 @@ def trees_or_row(study, questions, answers, left):
 
 def closest_world(study, question, known, world):
     """A world with another answer than the known ones, with as little wrong as one by one can be mended."""
-    for mark in wrong_in(study.outline, world):
-        wrong = [other for other in wrong_in(study.outline, world) if other != mark]
+    for mark in misfits_of(study.outline, world):
+        wrong = [other for other in misfits_of(study.outline, world) if other != mark]
         found = study.world_with_other(question, known, wrong)
         world = world if found is None else found
     return world
@@ -145,14 +138,15 @@ def shows_lean(work, book, questions, value, *, given=()):
             return False
     if not all([brings_in(study.outline, questions, answers, given, row) for row in rows]):
         return False
-    return bars_all_ahead(others(book, given), marks, [wrong_in(study.outline, row[1]) for row in rows])
+    return bars_all_ahead(others(book, given), marks, [misfits_of(study.outline, row[1]) for row in rows])
 
 
 def brings_in(outline, questions, answers, given, value):
     """Whether the value is (number, world): what is given fits there, and no world that fits has its answer."""
-    if not is_pair(value) or not is_below(value[0], len(questions)) or not has_form(outline, value[1]):
+    if not is_pair(value) or not is_below(value[0], len(questions)):
         return False
     number, world = value
-    if any([mark in given for mark in wrong_in(outline, world)]):
+    wrong = misfits_of(outline, world)
+    if wrong is None or any([mark in given for mark in wrong]):
         return False
     return answer_of_world(outline, world, questions[number]) not in answers[number]

@@ -1,31 +1,27 @@
 """Looking at values that may be trees."""
 
 from stepsunread.answers import answer_in
-from stepsunread.cases import new_case
-from stepsunread.forms import is_integer
-from stepsunread.inquiries import asked_by
+from stepsunread.cases import case_at
+from stepsunread.forms import is_integer, is_same
 from stepsunread.halts import Halt
 
 
-# How points that are no points of steps begin, as strings.
-SIGNS = ("('first'", "('hand'", "('weave'")
+def is_node(value, word, many):
+    """Whether the value is a tuple of so many items that begins with the word."""
+    return isinstance(value, tuple) and len(value) == many and isinstance(value[0], str) and value[0] == word
 
 
-def is_same(value, told):
-    """Whether the value is just what is told: True is not 1, and a list no tuple."""
-    if isinstance(told, tuple):
-        if not isinstance(value, tuple) or len(value) != len(told):
-            return False
-        return all([is_same(item, part) for item, part in zip(value, told)])
-    if isinstance(told, bool) or isinstance(value, bool):
-        return isinstance(told, bool) and isinstance(value, bool) and value == told
-    return value == told
+def is_fork(value, told):
+    """Whether the value begins with the point of this tree, and has as many trees behind it."""
+    if told[0] != "at" or not is_node(value, "at", 3):
+        return False
+    return isinstance(value[2], tuple) and len(value[2]) == len(told[2]) and is_same(value[1], told[1])
 
 
 class Reader:
     """Reads a value that may be a tree, for a layout and a question (or None).
 
-    found: the answers that its leaves give, each once.
+    found: the answers that its leaves give, each once, as far as they were looked at.
     """
 
     def __init__(self, layout, question):
@@ -33,10 +29,24 @@ class Reader:
         self.question = question
         self.found = []
 
-    def takes(self, value):
-        """Whether the value is a tree."""
-        # A stack of its own, as trees may be deeper than calls should be. Nobody else has the cases on it.
-        ahead = [(value, new_case(self.layout))]
+    def takes_beside(self, value, told):
+        """Whether the value is a tree, as another one is that is told."""
+        # As long as both are alike, nothing has to be worked out. What is ahead: values, parts of the tree that is
+        # told, and the choices that lead there: a stack, as trees may be deeper than calls should be.
+        ahead = [(value, told, ())]
+        while ahead:
+            value, told, path = ahead.pop()
+            if is_fork(value, told):
+                pairs = list(zip(value[2], told[2]))
+                ahead += [(tree, other, (path, told[1], at)) for at, (tree, other) in enumerate(pairs)]
+            elif told[0] == "at" or not is_same(value, told):
+                if not self.takes_from(case_at(self.layout, path), value):
+                    return False
+        return True
+
+    def takes_from(self, case, value):
+        """Whether the value is a tree from the case on."""
+        ahead = [(value, case)]
         while ahead:
             value, case = ahead.pop()
             if case.is_worked_out():
@@ -92,11 +102,6 @@ class Reader:
         return True
 
 
-def is_node(value, word, many):
-    """Whether the value is a tuple of so many items that begins with the word."""
-    return isinstance(value, tuple) and len(value) == many and isinstance(value[0], str) and value[0] == word
-
-
 def choices_of(case, value):
     """(tree, point, thing) for each tree at a point; None if this is no part of a tree."""
     _, point, trees = value
@@ -129,27 +134,12 @@ def is_shut_leaf(case, value):
     return value[1:] in case.wrong
 
 
-def leaves_of(growth, value):
-    """(case, tree) for each leaf of the tree that has grown, if the value is like it but for what is behind leaves.
-
-    None if it is not.
-    """
-    rows = []
-    ahead = [(value, growth.numbered())]
-    while ahead:
-        value, told = ahead.pop()
-        if told[0] == "leaf":
-            rows.append((growth.leaf(told[1]), value))
-        elif told[0] == "shut":
-            if not is_same(value, told):
-                return None
-        else:
-            if not is_node(value, "at", 3) or not is_same(value[1], told[1]):
-                return None
-            if not isinstance(value[2], tuple) or len(value[2]) != len(told[2]):
-                return None
-            ahead += list(zip(value[2], told[2]))
-    return rows
+def known_like(growth, question, value):
+    """(tree, answers that it gives), a tree that is known and begins as the value does; None if there is none."""
+    for tree, answers in growth.known_trees(question):
+        if is_fork(value, tree):
+            return tree, answers
+    return None
 
 
 def leaf_answers(growth, question, value):
@@ -158,20 +148,14 @@ def leaf_answers(growth, question, value):
     growth: the tree without the question.
     """
     reader = Reader(growth.layout, question)
-    rows = leaves_of(growth, value)
-    if rows is None:
-        # Points may come in any sequence: it may still be another tree.
-        return reader.found if reader.takes(value) else None
-    seen = {}
-    for case, tree in rows:
-        key = () if question is None else asked_by(case, question)
-        text = repr(tree) if key else ""
-        # Whether other points than those of steps are open does not hang on the key alone.
-        if any([sign in text for sign in SIGNS]):
-            key = ()
-        if key and (key, text) in seen:
-            continue
-        if not reader.takes_answers(case.copy(), tree):
-            return None
-        seen[key, text] = True
-    return reader.found
+    known = known_like(growth, question, value)
+    if known is None:
+        is_so, answers = reader.takes_from(case_at(growth.layout, ()), value), reader.found
+    else:
+        # All trees give the same answers: those of worlds that fit.
+        tree, answers = known
+        is_so = reader.takes_beside(value, tree)
+    if not is_so:
+        return None
+    growth.note_tree(question, value, answers)
+    return answers

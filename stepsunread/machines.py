@@ -13,9 +13,31 @@ def written(work, stand, files, contents):
     return tuple(row)
 
 
+def left_by(work, step, stand, end):
+    """The stand behind a run of the step with this end: what fails writes nothing."""
+    return stand if end == "fail" else written(work, stand, work.parts[step].outputs, end)
+
+
 def end_of(thing):
     """The end of a run that does this thing at last."""
     return "fail" if thing[0] == "fail" else thing[1]
+
+
+def run_down(work, program, stand):
+    """The (way, end) of a run of the program from this stand on."""
+    places = work.places
+    way = ()
+    while program[0] == "read":
+        _, file, branches = program
+        content = stand[places[file]]
+        way += ((file, content),)
+        program = branches[content]
+    return way, end_of(program)
+
+
+def run_of(work, crew, step, stand):
+    """The (way, end) of a run of the step at the stand."""
+    return run_down(work, crew[work.step_numbers[step]], stand)
 
 
 class Machine:
@@ -31,14 +53,20 @@ class Machine:
         """What stands in the file."""
         return self.stand[self.work.places[file]]
 
+    def put(self, place, content):
+        """Write the content into the file of this number."""
+        self.stand = self.stand[:place] + (content,) + self.stand[place + 1:]
+
     def write(self, places, contents):
         """Write the contents into the files of these numbers, as far as there are contents."""
+        row = list(self.stand)
         for place, content in zip(places, contents):
-            self.stand = self.stand[:place] + (content,) + self.stand[place + 1:]
+            row[place] = content
+        self.stand = tuple(row)
 
     def start(self, step):
         """A run of the step begins."""
-        self.running[step] = self.crew[self.work.steps.index(step)]
+        self.running[step] = self.crew[self.work.step_numbers[step]]
 
     def read_next(self, step):
         """The run reads on: the (file, content), None if it has read all."""
@@ -77,15 +105,7 @@ class Machine:
 
     def run_whole(self, step):
         """A run from beginning to end: (way, end)."""
-        places, stand = self.work.places, self.stand
-        program = self.crew[self.work.steps.index(step)]
-        way = ()
-        while program[0] == "read":
-            _, file, branches = program
-            content = stand[places[file]]
-            way += ((file, content),)
-            program = branches[content]
-        if program[0] == "fail":
-            return way, "fail"
-        self.write(self.work.outs[step], program[1])
-        return way, program[1]
+        told = run_of(self.work, self.crew, step, self.stand)
+        if told[1] != "fail":
+            self.write(self.work.outs[step], told[1])
+        return told

@@ -1,10 +1,9 @@
 """Worlds from cases, and cases from worlds."""
 
-from stepsunread.answers import answer_in
 from stepsunread.cases import Case
 from stepsunread.layouts import Layout
 from stepsunread.marks import marks_of
-from stepsunread.questions import names_log
+from stepsunread.walks import Walk
 
 
 def some_program(layout, step, known, way):
@@ -74,17 +73,13 @@ def done_by(program):
     return known
 
 
-def case_of_world(outline, world, question):
-    """The case in which all is chosen as it is in the world, as far as the question asks; no note is asked."""
-    work = outline.work
-    crew, firsts, hands, weaves = world
-    known = {step: done_by(program) for step, program in zip(work.steps, crew)}
+def case_of_world(outline, world, known):
+    """The case in which all is chosen as it is in the world, known being what its programs do; no note is asked."""
+    _, firsts, hands, weaves = world
     layout = Layout(outline, marks_of(outline.book))
     case = Case(layout, {}, known, [None] * len(outline.groups), [])
-    if not names_log(question):
-        return case
     for number, log in enumerate(outline.book):
-        for file, content in zip(work.files, firsts[number]):
+        for file, content in zip(outline.work.files, firsts[number]):
             case.chosen["first", number, file] = content
         sets = [at for at, event in enumerate(log) if event[0] == "set"]
         for at, content in zip(sets, hands[number]):
@@ -95,6 +90,14 @@ def case_of_world(outline, world, question):
     return case
 
 
-def answer_of_world(outline, world, question):
-    """The answer that the world gives."""
-    return answer_in(case_of_world(outline, world, question), question)
+def case_at_end(outline, known, number, stand):
+    """A case in which the programs do what is known, and the log of this number has come to this stand.
+
+    With None no log has come anywhere.
+    """
+    case = Case(Layout(outline, ()), {}, known, [None] * len(outline.groups), [])
+    if number is not None:
+        walk = Walk(case.layout, (number,), stand, ())
+        walk.is_over = True
+        case.walks[outline.group_numbers[number]] = walk
+    return case

@@ -9,7 +9,7 @@ def come(machine, event, contents):
     word, name = event[0], event[1]
     if word == "set":
         content = contents.pop(0)
-        machine.write((machine.work.places[name],), (content,))
+        machine.put(machine.work.places[name], content)
         return event[2] in (None, content)
     if word == "saw":
         return event[2] in (None, machine.content(name))
@@ -46,43 +46,70 @@ def break_off(machine, step, wrote):
 
 
 class Passage:
-    """A world that has gone through a book.
+    """A world that goes through a book.
 
-    rows: for each log its stands; misfits: the marks of events that are not as noted.
+    rows: for each log its stands; misfits: the marks of events that are not as noted. Both are told behind go.
     """
 
     def __init__(self, outline, world):
         self.outline = outline
         self.crew, self.firsts, self.hands, self.weaves = world
-        self.rows = [[] for log in outline.book]
+        self.rows = []
         self.misfits = []
         # The stand at the end of each log: one for both of a pair.
         self.lasts = {}
-        for numbers in outline.groups:
-            self.go_from(numbers)
+        # What the programs do, by steps and ways, as soon as it was asked; answers, by questions.
+        self.deeds = {}
+        self.answers_told = {}
 
-    def go_from(self, numbers):
-        """Go through the log, or the pair, of these numbers."""
-        outline = self.outline
-        link = outline.links[numbers[0]]
-        stand = self.firsts[numbers[0]] if link is None else self.lasts[link[1]]
-        machine = Machine(outline.work, self.crew, stand)
-        left = {}
-        for log in numbers:
-            # One stand at the beginning, and one behind after or beside.
-            self.rows[log] = [stand] if outline.links[log] is None else [stand, stand]
-            left[log] = list(self.hands[log])
-        number, beside = numbers[0], numbers[-1]
-        # A log that is alone comes as if it were beside itself.
-        many = len(outline.book[number]) + 1 - len(self.rows[number])
-        weaving = self.weaves[beside] if len(numbers) > 1 else [1] * many
-        for item in weaving:
+    def go(self):
+        """Go through all logs, unless that was done; the passage itself."""
+        if not self.rows:
+            self.rows = [[] for log in self.outline.book]
+            for numbers in self.outline.groups:
+                if len(numbers) == 1:
+                    self.go_alone(numbers[0])
+                else:
+                    self.go_woven(numbers)
+        return self
+
+    def machine_at(self, number):
+        """The machine at the beginning of the log; its first stands are told."""
+        link = self.outline.links[number]
+        if link is None:
+            stand = self.firsts[number]
+            self.rows[number].append(stand)
+        else:
+            stand = self.lasts[link[1]]
+            # One at the beginning, and one behind after or beside.
+            self.rows[number] += [stand, stand]
+        return Machine(self.outline.work, self.crew, stand)
+
+    def go_alone(self, number):
+        """Go through a log that is alone."""
+        machine = self.machine_at(number)
+        contents = list(self.hands[number])
+        row, log = self.rows[number], self.outline.book[number]
+        # A log has one stand more than events: so behind its first ones this is the next event.
+        for at in range(len(row) - 1, len(log)):
+            if not come(machine, log[at], contents):
+                self.misfits.append((number, at))
+            row.append(machine.stand)
+        self.lasts[number] = machine.stand
+
+    def go_woven(self, numbers):
+        """Go through a pair of logs, the one that is beside the other behind it."""
+        number, beside = numbers
+        machine = self.machine_at(number)
+        stand = machine.stand
+        self.rows[beside] += [stand, stand]
+        left = {log: list(self.hands[log]) for log in numbers}
+        for item in self.weaves[beside]:
             log = beside if item == 1 else number
             row = self.rows[log]
-            # A log has one stand more than events: so behind its first ones this is the next.
-            event = len(row) - 1
-            if not come(machine, outline.book[log][event], left[log]):
-                self.misfits.append((log, event))
+            at = len(row) - 1
+            if not come(machine, self.outline.book[log][at], left[log]):
+                self.misfits.append((log, at))
             row.append(machine.stand)
         for log in numbers:
             self.lasts[log] = machine.stand

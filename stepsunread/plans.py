@@ -1,14 +1,11 @@
 """Looking at values that may be plans and foils."""
 
 from stepsunread.acts import GREATEST_SUM, check_acts, place_of, planner_of
-from stepsunread.forms import is_integer, is_pair, is_stand
+from stepsunread.forms import is_integer, is_pair, is_same, is_stand
 from stepsunread.goals import next_stands
-from stepsunread.looking import is_same
-from stepsunread.machines import Machine
-from stepsunread.making import answer_of_world
-from stepsunread.passages import Passage
+from stepsunread.machines import left_by, run_of
 from stepsunread.probing import events_of, is_outcome
-from stepsunread.worlds import is_fitting
+from stepsunread.witnesses import answer_of_world, end_stand, is_fitting
 
 
 def stands_from(work, crew, first):
@@ -19,9 +16,7 @@ def stands_from(work, crew, first):
         stand = ahead.pop()
         beyond = next_stands(work, stand)
         for step in work.steps:
-            machine = Machine(work, crew, stand)
-            machine.run_whole(step)
-            beyond.append(machine.stand)
+            beyond.append(left_by(work, step, stand, run_of(work, crew, step, stand)[1]))
         for other in beyond:
             if other not in found:
                 found[other] = True
@@ -98,9 +93,9 @@ class Looker:
         world, other, stand, step = value
         if not is_stand(work, stand) or step not in work.steps:
             return False
-        if stand not in stands_from(work, world[0], Passage(outline, world).rows[self.search.number][-1]):
+        if stand not in stands_from(work, world[0], end_stand(outline, world, self.search.number)):
             return False
-        return Machine(work, world[0], stand).run_whole(step) != Machine(work, other[0], stand).run_whole(step)
+        return run_of(work, world[0], step, stand) != run_of(work, other[0], step, stand)
 
 
 def shows_cheapest(work, book, log, goal, prices, most, value, *, is_writing=True):

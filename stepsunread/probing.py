@@ -2,7 +2,7 @@
 
 from stepsunread.events import link_of
 from stepsunread.forms import all_rows, content_at, is_below, is_content, is_end, is_pair, is_way
-from stepsunread.machines import written
+from stepsunread.machines import left_by, written
 from stepsunread.ways import run_from
 from stepsunread.wording import run_text
 from stepsunread.weavings import steps_under_way
@@ -50,8 +50,7 @@ def come(case, act, stand):
         return case.content(content_at(work, stand, act[1])), stand
     begin = prepared(work, act, stand)
     outcome = run_from(case, act[2], begin)
-    end = outcome[1]
-    return outcome, begin if end == "fail" else written(work, begin, work.writes(act[2]), end)
+    return outcome, left_by(work, act[2], begin, outcome[1])
 
 
 def is_outcome(work, act, value):

@@ -4,10 +4,11 @@ from itertools import combinations
 
 from stepsunread.errors import BadSteps, NoWorld
 from stepsunread.finding import Finding
-from stepsunread.looking import is_same, leaf_answers
-from stepsunread.making import answer_of_world, some_world
+from stepsunread.forms import is_same
+from stepsunread.looking import leaf_answers
+from stepsunread.making import some_world
 from stepsunread.studies import study_of
-from stepsunread.worlds import is_fitting
+from stepsunread.witnesses import answer_of_world, is_fitting
 
 
 def check_rounds(work, book, steps):

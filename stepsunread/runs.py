@@ -2,7 +2,7 @@
 
 from stepsunread.errors import BadCrew, BadEnd, BadStand
 from stepsunread.forms import is_end, is_stand
-from stepsunread.machines import Machine, written
+from stepsunread.machines import left_by, run_of
 from stepsunread.programs import is_program
 from stepsunread.works import part_of
 
@@ -12,21 +12,30 @@ WORDS = ("read", "end", "fail")
 MOST_CREWS = 2000
 
 
-def is_crew(work, value):
-    """Whether the value is a tuple with a program for each step."""
+def may_be_crew(work, value):
+    """Whether the value has the rough form of a crew: so it is not nested too deep to be written as a string."""
     if not isinstance(value, tuple) or len(value) != len(work.steps):
         return False
     for program in value:
         if not isinstance(program, tuple) or not program or program[0] not in WORDS:
             return False
+    return True
+
+
+def is_crew(work, value):
+    """Whether the value is a tuple with a program for each step."""
+    return may_be_crew(work, value) and is_told_crew(work, value, repr(value))
+
+
+def is_told_crew(work, value, told):
+    """Whether a value of the rough form of a crew, told as a string, is one."""
     # What is equal need not be the same: True is not 1. As strings they differ.
-    key = repr(value)
-    if key not in work.crews:
+    if told not in work.crews:
         if not all([is_program(work, step, program) for step, program in zip(work.steps, value)]):
             return False
         if len(work.crews) == MOST_CREWS:
             work.crews.clear()
-        work.crews[key] = True
+        work.crews[told] = True
     return True
 
 
@@ -34,10 +43,10 @@ def run(work, crew, step, stand):
     """The (way, end) of a run of the step at the stand: BadCrew, NoStep, BadStand."""
     if not is_crew(work, crew):
         raise BadCrew(crew)
-    part = part_of(work, step)
+    name = part_of(work, step).name
     if not is_stand(work, stand):
         raise BadStand(stand)
-    return Machine(work, crew, stand).run_whole(part.name)
+    return run_of(work, crew, name, stand)
 
 
 def behind(work, step, stand, end):
@@ -47,5 +56,4 @@ def behind(work, step, stand, end):
         raise BadStand(stand)
     if not is_end(part, end):
         raise BadEnd(end)
-    # What fails writes nothing.
-    return stand if end == "fail" else written(work, stand, part.outputs, end)
+    return left_by(work, part.name, stand, end)

@@ -4,10 +4,9 @@ from stepsunread.errors import BadLog, BadQuestion
 from stepsunread.finding import Finding, only_answer
 from stepsunread.forms import is_below, is_pair
 from stepsunread.looking import leaf_answers
-from stepsunread.making import answer_of_world
 from stepsunread.questions import is_asked, names_log
 from stepsunread.studies import study_of
-from stepsunread.worlds import is_fitting
+from stepsunread.witnesses import answer_of_world, is_fitting
 
 
 def check_since(work, book, log, question):

@@ -3,6 +3,7 @@
 from stepsunread.books import MOST_EVENTS, MOST_LOGS, is_book
 from stepsunread.errors import BadBook
 from stepsunread.events import LENGTHS
+from stepsunread.forms import is_same
 from stepsunread.growth import Growth
 from stepsunread.idling import idle_marks
 from stepsunread.inquiries import find_answers
@@ -96,7 +97,7 @@ class Study:
 
     def was_told(self, place, value):
         """Whether just this value was told."""
-        return place in self.told and repr(self.told[place]) == repr(value)
+        return place in self.told and is_same(value, self.told[place])
 
 
 def may_be_book(value):

@@ -19,8 +19,9 @@ class Work:
         self.kinds = tuple([part.kind for part in draft.parts.values()])
         self.mosts = tuple([part.most for part in draft.parts.values()])
         self.sources = tuple([file for file in self.files if file not in draft.written])
-        # The numbers of files, and of those that a step writes.
+        # The numbers of files, of steps, and of the files that a step writes.
         self.places = {file: at for at, file in enumerate(self.files)}
+        self.step_numbers = {step: at for at, step in enumerate(self.steps)}
         self.outs = {part.name: tuple([self.places[file] for file in part.outputs]) for part in draft.parts.values()}
         # What was worked out of books (see study_of in stepsunread/studies.py).
         self.studies = {}

@@ -5,7 +5,7 @@ import unittest
 
 from stepsunread.answers import answer_in
 from stepsunread.asking import ask, is_sure, shows_answers, sure_facts
-from stepsunread.cases import new_case
+from stepsunread.cases import case_at
 from stepsunread.errors import BadBook, BadQuestion, NoStep, NoWorld
 from stepsunread.halts import Halt
 from stepsunread.layouts import layout_of
@@ -205,7 +205,7 @@ class KnownEarly(unittest.TestCase):
         choices = [(("next", "on", ()), ("read", "a")), (("next", "back", ()), ("read", "c")),
                    (("next", "on", (("a", 0),)), ("end", (0,))), (("next", "on", (("a", 1),)), ("end", (1,))),
                    (("next", "back", (("c", 0),)), ("end", (1,))), (("next", "back", (("c", 1),)), ("end", (0,)))]
-        case = new_case(layout_of(work, book))
+        case = case_at(layout_of(work, book), ())
         for point, thing in choices:
             with self.assertRaises(Halt):
                 answer_in(case, ("rests",))

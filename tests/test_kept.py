@@ -8,7 +8,7 @@ from stepsunread.asking import ask, is_sure, shows_answers, sure_facts
 from stepsunread.books import is_book
 from stepsunread.clashes import clash, grounds, shows_clash, shows_grounds
 from stepsunread.counts import shares, worlds
-from stepsunread.errors import BadBook, BadCrew, BadWorld
+from stepsunread.errors import BadBook, BadCrew, BadWorld, StepError
 from stepsunread.hiding import hidden, shows_hidden
 from stepsunread.keys import key, shows_key
 from stepsunread.leaning import amends, lean, shows_amends, shows_lean
@@ -16,11 +16,10 @@ from stepsunread.plans import shows_cheapest
 from stepsunread.rounds import rounds, shows_rounds
 from stepsunread.runs import run
 from stepsunread.since import shows_since, since
-from stepsunread.studies import Study
 from stepsunread.trees import shows_tree, tree
 from stepsunread.works import Work
 from stepsunread.worlds import fits, is_world, misfits
-from tests import REAL_WAS_TOLD, acting, never_told, slow
+from tests import acting, literal, look_in_full, slow
 from tests.chances import SMALL, chance_book, chance_marks, chance_question, many_worlds
 from tests.samples import MILL, told_of
 
@@ -46,10 +45,10 @@ def lists(value):
 
 class KeptTest(unittest.TestCase):
     def setUp(self):
-        Study.was_told = REAL_WAS_TOLD
+        look_in_full(False)
 
     def tearDown(self):
-        Study.was_told = never_told
+        look_in_full()
 
     def test_just_what_was_told_is_taken(self):
         work = Work(MILL)
@@ -67,6 +66,51 @@ class KeptTest(unittest.TestCase):
                     self.assertIs(shows(work, *values, other), False)
                     self.assertIs(shows(Work(MILL), *values, other), False)
                 self.assertIs(shows(work, *values, told), True)
+
+    def test_changed_trees_are_looked_at_as_in_full(self):
+        chance = random.Random(63)
+        seen = {True: 0, False: 0}
+        for _ in range(150):
+            text = chance.choice(SMALL)
+            work = Work(text)
+            book = chance_book(chance, work, 4)
+            left, question = chance_marks(chance, book), chance.choice([None, chance_question(chance, work, book)])
+            told = [tree(work, book, question, left=left)]
+            if len(list(literal.nodes(told[0]))) < 300:
+                told.append(literal.chance_tree(chance, work, book, question, left, chance.choice([0, 1])))
+            for value in told + [literal.altered(chance, work, book, chance.choice(told)) for _ in range(12)]:
+                look_in_full()
+                expected = shows_tree(Work(text), book, question, value, left=left)
+                look_in_full(False)
+                for _ in range(2):
+                    self.assertIs(shows_tree(work, book, question, value, left=left), expected)
+                seen[expected] += 1
+        self.assertGreater(min(seen.values()), 300, seen)
+
+    def test_changed_evidence_is_looked_at_as_in_full(self):
+        chance = random.Random(64)
+        for _ in range(60):
+            text = chance.choice(SMALL)
+            work = Work(text)
+            book = chance_book(chance, work, 3)
+            question = chance_question(chance, work, book)
+            step, stand = work.steps[0], tuple([0] * len(work.files))
+            prices = (1,) * len(work.reads(step))
+            for call, shows, values in [
+                    (ask, shows_answers, (book, question)), (clash, shows_clash, (book,)), (grounds, shows_grounds, (book, question)),
+                    (lean, shows_lean, (book, (question,))), (since, shows_since, (book, 0, question)),
+                    (key, shows_key, (book, step, stand, prices)), (rounds, shows_rounds, (book, work.steps))]:
+                try:
+                    told = call(work, *values)
+                except StepError:
+                    continue
+                rows = list(acting.nodes(told))
+                for _ in range(8):
+                    value = acting.put(told, chance.choice(rows)[0], chance.choice(rows)[1])
+                    look_in_full()
+                    expected = shows(Work(text), *values, value)
+                    look_in_full(False)
+                    self.assertIs(shows(work, *values, value), expected)
 
     def test_equal_values_of_other_kinds_are_not_taken_for_what_was_looked_at(self):
         work = Work(MILL)
