@@ -43,6 +43,8 @@ class Growth:
         # What has been built, from below: leaves that are shut, None for each that fits, (point, number of trees).
         self.built = []
         self.is_done = False
+        # See numbered.
+        self.plain = None
         # By questions: (tree, answers that it gives) of trees that are known.
         self.known = {}
 
@@ -95,6 +97,12 @@ class Growth:
             self.built.append((fork.point, len(marks)))
             self.forks.pop()
         self.is_done = True
+
+    def numbered(self):
+        """The tree, whole, with ("leaf", number) in the places of leaves that fit."""
+        if self.plain is None:
+            self.plain = self.tree([("leaf", at) for at in range(len(self.all_cases()))])
+        return self.plain
 
     def known_trees(self, question):
         """(tree, answers that it gives) for trees of the question that are known."""

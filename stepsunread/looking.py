@@ -4,6 +4,10 @@ from stepsunread.answers import answer_in
 from stepsunread.cases import case_at
 from stepsunread.forms import is_integer, is_same
 from stepsunread.halts import Halt
+from stepsunread.inquiries import asked_by
+
+# How points that are no points of steps begin, as strings.
+SIGNS = ("('first'", "('hand'", "('weave'")
 
 
 def is_node(value, word, many):
@@ -19,18 +23,21 @@ def is_fork(value, told):
 
 
 class Reader:
-    """Reads a value that may be a tree, for a layout and a question (or None).
+    """Reads a value that may be a tree, for a question (or None).
 
-    found: the answers that its leaves give, each once, as far as they were looked at.
+    growth: the tree without the question. found: the answers that leaves of
+    the value give, each once, as far as they were looked at.
     """
 
-    def __init__(self, layout, question):
-        self.layout = layout
+    def __init__(self, growth, question):
+        self.growth = growth
         self.question = question
         self.found = []
+        # By what answers hang on, and by parts of the value, as strings: whether they are parts of a tree.
+        self.seen = {}
 
     def takes_beside(self, value, told):
-        """Whether the value is a tree, as another one is that is told."""
+        """Whether the value is a tree, as another one is that is told: a known one, or the one that has grown."""
         # As long as both are alike, nothing has to be worked out. What is ahead: values, parts of the tree that is
         # told, and the choices that lead there: a stack, as trees may be deeper than calls should be.
         ahead = [(value, told, ())]
@@ -39,10 +46,25 @@ class Reader:
             if is_fork(value, told):
                 pairs = list(zip(value[2], told[2]))
                 ahead += [(tree, other, (path, told[1], at)) for at, (tree, other) in enumerate(pairs)]
+            elif told[0] == "leaf":
+                if not self.takes_behind(told[1], value):
+                    return False
             elif told[0] == "at" or not is_same(value, told):
-                if not self.takes_from(case_at(self.layout, path), value):
+                if not self.takes_from(case_at(self.growth.layout, path), value):
                     return False
         return True
+
+    def takes_behind(self, number, value):
+        """Whether the value is a tree from the leaf of this number on, of the tree that has grown."""
+        case = self.growth.leaf(number)
+        key = () if self.question is None else asked_by(case, self.question)
+        text = repr(value)
+        # Whether other points than those of steps are open does not hang on the key alone.
+        if not key or any([sign in text for sign in SIGNS]):
+            return self.takes_answers(case.copy(), value)
+        if (key, text) not in self.seen:
+            self.seen[key, text] = self.takes_answers(case.copy(), value)
+        return self.seen[key, text]
 
     def takes_from(self, case, value):
         """Whether the value is a tree from the case on."""
@@ -147,15 +169,10 @@ def leaf_answers(growth, question, value):
 
     growth: the tree without the question.
     """
-    reader = Reader(growth.layout, question)
-    known = known_like(growth, question, value)
-    if known is None:
-        is_so, answers = reader.takes_from(case_at(growth.layout, ()), value), reader.found
-    else:
-        # All trees give the same answers: those of worlds that fit.
-        tree, answers = known
-        is_so = reader.takes_beside(value, tree)
-    if not is_so:
+    reader = Reader(growth, question)
+    # All trees give the same answers: those of worlds that fit.
+    tree, answers = known_like(growth, question, value) or (growth.numbered(), reader.found)
+    if not reader.takes_beside(value, tree):
         return None
     growth.note_tree(question, value, answers)
     return answers
