@@ -41,7 +41,7 @@ class Case:
         # Whether nothing is worked out any more as soon as one event is wrong, and what can be one thing
         # alone, but for what is wrong at once, is chosen as soon as it is needed.
         self.is_hasty = False
-        # (point, things, marks that shut them, number of the thing) for each of these choices.
+        # (point, things, marks that shut all but one of them) for each of these choices.
         self.decided = []
         # By points at which walks halt: (things, marks that shut them), as far as nothing was chosen since.
         self.asked = {}
@@ -118,9 +118,9 @@ class Case:
     def going_on(self, layout, number, stand):
         """Another case, by a layout in which this log, which is alone and worked out, goes on to the stand."""
         walks = list(self.walks)
-        at = layout.group_numbers[number]
-        walks[at] = walks[at].copy()
-        walks[at].stand = stand
+        walk = self.walk_of(number).copy()
+        walk.stand = stand
+        walks[layout.group_numbers[number]] = walk
         return Case(layout, self.chosen, self.known, walks, self.wrong)
 
     def content(self, told):
@@ -146,10 +146,10 @@ class Case:
             self.asked[point] = things, marks
             raise Halt(point)
         self.asked = {}
-        at = marks.index(None)
-        self.decided.append((point, things, marks, at))
-        self.try_out(point, things[at])
-        return things[at]
+        self.decided.append((point, things, marks))
+        thing = things[marks.index(None)]
+        self.try_out(point, thing)
+        return thing
 
     def note_wrong(self, mark):
         """The event is wrong."""

@@ -64,14 +64,9 @@ def programs_of(case):
 def contents_of(case):
     """How many ways there are for contents that were not chosen in a case."""
     layout = case.layout
-    total = 1
-    for number in layout.first_logs():
-        for file, point in zip(layout.work.files, layout.first_stand(number)):
-            if point not in case.chosen:
-                total = total * layout.work.widths[file]
-    for mark, told in layout.hands.items():
-        if not isinstance(told, int) and told not in case.chosen:
-            total = total * layout.work.widths[layout.book[mark[0]][mark[1]][1]]
+    total = layout.all_contents()
+    for point in case.chosen:
+        total = total // layout.many_contents(point)
     return total
 
 

@@ -22,7 +22,9 @@ class Fork:
         self.many = marks.count(None)
 
     def next_case(self):
-        """The case behind the next thing."""
+        """The case behind the next thing that is not shut at once."""
+        while self.marks[self.reached] is not None:
+            self.reached += 1
         thing = self.choices[self.reached]
         self.reached += 1
         self.many -= 1
@@ -40,7 +42,7 @@ class Growth:
         self.cases = []
         # The forks from the first one down, a stack of its own: trees grow deeper than calls should.
         self.forks = []
-        # What has been built, from below: leaves that are shut, None for each that fits, (point, number of trees).
+        # What has been built, from below: leaves that are shut, None for each that fits, (point, marks) of forks.
         self.built = []
         self.is_done = False
         # See numbered.
@@ -67,10 +69,10 @@ class Growth:
 
     def take(self, case):
         """The case is a leaf, or a fork comes there."""
-        for point, choices, marks, at in case.decided:
-            self.built += [("shut",) + mark for mark in marks[:at]]
+        for point, choices, marks in case.decided:
             fork = Fork(point, choices, marks, case)
-            fork.reached = at + 1
+            # The case has gone on with the only thing that is not shut at once.
+            fork.many = 0
             self.forks.append(fork)
         case.decided = []
         points = [] if case.wrong else case.halts()
@@ -82,21 +84,10 @@ class Growth:
             self.built.append(None)
             case.is_hasty = False
             self.cases.append(case)
-        self.go_on()
-
-    def go_on(self):
-        """Go on up to a thing that is not shut at once, or to the end."""
-        while self.forks:
-            fork = self.forks[-1]
-            marks = fork.marks
-            while fork.reached < len(marks) and marks[fork.reached] is not None:
-                self.built.append(("shut",) + marks[fork.reached])
-                fork.reached += 1
-            if fork.reached < len(marks):
-                return
-            self.built.append((fork.point, len(marks)))
-            self.forks.pop()
-        self.is_done = True
+        while self.forks and self.forks[-1].many == 0:
+            fork = self.forks.pop()
+            self.built.append((fork.point, fork.marks))
+        self.is_done = not self.forks
 
     def numbered(self):
         """The tree, whole, with ("leaf", number) in the places of leaves that fit."""
@@ -125,11 +116,25 @@ class Growth:
             elif row[0] == "shut":
                 built.append(row)
             else:
-                point, number = row
-                trees = tuple(built[-number:])
-                del built[-number:]
+                point, marks = row
+                first = len(built) - marks.count(None)
+                trees = with_shut(marks, built[first:])
+                del built[first:]
                 built.append(("at", point, trees))
         return built[0]
+
+
+def with_shut(marks, trees):
+    """The trees, each in the place of a None among the marks, and leaves that are shut by the marks in theirs."""
+    row = []
+    at = 0
+    for mark in marks:
+        if mark is None:
+            row.append(trees[at])
+            at += 1
+        else:
+            row.append(("shut",) + mark)
+    return tuple(row)
 
 
 def best_fork(case, points):

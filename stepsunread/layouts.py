@@ -94,10 +94,27 @@ class Layout:
                 if mark in outline.hands:
                     self.hands[mark] = ("hand",) + mark
         self.idle = {mark: True for mark in idle}
+        # See all_contents.
+        self.many_in_all = 0
 
-    def first_logs(self):
-        """The numbers of the logs at whose beginning nothing is known."""
-        return [numbers[0] for numbers in self.groups if self.outline.links[numbers[0]] is None]
+    def many_contents(self, point):
+        """How many contents can be chosen for the point: 1 if it is a weave."""
+        word, number, told = point
+        if word == "weave":
+            return 1
+        return self.work.widths[told if word == "first" else self.book[number][told][1]]
+
+    def all_contents(self):
+        """How many ways there are to choose all contents of all logs that are open."""
+        if self.many_in_all == 0:
+            points = [told for told in self.hands.values() if not isinstance(told, int)]
+            for numbers in self.groups:
+                if self.outline.links[numbers[0]] is None:
+                    points += self.first_stand(numbers[0])
+            self.many_in_all = 1
+            for point in points:
+                self.many_in_all = self.many_in_all * self.many_contents(point)
+        return self.many_in_all
 
     def first_stand(self, number):
         """The stand at the beginning of the log, of which all is open."""
