@@ -101,33 +101,33 @@ def halt_of_sweep(case, stand):
 
 def rests_everywhere(case):
     """Whether sweeps come to rest from each stand."""
-    sizes, rows = case.layout.outline.resting()
-    beyond = {}
     halt_point = None
-    for stand in rows:
-        point = halt_of_sweep(case, stand)
-        if point is None:
-            told = sweep_from(case, stand)[0]
-            beyond[stand] = tuple([content if size > 1 else 0 for content, size in zip(told, sizes)])
-        else:
-            halt_point = halt_point or point
-    if comes_again(beyond):
-        return False
+    for stand in case.layout.outline.resting()[1]:
+        if (1, stand) not in case.memory:
+            told = halt_ahead_of_rest(case, stand)
+            if told is False:
+                return False
+            halt_point = halt_point or told
     if halt_point is not None:
         raise Halt(halt_point)
     return True
 
 
-def comes_again(beyond):
-    """Whether a stand comes again behind other ones, if each of these stands leads to the one that is told."""
-    fine = {}
-    for begin in beyond:
-        stand, path = begin, {}
-        while stand in beyond and stand not in fine and beyond[stand] != stand:
-            if stand in path:
-                return True
-            path[stand] = True
-            stand = beyond[stand]
-        for passed in path:
-            fine[passed] = True
-    return False
+def halt_ahead_of_rest(case, stand):
+    """The point at which sweeps from the stand halt; None if they come to rest, which is remembered, False if never."""
+    sizes = case.layout.outline.resting()[0]
+    path = {}
+    while (1, stand) not in case.memory:
+        if stand in path:
+            return False
+        path[stand] = True
+        point = halt_of_sweep(case, stand)
+        if point is not None:
+            return point
+        beyond = tuple([content if size > 1 else 0 for content, size in zip(sweep_from(case, stand)[0], sizes)])
+        if beyond == stand:
+            break
+        stand = beyond
+    for passed in path:
+        case.remember((1, passed), True)
+    return None
