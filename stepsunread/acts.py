@@ -1,7 +1,7 @@
 """The cheapest acts behind which a goal is reached."""
 
 from stepsunread.errors import BadCount, BadGoal, BadLog, BadPrices, BadTruth, NoWorld
-from stepsunread.forms import is_below
+from stepsunread.forms import is_below, string_of
 from stepsunread.goals import is_goal
 from stepsunread.keys import are_prices
 from stepsunread.outlooks import Prospect
@@ -14,7 +14,7 @@ GREATEST_SUM = 27
 
 
 def check_acts(work, book, log, goal, prices, most, is_writing):
-    """The search: BadBook, BadLog, BadGoal, BadPrices, BadCount, BadTruth, NoWorld."""
+    """The study of the book: BadBook, BadLog, BadGoal, BadPrices, BadCount, BadTruth, NoWorld."""
     study = study_of(work, book)
     if not is_log_to_act_on(book, log):
         raise BadLog(log)
@@ -26,10 +26,9 @@ def check_acts(work, book, log, goal, prices, most, is_writing):
         raise BadCount(most)
     if not isinstance(is_writing, bool):
         raise BadTruth(is_writing)
-    search = Prospect(study, log, goal)
-    if not search.first.cases:
+    if not study.has_world():
         raise NoWorld(None)
-    return search
+    return study
 
 
 class Planner:
@@ -110,9 +109,10 @@ def cheapest(work, book, log, goal, prices, most, *, is_writing=True):
 
     BadBook, BadLog, BadGoal, BadPrices, BadCount, BadTruth, NoWorld.
     """
-    search = check_acts(work, book, log, goal, prices, most, is_writing)
+    study = check_acts(work, book, log, goal, prices, most, is_writing)
+    search = Prospect(study, log, goal)
     told = plan_or_foil(search, planner_of(search, prices, is_writing), most)
-    return search.study.tell(place_of(log, goal, prices, most, is_writing), told)
+    return study.tell(place_of(log, goal, prices, most, is_writing), told)
 
 
 def plan_or_foil(search, planner, most):
@@ -127,4 +127,4 @@ def plan_or_foil(search, planner, most):
 
 def place_of(*asked):
     """What was asked, as a string: the answer of a goal may be any value."""
-    return "cheapest " + repr(asked)
+    return string_of(asked)

@@ -14,10 +14,21 @@ def is_below(value, bound):
     return isinstance(value, int) and not isinstance(value, bool) and 0 <= value < bound
 
 
+def string_of(value):
+    """The value as a string, which only values have that are the same: what is equal need not be, True is not 1.
+
+    An empty one if there are integers in it of which Python writes no string; nothing here is as large.
+    """
+    try:
+        text = str(value)
+    except ValueError:
+        return ""
+    return text
+
+
 def is_same(value, told):
     """Whether the value is just what is told."""
-    # What is equal need not be the same: True is not 1. As strings they differ.
-    return value == told and repr(value) == repr(told)
+    return value == told and string_of(value) == string_of(told)
 
 
 def is_row(value, sizes):

@@ -100,12 +100,12 @@ def pair_hidden(work, cases, log, question):
 
 def shows_hidden(work, book, log, question, value):
     """Whether the value is what hidden could tell, with any stands: BadBook, BadLog, BadQuestion, NoWorld."""
-    study = check_hidden(work, book, log, question)[0]
+    study, cases = check_hidden(work, book, log, question)
     outline = study.outline
     if study.was_told(("hidden", log, question), value):
         return True
     if value is None:
-        return hidden(work, book, log, question) is None
+        return pair_hidden(work, cases, log, question) is None
     if not isinstance(value, tuple) or len(value) != 3 or not isinstance(value[2], tuple):
         return False
     world, other, stands = value

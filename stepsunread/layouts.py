@@ -43,8 +43,10 @@ class Outline:
         self.known_counts = {}
         # Tuples of contents and weavings that are known to be those of worlds, as strings.
         self.contents = {}
-        # By worlds, as strings: their passages through the book (stepsunread/worlds.py).
+        # By worlds, as strings: their passages through the book (stepsunread/witnesses.py).
         self.passages = {}
+        # By events that come behind those of the book: the outlines of books that have them, too.
+        self.twins = {}
         # See resting.
         self.rest_stands = None
 

@@ -2,7 +2,7 @@
 
 from stepsunread.answers import answer_in
 from stepsunread.cases import case_at
-from stepsunread.forms import is_integer, is_same
+from stepsunread.forms import is_integer, is_same, string_of
 from stepsunread.halts import Halt
 from stepsunread.inquiries import asked_by
 
@@ -58,7 +58,7 @@ class Reader:
         """Whether the value is a tree from the leaf of this number on, of the tree that has grown."""
         case = self.growth.leaf(number)
         key = () if self.question is None else asked_by(case, self.question)
-        text = repr(value)
+        text = string_of(value)
         # Whether other points than those of steps are open does not hang on the key alone.
         if not key or any([sign in text for sign in SIGNS]):
             return self.takes_answers(case.copy(), value)

@@ -129,6 +129,8 @@ class Prospect:
         self.outline = study.outline
         self.number = number
         self.goal = goal
+        # How many books behind acts are kept (see stepsunread/plans.py).
+        self.many_kept = 0
         # What would stand at the end of this log hangs on the sequence of probes, in which they come anew.
         self.is_ordered = goal[0] != "all" and goal[1][0] == "had" and goal[1][1] == number
         # By what was told.

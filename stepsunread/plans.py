@@ -1,11 +1,16 @@
 """Looking at values that may be plans and foils."""
 
 from stepsunread.acts import GREATEST_SUM, check_acts, place_of, planner_of
-from stepsunread.forms import is_integer, is_pair, is_same, is_stand
+from stepsunread.forms import is_integer, is_pair, is_same, is_stand, string_of
 from stepsunread.goals import next_stands
 from stepsunread.machines import left_by, run_of
+from stepsunread.outlooks import Prospect
 from stepsunread.probing import events_of, is_outcome
 from stepsunread.witnesses import answer_of_world, end_stand, is_fitting
+
+# Of a book so many goals are kept, and of each so many books behind acts, as plans are shown again and again.
+MOST_PROSPECTS = 4
+MOST_OUTLINES = 500
 
 
 def stands_from(work, crew, first):
@@ -21,6 +26,20 @@ def stands_from(work, crew, first):
             if other not in found:
                 found[other] = True
                 ahead.append(other)
+    return found
+
+
+def kept_prospect(study, log, goal):
+    """What acts tell for a goal at the end of the log, as far as it was looked at before."""
+    place = string_of((log, goal))
+    if place in study.prospects:
+        return study.prospects[place]
+    found = Prospect(study, log, goal)
+    if len(study.prospects) == MOST_PROSPECTS:
+        study.prospects.clear()
+    # An empty string may stand for any goal.
+    if place:
+        study.prospects[place] = found
     return found
 
 
@@ -68,10 +87,21 @@ class Looker:
                 return False
             if not is_outcome(self.search.work, act, row[1]):
                 return False
-            beyond = outline.going_on(self.search.number, events_of(self.search.work, act, row[1]))
-            if not self.is_foil(beyond, row[2], many - 1, price - cost):
+            if not self.is_foil(self.outline_behind(outline, act, row[1]), row[2], many - 1, price - cost):
                 return False
         return True
+
+    def outline_behind(self, outline, act, outcome):
+        """The outline of the book behind the act and its outcome."""
+        search = self.search
+        events = events_of(search.work, act, outcome)
+        if events in outline.twins:
+            return outline.twins[events]
+        twin = outline.going_on(search.number, events)
+        if search.many_kept < MOST_OUTLINES:
+            search.many_kept += 1
+            outline.twins[events] = twin
+        return twin
 
     def is_hint(self, outline, value):
         """Whether the value shows that the goal is not reached in the book."""
@@ -103,9 +133,10 @@ def shows_cheapest(work, book, log, goal, prices, most, value, *, is_writing=Tru
 
     BadBook, BadLog, BadGoal, BadPrices, BadCount, BadTruth, NoWorld.
     """
-    search = check_acts(work, book, log, goal, prices, most, is_writing)
-    if search.study.was_told(place_of(log, goal, prices, most, is_writing), value):
+    study = check_acts(work, book, log, goal, prices, most, is_writing)
+    if study.was_told(place_of(log, goal, prices, most, is_writing), value):
         return True
+    search = kept_prospect(study, log, goal)
     looker = Looker(search, planner_of(search, prices, is_writing).acts)
     if is_pair(value) and is_same(value[0], "none"):
         return looker.is_foil(search.outline, value[1], most, GREATEST_SUM)

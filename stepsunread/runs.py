@@ -1,7 +1,7 @@
 """Runs of steps at stands."""
 
 from stepsunread.errors import BadCrew, BadEnd, BadStand
-from stepsunread.forms import is_end, is_stand
+from stepsunread.forms import is_end, is_stand, string_of
 from stepsunread.machines import left_by, run_of
 from stepsunread.programs import is_program
 from stepsunread.works import part_of
@@ -24,12 +24,11 @@ def may_be_crew(work, value):
 
 def is_crew(work, value):
     """Whether the value is a tuple with a program for each step."""
-    return may_be_crew(work, value) and is_told_crew(work, value, repr(value))
+    return may_be_crew(work, value) and is_told_crew(work, value, string_of(value))
 
 
 def is_told_crew(work, value, told):
     """Whether a value of the rough form of a crew, told as a string, is one."""
-    # What is equal need not be the same: True is not 1. As strings they differ.
     if told not in work.crews:
         if not all([is_program(work, step, program) for step, program in zip(work.steps, value)]):
             return False

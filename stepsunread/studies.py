@@ -3,7 +3,7 @@
 from stepsunread.books import MOST_EVENTS, MOST_LOGS, is_book
 from stepsunread.errors import BadBook
 from stepsunread.events import LENGTHS
-from stepsunread.forms import is_same
+from stepsunread.forms import is_same, string_of
 from stepsunread.growth import Growth
 from stepsunread.idling import idle_marks
 from stepsunread.inquiries import find_answers
@@ -34,6 +34,8 @@ class Study:
         # By questions: all their answers.
         self.answered = {}
         self.lacking = {}
+        # By logs and goals, as strings: see stepsunread/plans.py.
+        self.prospects = {}
 
     def cut(self, log, number):
         """The study of the book with so many first events of the log alone."""
@@ -89,10 +91,11 @@ class Study:
         return some_world(list(found.values())[0]) if found else None
 
     def tell(self, place, value):
-        """The value is told: place names the function and what it was asked."""
+        """The value is told: place names what was asked; an empty one keeps nothing."""
         if len(self.told) == MOST_TOLD:
             self.told.clear()
-        self.told[place] = value
+        if place:
+            self.told[place] = value
         return value
 
     def was_told(self, place, value):
@@ -117,8 +120,7 @@ def study_of(work, book):
     """The study of the book: BadBook."""
     if not may_be_book(book):
         raise BadBook(book)
-    # What is equal need not be the same: True is not 1. As strings they differ.
-    key = repr(book)
+    key = string_of(book)
     if key not in work.studies:
         if not is_book(work, book):
             raise BadBook(book)

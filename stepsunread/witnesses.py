@@ -2,7 +2,7 @@
 
 from stepsunread.answers import answer_in
 from stepsunread.events import body_of
-from stepsunread.forms import content_at, is_row, is_stand
+from stepsunread.forms import content_at, is_row, is_stand, string_of
 from stepsunread.inquiries import AT_THE_END
 from stepsunread.making import case_at_end, case_of_world, done_by
 from stepsunread.passages import Passage
@@ -18,8 +18,7 @@ def passage_of(outline, value):
     """The passage of a world through the book, None if the value is none by its form."""
     if not isinstance(value, tuple) or len(value) != 4 or not may_be_crew(outline.work, value[0]):
         return None
-    # What is equal need not be the same: True is not 1. As strings they differ.
-    crew, contents = repr(value[0]), repr(value[1:])
+    crew, contents = string_of(value[0]), string_of(value[1:])
     key = crew + contents
     if key not in outline.passages:
         if not is_told_crew(outline.work, value[0], crew) or not are_told_contents(outline, value, contents):
