@@ -28,7 +28,7 @@ def nested(kind, depth):
 
 # Values of any kind; none of them is a name, a stand, a crew or a log of the works above.
 ANY = [
-    None, True, False, 0, 1, -1, 7, 10 ** 40, "", "A", "zz", "a b", "cut ", "fail", (), (1,), ("cut",),
+    None, True, False, 0, 1, -1, 7, 10 ** 40, 10 ** 5000, "", "A", "zz", "a b", "cut ", "fail", (), (1,), ("cut",),
     ("fail",), [], ["cut"], ["a"], {}, {"a": 1}, (True,), (None, None), ((), ()), ([], {}),
     nested(tuple, 40), nested(list, 40), nested(dict, 40),
 ]
