@@ -33,6 +33,32 @@ def go_back(outline, left, number, needed, idle):
     return needed
 
 
+def go_back_woven(outline, left, numbers, needed, idle):
+    """The same for a pair of logs: what is needed behind any of its events may be needed behind all of them."""
+    work = outline.work
+    mute = []
+    for number in numbers:
+        for at, event in enumerate(outline.book[number]):
+            word, name = event[0], event[1]
+            if word == "run" and is_mute(event, (number, at), left):
+                mute.append((number, at))
+            elif word in ("run", "reads", "end", "break"):
+                needed = joined(needed, work.parts[name].inputs)
+            elif word == "saw" and event[2] is not None and (number, at) not in left:
+                needed = joined(needed, (name,))
+    many = -1
+    while len(needed) != many:
+        many = len(needed)
+        for number, at in mute:
+            part = work.parts[outline.book[number][at][1]]
+            if [file for file in part.outputs if file in needed]:
+                needed = joined(needed, part.inputs)
+    for number, at in mute:
+        if not [file for file in work.parts[outline.book[number][at][1]].outputs if file in needed]:
+            idle[number, at] = True
+    return needed
+
+
 def joined(needed, files):
     """The files that are needed, and these."""
     return {file: True for file in list(needed) + list(files)}
@@ -45,12 +71,13 @@ def idle_marks(outline, left, needs):
     # By logs: what is needed at their end.
     ends = {number: {} for number in range(len(outline.book))}
     for numbers in reversed(outline.groups):
-        number = numbers[0]
-        if len(numbers) > 1 or number in needs:
+        if [number for number in numbers if number in needs]:
             needed = everything
+        elif len(numbers) > 1:
+            needed = go_back_woven(outline, left, numbers, joined(ends[numbers[0]], ends[numbers[1]]), idle)
         else:
-            needed = go_back(outline, left, number, joined({}, ends[number]), idle)
-        link = outline.links[number]
+            needed = go_back(outline, left, numbers[0], joined({}, ends[numbers[0]]), idle)
+        link = outline.links[numbers[0]]
         if link is not None:
             ends[link[1]] = joined(ends[link[1]], needed)
     return tuple(idle)

@@ -6,6 +6,8 @@ from stepsunread.forms import is_integer, is_same, string_of
 from stepsunread.halts import Halt
 from stepsunread.inquiries import asked_by
 
+# Questions about sweeps.
+SWEEPING = ("swept", "sweeps", "turns", "rests")
 # How points that are no points of steps begin, as strings.
 SIGNS = ("('first'", "('hand'", "('weave'")
 
@@ -85,25 +87,36 @@ class Reader:
 
     def takes_answers(self, case, value):
         """Whether the value is a tree from here on, all logs of the case having come to their end."""
-        # What is ahead: a tree, (tree, point, thing) where a choice comes first, (None, point) where it is taken back.
-        ahead = [(value,)]
+        # What is ahead: (how much was remembered, tree, point, thing) where a choice comes first, without the last
+        # two at the beginning, and (how much, point) where a choice is taken back.
+        ahead = [(len(case.remembered), value, None)]
         while ahead:
             row = ahead.pop()
-            case.forget(0)
+            case.forget(row[0])
             if len(row) == 2:
                 case.take_back(row[1])
                 continue
-            if len(row) == 3:
-                case.try_out(row[1], row[2])
-            if is_node(row[0], "at", 3):
-                rows = choices_of(case, row[0])
+            if len(row) == 4:
+                case.try_out(row[2], row[3])
+            if is_node(row[1], "at", 3):
+                rows = choices_of(case, row[1])
                 if rows is None:
                     return False
-                ahead.append((None, row[0][1]))
-                ahead += rows
-            elif not self.takes_leaf(case, row[0]):
+                self.work_out(case)
+                many = len(case.remembered)
+                ahead.append((many, row[1][1]))
+                ahead += [(many,) + choice for choice in rows]
+            elif not self.takes_leaf(case, row[1]):
                 return False
         return True
+
+    def work_out(self, case):
+        """What is known of sweeps by the choices so far is remembered, as long as they stay."""
+        if self.question is not None and self.question[0] in SWEEPING:
+            try:
+                answer_in(case, self.question)
+            except Halt:
+                return
 
     def takes_leaf(self, case, value):
         """Whether the value is a leaf where all logs of the case have come to their end."""
