@@ -35,7 +35,7 @@ class Finding:
     def tree_behind(self, case):
         """The tree that tells the answers in the case of a leaf."""
         if self.search.question is not None:
-            return self.search.ask(case)
+            return self.search.ask(case, asked_by(case, self.search.question))
         self.search.given[None] = True
         if None not in self.search.known:
             self.found.setdefault(None, case)

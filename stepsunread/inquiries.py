@@ -109,10 +109,9 @@ class Search:
         """Whether the answer was not found so far, and not known."""
         return answer not in self.found and answer not in self.known
 
-    def ask(self, case):
-        """The tree of answers in the case, of which all logs have come to their end; None if it was left off."""
+    def ask(self, case, key):
+        """The tree of answers in the case, of which asked_by tells the key; None if it was left off."""
         work = case.layout.work
-        key = asked_by(case, self.question)
         place = self.question, key
         if key and place in work.recalled:
             return self.ask_again(case, work.recalled[place])
@@ -162,7 +161,7 @@ def find_answers(leaves, question, known=(), most=None):
         key = asked_by(case, question)
         if not key or key not in seen:
             seen[key] = True
-            search.ask(case)
+            search.ask(case, key)
         at += 1
         case = leaves.leaf(at)
     return search.found

@@ -54,18 +54,20 @@ class Passage:
     def __init__(self, outline, world):
         self.outline = outline
         self.crew, self.firsts, self.hands, self.weaves = world
-        self.rows = []
-        self.misfits = []
+        self.rows = None
+        self.misfits = None
         # The stand at the end of each log: one for both of a pair.
-        self.lasts = {}
-        # What the programs do, by steps and ways, as soon as it was asked; answers, by questions.
-        self.deeds = {}
-        self.answers_told = {}
+        self.lasts = None
+        # As soon as they are asked for: what the programs do, by steps and ways; answers, by questions.
+        self.deeds = None
+        self.answers_told = None
 
     def go(self):
         """Go through all logs, unless that was done; the passage itself."""
-        if not self.rows:
+        if self.rows is None:
             self.rows = [[] for log in self.outline.book]
+            self.misfits = []
+            self.lasts = {}
             for numbers in self.outline.groups:
                 if len(numbers) == 1:
                     self.go_alone(numbers[0])

@@ -82,6 +82,8 @@ def is_fitting(outline, value):
 def answer_of_world(outline, world, question):
     """The answer that the world, which is one by its form, gives."""
     found = passage_of(outline, world)
+    if found.answers_told is None:
+        found.answers_told = {}
     if question not in found.answers_told:
         found.answers_told[question] = answer_of_passage(found.go(), world, question)
     return found.answers_told[question]
@@ -94,7 +96,7 @@ def answer_of_passage(told, world, question):
     if word == "stood":
         _, number, moment, file = question
         return content_at(work, told.rows[number][moment], file)
-    if not told.deeds:
+    if told.deeds is None:
         told.deeds = {step: done_by(program) for step, program in zip(work.steps, told.crew)}
     if not names_log(question):
         case = case_at_end(outline, told.deeds, None, ())
