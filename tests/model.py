@@ -159,7 +159,11 @@ class Model:
     def do_blot(self, mark):
         log, at = mark
         event = self.elders[log][at]
-        event = event[:2] + (((None,), None) if event[0] == "run" else (None,))
+        # Where nothing is noted, nothing changes: gaps alone tell nothing.
+        if event[0] != "run":
+            event = event[:2] + (None,)
+        elif event[3] is not None or set(event[2]) != {None}:
+            event = event[:2] + ((None,), None)
         row = self.elders[log][:at] + (event,) + self.elders[log][at + 1:]
         self.elders = self.elders[:log] + (row,) + self.elders[log + 1:]
 

@@ -484,13 +484,13 @@ class ClashTest(unittest.TestCase):
 
     def test_blot(self):
         log = (("set", "a", 0), ("saw", "b", None), ("run", "cut", (("a", 0),), None), ("begin", "cut"),
-               ("reads", "cut", (("a", 0),)), ("end", "cut", None), ("run", "mix", (None,), None))
+               ("reads", "cut", (("a", 0),)), ("end", "cut", None), ("run", "mix", (None,), None), ("run", "mix", (None, None), None))
         house = new_house((0, 0, 0), (log,))
         house.put("a", 1)
-        for mark in ((0, 3), (0, 4), (0, 5), (0, 7), (1, 0), (0, -1), (-1, 0), (0, True), [0, 0], (0, 0, 0), None):
+        for mark in ((0, 3), (0, 4), (0, 5), (0, 8), (1, 0), (0, -1), (-1, 0), (0, True), [0, 0], (0, 0, 0), None):
             self.assertIs(told_of(self, NoMark, house.blot, mark), mark)
         many = len(house.past)
-        for mark in ((0, 1), (0, 6)):
+        for mark in ((0, 1), (0, 6), (0, 7)):
             self.assertIsNone(house.blot(mark))
         self.assertEqual((house.book[0], len(house.past)), (log, many))
         house.blot((0, 2))
