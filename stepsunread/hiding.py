@@ -115,7 +115,9 @@ def shows_hidden(work, book, log, question, value):
         return False
     if any([stand >= later for stand, later in zip(stands, stands[1:])]):
         return False
-    if any([end_stand(outline, told, log) not in stands for told in (world, other)]):
+    end = end_stand(outline, world, log)
+    # Looks show all files: worlds in which the log ends unlike are told apart, whatever the stands are.
+    if end not in stands or end != end_stand(outline, other, log):
         return False
     if not is_shut(work, world[0], other[0], stands):
         return False

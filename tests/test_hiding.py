@@ -13,6 +13,9 @@ from tests.samples import ANY, MILL, NO_BOOKS, told_of
 from tests.test_acts import chance_room
 
 WORK = Work(MILL)
+# Nobody reads c.
+ROW = Work("file a 2\nfile b 2\nfile c 2\nstep cut flat 1\n  reads a\n  writes b\n"
+           "step mix tree 1\n  reads b\n  writes c")
 BOOK = ((("set", "a", 0), ("run", "cut", (("a", 0),), (2,))),)
 BAD = ((("set", "a", 0), ("saw", "a", 1)),)
 
@@ -77,6 +80,7 @@ class HiddenTest(unittest.TestCase):
                     self.assertTrue((one, other) in found or (other, one) in found)
                     self.assertTrue(is_closed(room, one, other, stands))
                     self.assertIn(acting.last(work, book, one, log), stands)
+                    self.assertEqual(acting.last(work, book, one, log), acting.last(work, book, other, log))
                     self.spoil(chance, room, question, told, found)
 
     def spoil(self, chance, room, question, told, found):
@@ -103,8 +107,87 @@ class HiddenTest(unittest.TestCase):
         told = room.answers(question)
         return (told[one] != told[other] and list(stands) == sorted(set(stands))
                 and all(len(stand) == len(room.work.files) for stand in stands)
-                and all(acting.last(room.work, room.book, world, room.log) in stands for world in (one, other))
+                and acting.last(room.work, room.book, one, room.log) == acting.last(room.work, room.book, other, room.log)
+                and acting.last(room.work, room.book, one, room.log) in stands
                 and is_closed(room, one, other, stands))
+
+
+class UnlikeEndsTest(unittest.TestCase):
+    """Looks tell worlds apart in which the log ends unlike, even if all that is run goes alike."""
+
+    EVERY = tuple(itertools.product(range(2), repeat=3))
+
+    def look_at(self, book, question, ends, told):
+        """Two worlds that end the log at these stands, all else being alike: told is whether they are hidden."""
+        # By these crews a run brings b to 0 and leaves c; they are unlike where b is 1, to which nothing leads.
+        one, other = [(("end", (0,)), ("read", "b", (("fail",), end))) for end in (("fail",), ("end", (1,)))]
+        hands = tuple([tuple([0 for event in log if event[0] == "set"]) for log in book])
+        for crews in ((one, other), (one, one), (other, other)):
+            pair = [(crew, (end,), hands, ((),)) for crew, end in zip(crews, ends)]
+            near = tuple(sorted({(a, 0, end[2]) for a in range(2) for end in ends}))
+            is_unlike = len({slow.answer(ROW, book, world, question) for world in pair}) == 2
+            with self.subTest(ends=ends, question=question, pair=pair):
+                for world, last in ((pair, near), (pair[::-1], near)):
+                    self.assertIs(shows_hidden(ROW, book, 0, question, (*world, last)), told and is_unlike)
+                # These are more stands than needed: with unlike crews runs are not alike at all of them.
+                is_fine = told and is_unlike and crews[0] == crews[1]
+                self.assertIs(shows_hidden(ROW, book, 0, question, (*pair, self.EVERY)), is_fine)
+                more = tuple(sorted(set(near) | {(a, 0, c) for a in range(2) for c in range(2)}))
+                self.assertIs(shows_hidden(ROW, book, 0, question, (*pair, more)), told and is_unlike)
+
+    def test_a_file_that_nobody_reads(self):
+        for question in (("stood", 0, 0, "c"), ("does", "mix", (("b", 1),)), ("uses", "mix", "b")):
+            self.look_at(((),), question, ((0, 0, 0), (0, 0, 1)), False)
+            self.look_at(((),), question, ((1, 0, 1), (1, 0, 0)), False)
+            self.look_at(((),), question, ((1, 0, 1), (1, 0, 1)), True)
+
+    def test_a_source(self):
+        for question in (("stood", 0, 0, "a"), ("does", "mix", (("b", 1),)), ("run", "mix", (0, 1, 0))):
+            self.look_at(((),), question, ((0, 0, 0), (1, 0, 0)), False)
+            self.look_at(((),), question, ((1, 0, 1), (0, 0, 1)), False)
+            self.look_at(((),), question, ((0, 0, 1), (0, 0, 1)), True)
+        # Each probe writes the source, so no run goes otherwise; a look alone tells the worlds apart.
+        hand = ((("set", "a", None),),)
+        crew = (("end", (0,)), ("end", (0,)))
+        pair = [(crew, ((0, 0, 0),), ((content,),), ((),)) for content in (0, 1)]
+        self.assertIs(shows_hidden(ROW, hand, 0, ("stood", 0, 1, "a"), (*pair, self.EVERY)), False)
+
+    def test_what_was_written_over(self):
+        # As soon as a hand wrote the same over what stood unlike, nothing tells the worlds apart.
+        for file, ends in (("a", ((0, 0, 0), (1, 0, 0))), ("c", ((1, 0, 0), (1, 0, 1)))):
+            question = ("stood", 0, 0, file)
+            self.look_at(((("set", file, 0),),), question, ends, True)
+            self.look_at(((("set", "b", 0),),), question, ends, False)
+
+    def test_hidden_tells_none(self):
+        for question in (("stood", 0, 0, "a"), ("stood", 0, 0, "c"), ("would", 0, "mix")):
+            self.assertIsNone(hidden(ROW, ((),), 0, question))
+            self.assertIs(shows_hidden(ROW, ((),), 0, question, None), True)
+        for book, file in ((((("set", "a", 0),),), "a"), (((("set", "c", 1),),), "c")):
+            one, other, stands = hidden(ROW, book, 0, ("stood", 0, 0, file))
+            lasts = [acting.last(ROW, book, world, 0) for world in (one, other)]
+            self.assertEqual(lasts[0], lasts[1])
+            self.assertIn(lasts[0], stands)
+            self.assertNotEqual(one[1], other[1])
+
+    def test_by_chance(self):
+        chance = random.Random(171)
+        many = 0
+        for _ in range(150):
+            work, book, log, room = chance_room(chance, 60)
+            question = chance_question(chance, work, book)
+            told = room.answers(question)
+            lasts = {world: acting.last(work, book, world, log) for world in room.worlds}
+            pairs = [(one, other) for one, other in itertools.permutations(room.worlds, 2)
+                     if told[one] != told[other] and lasts[one] != lasts[other]]
+            for one, other in chance.sample(pairs, min(len(pairs), 6)):
+                near = acting.closure(work, one[0], lasts[one]) | acting.closure(work, other[0], lasts[other])
+                for stands in (tuple(sorted(near)), tuple(slow.stands_of(work))):
+                    many += is_closed(room, one, other, stands)
+                    with self.subTest(text=work.text, book=book, log=log, question=question, one=one, other=other):
+                        self.assertIs(shows_hidden(work, book, log, question, (one, other, stands)), False)
+        # But for their ends so many of them would be taken.
+        self.assertGreater(many, 100)
 
 
 class WrongTest(unittest.TestCase):
