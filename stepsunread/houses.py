@@ -187,7 +187,7 @@ class House:
         """The innermost trial is kept: NoTrial."""
         if self.innermost is None:
             raise NoTrial(None)
-        self.innermost.is_kept = True
+        self.innermost.keeper = self
 
     def tried(self, look, *, is_kept=False):
         """What look, called with the house in a trial, returns."""

@@ -6,11 +6,12 @@ class Trial:
 
     def __init__(self, house):
         self.house = house
-        self.is_kept = False
+        # The house, as soon as it keeps the trial; None until then: __exit__ may only ask what is None.
+        self.keeper = None
 
     def __enter__(self):
         house = self.house
-        self.is_kept = False
+        self.keeper = None
         self.outer = house.innermost
         self.record = house.record
         self.past = house.past
@@ -23,7 +24,7 @@ class Trial:
 
     def __exit__(self, kind, value, trace):
         self.house.innermost = self.outer
-        if kind is not None or not self.is_kept:
+        if kind is not None or self.keeper is None:
             self.house.record = self.record
             self.house.past = self.past
             self.house.mill = self.mill

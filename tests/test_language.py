@@ -53,6 +53,48 @@ def called(node):
     return node.func.attr if isinstance(node.func, ast.Attribute) else None
 
 
+def asks_only_none(node):
+    """Whether a test asks of names and attributes no more than whether they are None."""
+    if isinstance(node, ast.BoolOp):
+        return all(map(asks_only_none, node.values))
+    if isinstance(node, ast.UnaryOp):
+        return isinstance(node.op, ast.Not) and asks_only_none(node.operand)
+    return (isinstance(node, ast.Compare) and isinstance(node.left, (ast.Name, ast.Attribute))
+            and len(node.ops) == 1 and isinstance(node.ops[0], (ast.Is, ast.IsNot))
+            and isinstance(node.comparators[0], ast.Constant) and node.comparators[0].value is None)
+
+
+def is_simple(node):
+    """Whether a value is a name, an attribute, a literal, or a list or tuple of such, or such + such."""
+    if isinstance(node, (ast.List, ast.Tuple)):
+        return all(map(is_simple, node.elts))
+    if isinstance(node, ast.BinOp):
+        return isinstance(node.op, ast.Add) and is_simple(node.left) and is_simple(node.right)
+    return isinstance(node, (ast.Name, ast.Attribute, ast.Constant))
+
+
+def is_row_of_exit(node):
+    """Whether a statement may stand in `__exit__`, in a package with classes that have `__eq__`."""
+    if isinstance(node, ast.If):
+        return asks_only_none(node.test) and all(map(is_row_of_exit, node.body + node.orelse))
+    if isinstance(node, ast.Assign):
+        return len(node.targets) == 1 and isinstance(node.targets[0], ast.Attribute) and is_simple(node.value)
+    if isinstance(node, ast.Return):
+        return node.value is None or (isinstance(node.value, ast.Constant) and node.value.value in (None, False))
+    return isinstance(node, ast.Pass)
+
+
+def breaks_exit(node):
+    """The rows of an `__exit__`, and the names it reads, that rule L6 does not allow."""
+    told = [row.lineno for row in node.body if not is_row_of_exit(row)]
+    asked = [part.left for part in ast.walk(node) if isinstance(part, ast.Compare)]
+    _, kind, *barred = [part.arg for part in node.args.args]
+    for part in ast.walk(node):
+        if isinstance(part, ast.Name) and (part.id in barred or (part.id == kind and part not in asked)):
+            told.append(part.lineno)
+    return told
+
+
 def bound_names(tree):
     """All names that are bound by parameters and assignments within functions, with their nodes."""
     for node in ast.walk(tree):
@@ -149,6 +191,31 @@ class LanguageTest(unittest.TestCase):
                     exponent = node.right if isinstance(node, ast.BinOp) else node.value
                     self.assertIsInstance(exponent, ast.Constant, (name, node.lineno))
                     self.assertIn(exponent.value, range(65), (name, node.lineno))
+
+    def test_managers(self):
+        found = []
+        for name, _, tree in modules():
+            for node in ast.walk(tree):
+                if isinstance(node, ast.FunctionDef) and node.name == "__exit__":
+                    found.append(name)
+                    self.assertEqual([len(node.args.args), node.args.vararg], [4, None], name)
+                    self.assertEqual(breaks_exit(node), [], name)
+                if isinstance(node, ast.Try):
+                    self.assertEqual(node.finalbody, [], (name, node.lineno))
+                for item in node.items if isinstance(node, ast.With) else []:
+                    self.assertIsInstance(item.context_expr, (ast.Call, ast.Name, ast.Attribute), (name, node.lineno))
+        self.assertEqual(found, ["trials.py"])
+
+    def test_what_exits_may_not_do(self):
+        head = "def __exit__(self, kind, value, trace):\n    "
+        for row in ("pass", "return", "return False", "self.a = self.b", "self.a = (self.b, [1])", "self.a.b = kept + 1",
+                    "if kind is not None or self.a is None: self.b = 0", "if not (kind is None and self.a is None): pass"):
+            self.assertEqual(breaks_exit(ast.parse(head + row).body[0]), [], row)
+        for row in ("return True", "return self.a", "self.shut()", "a = 1", "a[0] = 1", "self.a = self.b()", "del self.a",
+                    "if self.a: pass", "if not self.a: pass", "if kind is not None or not self.a: pass", "if kind: pass",
+                    "if self.a == 1: pass", "if self.a is True: pass", "if self.a is None: self.b = len(self.c)",
+                    "if value is None: pass", "self.a = kind", "self.a = trace", "for a in self.b: pass"):
+            self.assertEqual(breaks_exit(ast.parse(head + row).body[0])[:1], [2], row)
 
     def test_names(self):
         for name, text, tree in modules():
